@@ -1,0 +1,80 @@
+"""The interface of the document: names, arguments, default values, and where each thing is defined."""
+
+import importlib
+import inspect
+import unittest
+
+FUNCTIONS = {
+    "names": ["is_small_name(name)", "is_capital_name(name)", "fresh_name(stem, taken)"],
+    "terms": ["places_of(term)", "parts_of(term)", "unknowns_of(term)", "part_at(term, place)",
+              "replace_at(term, place, part)", "fill_term(term, filling)", "term_size(term)", "term_text(term)"],
+    "clauses": ["make_literal(sign, left, right)", "literal_text(literal)", "opposite(literal)",
+                "make_clause(literals)", "fill_clause(clause, filling)", "clause_text(clause)",
+                "clause_unknowns(clause)", "is_ground(clause)", "always_true(clause)"],
+    "sentences": ["free_unknowns(sentence)", "quantifier_depth(sentence)", "fill_sentence(sentence, filling)"],
+    "steps": ["fill_step(clause, pairs)", "replace_step(first, index, side, second, target, place)",
+              "drop_step(clause)", "factor_step(clause, index, side, target, target_side)", "either_step(literal)"],
+    "lines": ["first_wrong(signature, given, rows)", "judge_lines(signature, given, rows)", "cut_lines(rows)",
+              "given_used(rows)"],
+    "scanning": ["scan(text)"],
+    "reading": ["read_term(text, signature, unknowns=())", "read_sentence(text, signature, unknowns=())",
+                "read_book(text)"],
+    "writing": ["sentence_text(sentence)", "book_text(book)"],
+    "worlds": ["world_text(world)"],
+    "truth": ["term_value(world, term, values)", "sentence_true(world, sentence, values=None)",
+              "book_true(world, book)", "literal_true(world, literal, values)", "clause_true(world, clause)",
+              "clauses_true(world, clauses)", "false_values(world, clause)"],
+    "going": ["count_worlds(signature, size)", "world_number(world)", "world_at(signature, size, number)",
+              "worlds_of_size(signature, size)"],
+}
+METHODS = {
+    ("books", "Signature"): ["__init__(self, functions, relations)", "has(self, name)", "arity(self, name)",
+                             "constants(self)", "extended(self, functions)", "check_term(self, term, unknowns)",
+                             "check_sentence(self, sentence, unknowns=())"],
+    ("books", "Book"): ["__init__(self, signature, sentences)", "with_sentence(self, sentence)", "without(self, index)"],
+    ("worlds", "World"): ["__init__(self, signature, size, tables)", "value(self, name, args)",
+                          "holds(self, name, args)", "table(self, name)", "with_table(self, name, entries)"],
+    ("errors", "BadText"): ["__init__(self, line, column)"],
+}
+ERRORS = ["BadName", "BadArity", "UnknownName", "BadTerm", "BadSentence", "BadPlace", "BadStep", "BadWorld",
+          "BadOrder", "NotOfKind", "BadDeed", "BadText"]
+
+
+def module(name):
+    return importlib.import_module("worldorpaper." + name)
+
+
+class Interface(unittest.TestCase):
+    def test_functions(self):
+        for name, expected in FUNCTIONS.items():
+            for text in expected:
+                function = getattr(module(name), text.split("(")[0])
+                self.assertEqual(function.__name__ + str(inspect.signature(function)), text)
+                self.assertEqual(function.__module__, "worldorpaper." + name)
+
+    def test_methods(self):
+        for (name, owner), expected in METHODS.items():
+            for text in expected:
+                function = vars(getattr(module(name), owner))[text.split("(")[0]]
+                self.assertEqual(function.__name__ + str(inspect.signature(function)), text)
+
+    def test_class_methods_and_properties(self):
+        world = module("worlds").World
+        self.assertIsInstance(vars(world)["blank"], classmethod)
+        self.assertEqual(str(inspect.signature(world.blank)), "(signature, size)")
+        self.assertIsInstance(vars(world)["things"], property)
+
+    def test_generators(self):
+        self.assertTrue(inspect.isgeneratorfunction(module("going").worlds_of_size))
+
+    def test_top(self):
+        self.assertEqual(module("terms").TOP, ("",))
+
+    def test_errors(self):
+        errors = module("errors")
+        self.assertEqual(errors.WorldOrPaperError.__bases__, (ValueError,))
+        for name in ERRORS:
+            self.assertEqual(getattr(errors, name).__bases__, (errors.WorldOrPaperError,))
+        error = errors.BadText(3, 14)
+        self.assertEqual((error.line, error.column), (3, 14))
+        self.assertIsInstance(str(error), str)

@@ -1,0 +1,1 @@
+"""A world or a refutation for books of first-order sentences."""
