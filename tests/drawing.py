@@ -91,15 +91,16 @@ def state(thing):
 
 
 class Case(unittest.TestCase):
-    """A test case that also sees whether a call changes what it is passed."""
+    """A test case that also sees whether a call changes what it is passed or the object that it is called on."""
 
     def call(self, function, *args, **more):
-        before = state([args, more])
+        owner = getattr(function, "__self__", None)
+        before = state([owner, args, more])
         try:
             result = function(*args, **more)
             return list(result) if isinstance(result, types.GeneratorType) else result
         finally:
-            self.assertEqual(state([args, more]), before, "an argument was changed")
+            self.assertEqual(state([owner, args, more]), before, "an argument was changed")
 
     def gives(self, expected, function, *args, **more):
         """The call returns exactly this, kinds of values included."""

@@ -180,6 +180,16 @@ class CheckingSentences(Case):
                 self.fails(BadSentence, SIGNATURE.check_sentence, (word, name, ("holds", ("P", "w"))))
         self.fails(BadTerm, SIGNATURE.check_sentence, ("all", "x", ("and", ("holds", ("P", "w")), ("all", "a", Q))))
 
+    def test_functions_with_the_names_of_words(self):
+        signature = Signature([("holds", 1), ("same", 2), ("a", 0)], [("P", 1)])
+        term = ("holds", ("same", "x", A))
+        for basic in [("holds", ("P", term)), ("same", term, ("same", term, term))]:
+            self.gives(None, signature.check_sentence, ("all", "x", basic))
+            self.fails(BadTerm, signature.check_sentence, ("all", "y", basic))
+            self.fails(BadSentence, signature.check_sentence, ("all", "same", basic))
+        self.fails(BadTerm, signature.check_sentence, ("same", ("holds", A, A), A))
+        self.fails(BadTerm, signature.check_sentence, ("holds", ("P", ("same", A))))
+
     def test_binding_ends(self):
         px = ("holds", ("P", "x"))
         self.fails(BadTerm, SIGNATURE.check_sentence, ("and", ("all", "x", px), px))

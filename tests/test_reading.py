@@ -193,6 +193,12 @@ class SimpleSentences(Readers):
         self.gives(("all", "x", P), read_sentence, "all x. P(x)", SIGNATURE, ["x"])
         self.gives(("all", "x" * 12, Q), read_sentence, "all xxxxxxxxxxxx. Q", SIGNATURE)
 
+    def test_functions_with_the_names_of_words(self):
+        signature = Signature([("holds", 1), ("same", 2), ("a", 0)], [("P", 1)])
+        self.gives(("all", "x", ("holds", ("P", ("holds", ("same", "x", A))))),
+                   read_sentence, "all x. P(holds(same(x, a)))", signature)
+        self.gives(("same", ("holds", A), A), read_sentence, "holds(a) = a", signature)
+
     def test_binding_ends(self):
         self.fails_at(1, 20, read_sentence, "(all x. P(x)) or P(x)", SIGNATURE)
         self.gives(("or", ("all", "x", P), P), read_sentence, "(all x. P(x)) or P(x)", SIGNATURE, ["x"])

@@ -1,7 +1,7 @@
 import random
 
 from tests.drawing import SIGNATURE, Case, draw_sentence, draw_term, draw_world
-from worldorpaper.sentences import fill_sentence, free_unknowns, quantifier_depth
+from worldorpaper.sentences import fill_sentence, free_unknowns, inner_sentences, quantifier_depth
 from worldorpaper.terms import unknowns_of
 from worldorpaper.truth import sentence_true, term_value
 
@@ -74,6 +74,28 @@ class FreeUnknowns(Case):
             sentence = draw_sentence(rng, 5)
             expected = list(dict.fromkeys(unbound_occurrences(sentence, frozenset())))
             self.gives(expected, free_unknowns, sentence)
+
+
+    def test_functions_with_the_names_of_words(self):
+        basic = ("holds", ("P", ("holds", ("same", "x", "y"))))
+        self.gives(["x", "y"], free_unknowns, basic)
+        self.gives(["same", "y"], free_unknowns, ("same", ("same", "same", "y"), ("holds", "same")))
+        self.gives(["y"], free_unknowns, ("all", "same", ("same", ("same", "same", "y"), ("holds", "same"))))
+        self.gives(1, quantifier_depth, ("all", "x", basic))
+        self.gives(("holds", ("P", ("holds", ("same", A, "y")))), fill_sentence, basic, {"x": A})
+
+
+class Inside(Case):
+    """Point 6: the sentences directly inside a sentence."""
+
+    def test_inside(self):
+        for basic in (PX, Q, ("same", A, "x"), ("same", ("holds", "x"), ("same", "x", "y"))):
+            self.gives((), inner_sentences, basic)
+        self.gives((PX,), inner_sentences, ("not", PX))
+        for word in ("all", "some"):
+            self.gives((PX,), inner_sentences, (word, "x", PX))
+        for word in PAIRS:
+            self.gives((PX, Q), inner_sentences, (word, PX, Q))
 
 
 class Depth(Case):

@@ -60,6 +60,8 @@ class FillStep(Case):
         for first in [A, 3, None, ("x",), True, b"x"]:
             self.fails(BadStep, fill_step, start, [(first, A)])
             self.fails(BadStep, fill_step, start, [("x", A), (first, A)])
+        for term in [("A",), ("Zebra", A), ("AZ", "x"), ("Z9",), ("f", ("A", A)), ("f", ("Zz",))]:
+            self.fails(BadStep, fill_step, start, [("x", term)])
         for term in [TOP, PA, Q, ("f", TOP), ("f", PA), ("g", A, ("f", Q)), ("g", ("f", TOP), A)]:
             self.fails(BadStep, fill_step, start, [("x", term)])
             self.fails(BadStep, fill_step, start, (("x", A), ("w", term)))
@@ -261,6 +263,9 @@ class EitherStep(Case):
             self.gives(clause((True, PA, TOP), (False, PA, TOP)), either_step, (sign, TOP, PA))
             self.gives(clause((True, Q, TOP), (False, Q, TOP)), either_step, (sign, TOP, Q))
             self.gives(clause((True, "x", FA), (False, "x", FA)), either_step, (sign, "x", FA))
+            for atom in [("A",), ("Zebra", A), ("AZ", "x"), ("Z9", FA)]:
+                self.gives(clause((True, atom, TOP), (False, atom, TOP)), either_step, (sign, atom, TOP))
+                self.fails(BadStep, either_step, (sign, atom, A))
             self.gives(((False, A, A), (True, A, A)), either_step, (sign, A, A))
 
     def test_drawn(self):

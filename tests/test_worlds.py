@@ -105,7 +105,7 @@ class BadWorlds(Case):
         self.fails(BadWorld, World, PAIR, 3, TABLES)
 
     def test_entries_that_are_no_things(self):
-        for entry in (-1, 2, 3, -2, True, False):
+        for entry in (-1, 2, 3, -2, True, False, None, "0", (0,)):
             self.fails(BadWorld, World, PAIR, 2, with_tables(a=[entry]))
             self.fails(BadWorld, World, PAIR, 2, with_tables(f=[entry, 0]))
             self.fails(BadWorld, World, PAIR, 2, with_tables(f=[0, entry]))
