@@ -26,6 +26,16 @@ FUNCTIONS = {
               "clauses_true(world, clauses)", "false_values(world, clause)"],
     "going": ["count_worlds(signature, size)", "world_number(world)", "world_at(signature, size, number)",
               "worlds_of_size(signature, size)"],
+    "likeness": ["renamed(world, places)", "least_form(world)", "reduct(world, signature)",
+                 "expanded(world, signature, tables)", "alike(first, second)"],
+    "shaping": ["negation_form(sentence)", "step_result(word, sentence, place, name='')", "negation_steps(sentence)",
+                "narrowing_steps(sentence)"],
+    "forms": ["spread(sentence)", "form_of(book)"],
+    "choices": ["with_choices(world, form)"],
+    "formsteps": ["first_wrong_step(book, steps)", "judge_form(book, steps, clauses)"],
+    "matching": ["match_term(pattern, term, filling=None)", "match_literal(pattern, literal, filling=None)",
+                 "subsumes(first, second)", "variants(first, second)", "unify(*terms)"],
+    "reducing": ["needed_clauses(clauses)"],
 }
 METHODS = {
     ("books", "Signature"): ["__init__(self, functions, relations)", "has(self, name)", "arity(self, name)",
@@ -35,7 +45,9 @@ METHODS = {
     ("worlds", "World"): ["__init__(self, signature, size, tables)", "value(self, name, args)",
                           "holds(self, name, args)", "table(self, name)", "with_table(self, name, entries)"],
     ("errors", "BadText"): ["__init__(self, line, column)"],
+    ("forms", "Form"): ["__init__(self, book)", "__iter__(self)"],
 }
+GENERATORS = [("going", "worlds_of_size"), ("shaping", "negation_steps"), ("shaping", "narrowing_steps")]
 ERRORS = ["BadName", "BadArity", "UnknownName", "BadTerm", "BadSentence", "BadPlace", "BadStep", "BadWorld",
           "BadOrder", "NotOfKind", "BadDeed", "BadText"]
 
@@ -65,7 +77,8 @@ class Interface(unittest.TestCase):
         self.assertIsInstance(vars(world)["things"], property)
 
     def test_generators(self):
-        self.assertTrue(inspect.isgeneratorfunction(module("going").worlds_of_size))
+        for name, function in GENERATORS:
+            self.assertTrue(inspect.isgeneratorfunction(getattr(module(name), function)), function)
 
     def test_top(self):
         self.assertEqual(module("terms").TOP, ("",))

@@ -94,7 +94,13 @@ class Language(unittest.TestCase):
                     self.assertEqual(place, 0, self.at(path, node))
                 elif isinstance(node, ast.Assign):
                     self.assertIsInstance(node.targets[0], ast.Name)
-                    ast.literal_eval(node.value)
+                    table = isinstance(node.value, ast.Dict) and {value.id for value in node.value.values
+                                                                  if isinstance(value, ast.Name)}
+                    if table:
+                        self.assertLessEqual(table, {other.name for other in tree.body[:place]
+                                                     if isinstance(other, ast.FunctionDef)}, self.at(path, node))
+                    else:
+                        ast.literal_eval(node.value)
                     names.append(node.targets[0].id)
                 elif isinstance(node, ast.ImportFrom):
                     self.assertTrue(all(isinstance(other, (ast.ImportFrom, ast.Expr)) for other in tree.body[:place]))
@@ -166,6 +172,43 @@ class Language(unittest.TestCase):
             for star in node.args:
                 if isinstance(star, ast.Starred):
                     self.assertIsInstance(star.value, ast.Name, self.at(path, node))
+
+    def test_ranges_and_views_stand_where_they_may(self):
+        spot = ("list", "tuple", "dict", "sorted", "sum", "any", "all", "enumerate", "zip", "min", "max", "len", "reversed",
+                "permutations", "combinations", "product")
+        for path, tree in TREES.items():
+            above = {child: node for node in ast.walk(tree) for child in ast.iter_child_nodes(node)}
+            for node in ast.walk(tree):
+                if not isinstance(node, ast.Call):
+                    continue
+                word = node.func.id if isinstance(node.func, ast.Name) else getattr(node.func, "attr", "")
+                if word not in ("range", "zip", "enumerate", "reversed", "items", "keys", "values"):
+                    continue
+                holder = above[node]
+                where = self.at(path, node)
+                if isinstance(holder, (ast.For, ast.comprehension)):
+                    self.assertIs(holder.iter, node, where)
+                elif isinstance(holder, ast.Compare):
+                    self.assertTrue(isinstance(holder.ops[0], (ast.In, ast.NotIn)) and word in ("range", "keys"), where)
+                elif isinstance(holder, ast.Attribute) or isinstance(holder, ast.Call) and holder.func is node:
+                    self.fail(where)
+                elif isinstance(holder, ast.Call) and isinstance(holder.func, ast.Name) and holder.func.id == "iter":
+                    self.assertEqual(word, "items", where)
+                else:
+                    self.assertIsInstance(holder, ast.Call, where)
+                    self.assertIn(holder.func.id, spot, where)
+                    if holder.func.id in ("min", "max"):
+                        self.assertTrue(all(keyword.arg == "default" for keyword in holder.keywords), where)
+
+    def test_set_methods(self):
+        # A class has a method `add`, so no set is added to by that word.
+        for path, function in nodes(ast.FunctionDef):
+            stored = {node.targets[0].id for node in ast.walk(function) if isinstance(node, ast.Assign)
+                      and isinstance(node.targets[0], ast.Name) and ast.unparse(node.value).startswith(("set(", "{"))
+                      and not isinstance(node.value, (ast.Dict, ast.DictComp))}
+            for node in ast.walk(function):
+                if isinstance(node, ast.Attribute) and node.attr in ("add", "discard"):
+                    self.assertNotIn(getattr(node.value, "id", ""), stored, self.at(path, node))
 
     def test_attributes(self):
         assigned = {node.attr for _, node in nodes(ast.Attribute) if isinstance(node.ctx, ast.Store)}

@@ -50,3 +50,23 @@ def fill_sentence(sentence, filling):
         unhidden = {key: filling[key] for key in filling if key != name}
         return (word, name, fill_sentence(sentence[2], unhidden))
     return (word,) + tuple([fill_sentence(part, filling) for part in sentence[1:]])
+
+
+def is_free(name, sentence):
+    """Tells whether an unknown occurs unbound."""
+    if sentence[0] in BASIC:
+        return any([name in unknowns_of(term) for term in sentence[1:]])
+    if sentence[0] in BINDERS and sentence[1] == name:
+        return False
+    return any(is_free(name, part) for part in inner_sentences(sentence))
+
+
+def bound_names(sentence):
+    """The names that stand behind binders, without duplicates."""
+    found = {}
+    if sentence[0] in BINDERS:
+        found[sentence[1]] = True
+    for part in inner_sentences(sentence):
+        for name in bound_names(part):
+            found[name] = True
+    return list(found)

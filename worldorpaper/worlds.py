@@ -90,6 +90,17 @@ def table_length(size, arity):
     return length
 
 
+def thing_rows(size, length):
+    """Yields the tuples of so many things in ascending order."""
+    for number in range(table_length(size, length)):
+        row = []
+        rest = number
+        for _ in range(length):
+            rest, thing = divmod(rest, size)
+            row.append(thing)
+        yield tuple(row[::-1])
+
+
 def world_text(world):
     """The text of a world."""
     names = [name for name, _ in world.signature.functions + world.signature.relations]

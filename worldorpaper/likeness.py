@@ -1,0 +1,87 @@
+"""Worlds that are alike, and worlds with fewer or more tables."""
+
+from itertools import permutations
+
+from worldorpaper.errors import BadWorld
+from worldorpaper.worlds import World, thing_rows
+
+
+def renamed(world, places):
+    """The world in which each thing has become the one at its index in places."""
+    if sorted(places) != list(range(world.size)):
+        raise BadWorld("the places are not a renaming")
+    tables = {name: _renamed_table(world, name, places) for name in _names(world.signature)}
+    return World(world.signature, world.size, tables)
+
+
+def alike(first, second):
+    """Tells whether some renaming of the first world has the tables of the second one."""
+    if not _same_lists(first.signature, second.signature) or first.size != second.size:
+        return False
+    for places in permutations(range(first.size)):
+        if _compare_tables(first, places, second) == 0:
+            return True
+    return False
+
+
+def least_form(world):
+    """The renamed world with the least number."""
+    least = world
+    for places in permutations(range(world.size)):
+        if _compare_tables(world, places, least) < 0:
+            least = renamed(world, places)
+    return least
+
+
+def reduct(world, signature):
+    """The world with the tables for the names of the signature alone."""
+    _check_listed(signature, world.signature)
+    tables = {name: world.table(name) for name in _names(signature)}
+    return World(signature, world.size, tables)
+
+
+def expanded(world, signature, tables):
+    """The world over the signature with further tables."""
+    _check_listed(world.signature, signature)
+    own = {name: world.table(name) for name in _names(world.signature)}
+    for name in tables:
+        if name in own:
+            raise BadWorld("the world has a table of the name")
+    return World(signature, world.size, {**own, **tables})
+
+
+def _names(signature):
+    return [name for name, _ in signature.functions + signature.relations]
+
+
+def _same_lists(first, second):
+    return first.functions == second.functions and first.relations == second.relations
+
+
+def _check_listed(small, great):
+    for name, arity in small.functions + small.relations:
+        if not great.has(name) or great.arity(name) != arity:
+            raise BadWorld("a name is not listed with the same arity")
+
+
+def _renamed_table(world, name, places):
+    """The entries of a name in the renamed world."""
+    table = world.table(name)
+    entries = list(table)
+    for row, entry in zip(thing_rows(world.size, world.signature.arity(name)), table):
+        index = 0
+        for thing in row:
+            index = index * world.size + places[thing]
+        entries[index] = places[entry] if world.signature.has_function(name) else entry
+    return entries
+
+
+def _compare_tables(world, places, other):
+    """Tells whether the renamed world has the number of the other one (0), a less (-1) or a greater one (1)."""
+    # Most renamings differ in an early table, so the later ones are seldom made.
+    for name in _names(world.signature):
+        entries = _renamed_table(world, name, places)
+        wanted = list(other.table(name))
+        if entries != wanted:
+            return -1 if entries < wanted else 1
+    return 0
