@@ -5,6 +5,7 @@ import unittest
 
 from worldorpaper.books import Signature
 from worldorpaper.clauses import make_clause, make_literal
+from worldorpaper.orders import Order
 from worldorpaper.terms import TOP
 from worldorpaper.worlds import World
 
@@ -12,6 +13,7 @@ SIGNATURE = Signature(
     [("a", 0), ("b", 0), ("f", 1), ("g", 2), ("h", 3)],
     [("Q", 0), ("P", 1), ("R", 2), ("S", 3)],
 )
+GROUND = Signature([("a", 0), ("b", 0), ("c", 0), ("f", 1), ("g", 2)], [("Q", 0), ("P", 1), ("R", 2)])
 UNKNOWNS = ("x", "y", "z")
 PAIRS = ("and", "or", "implies", "iff")
 
@@ -51,6 +53,37 @@ def dense_clause(rng, most):
             sides = [("P", sides[0]), TOP]
         literals.append(make_literal(rng.random() < 0.7, *sides))
     return make_clause(literals)
+
+
+def ground_clauses(rng, count, most, constants="abc"):
+    """Clauses without unknowns, of so few sides that much can be inferred from them."""
+    terms = [(name,) for name in constants]
+    terms += [("f", term) for term in terms] + [("f", ("f", terms[0])), ("g", terms[0], terms[1])]
+    atoms = [("Q",)] + [("P", term) for term in terms[:4]] + [("R", terms[0], terms[1]), ("R", terms[1], terms[0])]
+    return clauses_over(rng, count, most, terms, atoms)
+
+
+def close_clauses(rng, count, most):
+    """Clauses without unknowns, of still fewer sides, so that they are often at odds."""
+    terms = [("a",), ("b",), ("c",), ("f", ("a",))]
+    return clauses_over(rng, count, most, terms, [("P", terms[0]), ("P", terms[3])])
+
+
+def clauses_over(rng, count, most, terms, atoms):
+    clauses = []
+    for _ in range(count):
+        literals = []
+        for _ in range(rng.randint(1, most)):
+            sides = (rng.choice(atoms), TOP) if rng.random() < 0.35 else (rng.choice(terms), rng.choice(terms))
+            literals.append(make_literal(rng.random() < 0.6, *sides))
+        clauses.append(make_clause(literals))
+    return clauses
+
+
+def draw_order(rng, signature):
+    names = [name for name, _ in signature.functions + signature.relations]
+    heaviest = rng.choice((1, 3, 9))
+    return Order(signature, {name: rng.randint(1, heaviest) for name in names}, rng.sample(names, len(names)))
 
 
 def draw_sentence(rng, depth, unknowns=UNKNOWNS, names=UNKNOWNS):

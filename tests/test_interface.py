@@ -36,6 +36,17 @@ FUNCTIONS = {
     "matching": ["match_term(pattern, term, filling=None)", "match_literal(pattern, literal, filling=None)",
                  "subsumes(first, second)", "variants(first, second)", "unify(*terms)"],
     "reducing": ["needed_clauses(clauses)"],
+    "orders": ["plain_order(signature)", "sorted_terms(order, sides)"],
+    "clauseorders": ["compare_literals(order, one, two, /)", "compare_clauses(order, one, two, /)",
+                     "greater_side(order, literal)", "greatest_index(order, clause)", "descending(order, clause)",
+                     "sorted_clauses(order, clauses)"],
+    "rewriting": ["normal(rules, side, /)", "true_by(rules, clause)"],
+    "inferring": ["head_of(order, clause)", "join(order, first, second)", "factors(order, clause)",
+                  "needless(clauses, clause)", "covered(order, clauses, clause)", "is_saturated(order, clauses)",
+                  "simpler(order, clauses, clause)", "simplify(clauses, clause, step)"],
+    "hearts": ["saturate(signature, order, clauses, *, picks=())", "refutation(heart)"],
+    "groundworlds": ["rules_of(order, clauses)", "world_of(signature, order, clauses)"],
+    "partial": ["instances(clauses, size)"],
 }
 METHODS = {
     ("books", "Signature"): ["__init__(self, functions, relations)", "has(self, name)", "arity(self, name)",
@@ -46,8 +57,16 @@ METHODS = {
                           "holds(self, name, args)", "table(self, name)", "with_table(self, name, entries)"],
     ("errors", "BadText"): ["__init__(self, line, column)"],
     ("forms", "Form"): ["__init__(self, book)", "__iter__(self)"],
+    ("orders", "Order"): ["__init__(self, signature, weights, ranking)", "weight(self, side)",
+                          "is_greater(self, one, other)", "compare(self, one, other)"],
+    ("hearts", "Heart"): ["__init__(self, signature, order, picks=())", "add(self, clause)", "step(self)",
+                          "has_ended(self)"],
+    ("partial", "Partial"): ["__init__(self, signature, clauses)", "__iter__(self)", "is_free(self, cell)",
+                             "ways(self, cell)", "with_cell(self, cell, entry)", "read_term(self, term, values)",
+                             "read_literal(self, literal, values)", "read_clause(self, clause, values)"],
 }
-GENERATORS = [("going", "worlds_of_size"), ("shaping", "negation_steps"), ("shaping", "narrowing_steps")]
+GENERATORS = [("going", "worlds_of_size"), ("shaping", "negation_steps"), ("shaping", "narrowing_steps"),
+              ("inferring", "factors"), ("partial", "instances")]
 ERRORS = ["BadName", "BadArity", "UnknownName", "BadTerm", "BadSentence", "BadPlace", "BadStep", "BadWorld",
           "BadOrder", "NotOfKind", "BadDeed", "BadText"]
 
@@ -75,6 +94,11 @@ class Interface(unittest.TestCase):
         self.assertIsInstance(vars(world)["blank"], classmethod)
         self.assertEqual(str(inspect.signature(world.blank)), "(signature, size)")
         self.assertIsInstance(vars(world)["things"], property)
+        order = module("orders").Order
+        self.assertIsInstance(vars(order)["ranked"], classmethod)
+        self.assertEqual(str(inspect.signature(order.ranked)), "(signature, ranking)")
+        self.assertEqual((vars(order)["LIGHTEST"], vars(order)["HEAVIEST"]), (1, 9))
+        self.assertIsInstance(vars(module("hearts").Heart)["kept_clauses"], property)
 
     def test_generators(self):
         for name, function in GENERATORS:

@@ -220,6 +220,9 @@ class Language(unittest.TestCase):
                       if isinstance(node, ast.Attribute) and isinstance(node.ctx, ast.Store)}
             self.assertFalse(stored & set(names), owner.name)
             methods.update({name: owner.name for name in names})
+            values = {node.targets[0].id for node in owner.body if isinstance(node, ast.Assign)}
+            self.assertFalse(values & (stored | set(names)), owner.name)
+            assigned |= values
         for path, node in nodes(ast.Attribute):
             self.assertIn(node.attr, assigned | set(methods) | METHODS, self.at(path, node))
 

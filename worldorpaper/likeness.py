@@ -67,8 +67,9 @@ def _check_listed(small, great):
 def _renamed_table(world, name, places):
     """The entries of a name in the renamed world."""
     table = world.table(name)
+    arity = world.signature.arity(name)
     entries = list(table)
-    for row, entry in zip(thing_rows(world.size, world.signature.arity(name)), table):
+    for row, entry in zip(thing_rows(world.size, arity), table):
         index = 0
         for thing in row:
             index = index * world.size + places[thing]

@@ -71,7 +71,8 @@ class TermClasses:
         # Every round but the idle ones makes two classes one, so equal parts are not gone through again and again.
         due = [(first, second)]
         while due:
-            one, other = [self._head(node) for node in due.pop()]
+            one_node, other_node = due.pop()
+            one, other = self._head(one_node), self._head(other_node)
             mine, yours = self._applications[one], self._applications[other]
             if one != other:
                 self._heads[one] = other
