@@ -18,6 +18,19 @@ UNKNOWNS = ("x", "y", "z")
 PAIRS = ("and", "or", "implies", "iff")
 
 
+def yes(left, right=TOP):
+    return make_literal(True, left, right)
+
+
+def no(left, right=TOP):
+    return make_literal(False, left, right)
+
+
+def clause(*literals):
+    """The clause of literals whose sides may stand in any order."""
+    return make_clause([make_literal(*literal) for literal in literals])
+
+
 def draw_term(rng, depth, unknowns=UNKNOWNS, signature=SIGNATURE):
     constants = [(name,) for name, arity in signature.functions if arity == 0]
     deeper = [(name, arity) for name, arity in signature.functions if arity > 0]

@@ -1,7 +1,7 @@
 import itertools
 import random
 
-from tests.drawing import GROUND, Case, draw_order, ground_clauses
+from tests.drawing import GROUND, Case, draw_order, ground_clauses, no, yes
 from worldorpaper.books import Signature
 from worldorpaper.clauseorders import (compare_clauses, compare_literals, descending, greater_side, greatest_index,
                                        sorted_clauses)
@@ -11,14 +11,6 @@ from worldorpaper.terms import TOP, places_of, replace_at
 
 A, B, C, FA = ("a",), ("b",), ("c",), ("f", ("a",))
 PLAIN = plain_order(GROUND)
-
-
-def yes(left, right=TOP):
-    return make_literal(True, left, right)
-
-
-def no(left, right=TOP):
-    return make_literal(False, left, right)
 
 
 def bag(order, literal):

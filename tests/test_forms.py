@@ -1,7 +1,7 @@
 import itertools
 import random
 
-from tests.drawing import SIGNATURE, Case, draw_sentence, state
+from tests.drawing import SIGNATURE, Case, clause, draw_sentence, state
 from worldorpaper.books import Book, Signature
 from worldorpaper.clauses import clause_text, clause_unknowns, make_clause, make_literal
 from worldorpaper.errors import BadArity, BadSentence, BadStep
@@ -14,10 +14,6 @@ from worldorpaper.terms import TOP
 
 A = ("a",)
 P, Q, S = ("holds", ("P", "x")), ("holds", ("Q",)), ("same", "y", A)
-
-
-def clause(*literals):
-    return make_clause([make_literal(*literal) for literal in literals])
 
 
 def binders_in(sentence, words=("all", "some"), place=()):

@@ -94,6 +94,10 @@ class Wrong(Case):
                 self.gives(at, first_wrong_step, form.book, steps)
                 self.gives(False, judge_form, form.book, steps, form.clauses)
             self.gives(False, judge_form, form.book, form.steps[:-1], form.clauses)
+            # A wrong row counts also where the sentences before it are those of the clauses.
+            for row in [(0, "none", (), "", Q), (0, "not", (), "", Q), (-1, "free", (), "", Q)]:
+                self.gives(len(form.steps), first_wrong_step, form.book, form.steps + (row,))
+                self.gives(False, judge_form, form.book, form.steps + (row,), form.clauses)
             self.assertIsNotNone(first_wrong_step(form.book, form.steps[::-1] + form.steps[:1]))
 
     def test_spoilt_clauses(self):

@@ -1,10 +1,9 @@
 import itertools
 import random
 
-from tests.drawing import GROUND, Case, close_clauses, draw_order, ground_clauses, state
+from tests.drawing import GROUND, Case, clause, close_clauses, draw_order, ground_clauses, no, state, yes
 from worldorpaper.books import Signature
 from worldorpaper.clauseorders import compare_clauses, descending, sorted_clauses
-from worldorpaper.clauses import make_clause, make_literal
 from worldorpaper.groundworlds import rules_of, world_of
 from worldorpaper.hearts import saturate
 from worldorpaper.orders import Order, plain_order, sorted_terms
@@ -15,18 +14,6 @@ from worldorpaper.worlds import World
 
 A, B, C, FA, FB = ("a",), ("b",), ("c",), ("f", ("a",)), ("f", ("b",))
 PLAIN = plain_order(GROUND)
-
-
-def yes(left, right=TOP):
-    return make_literal(True, left, right)
-
-
-def no(left, right=TOP):
-    return make_literal(False, left, right)
-
-
-def clause(*literals):
-    return make_clause(literals)
 
 
 def plain_rules(order, clauses):

@@ -1,7 +1,6 @@
 import random
 
-from tests.drawing import GROUND, Case, close_clauses, draw_order, ground_clauses, state
-from worldorpaper.clauses import make_clause, make_literal
+from tests.drawing import GROUND, Case, clause, close_clauses, draw_order, ground_clauses, no, state, yes
 from worldorpaper.errors import BadStep
 from worldorpaper.groundworlds import world_of
 from worldorpaper.hearts import Heart, refutation, saturate
@@ -15,18 +14,6 @@ from worldorpaper.truth import clauses_true
 A, B, C, FA = ("a",), ("b",), ("c",), ("f", ("a",))
 PLAIN = plain_order(GROUND)
 PICKS = [(), (0,), (1,), (2, 0, 5), (7, 3)]
-
-
-def yes(left, right=TOP):
-    return make_literal(True, left, right)
-
-
-def no(left, right=TOP):
-    return make_literal(False, left, right)
-
-
-def clause(*literals):
-    return make_clause(literals)
 
 
 class PlainHeart:

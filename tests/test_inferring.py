@@ -1,7 +1,7 @@
 import itertools
 import random
 
-from tests.drawing import GROUND, Case, draw_order, ground_clauses, state
+from tests.drawing import GROUND, Case, clause, draw_order, ground_clauses, no, state, yes
 from worldorpaper.books import Signature
 from worldorpaper.clauseorders import compare_clauses, compare_literals
 from worldorpaper.clauses import always_true, make_clause, make_literal
@@ -13,18 +13,6 @@ from worldorpaper.terms import TOP, part_at, places_of
 A, B, C, FA, FB, FFA = ("a",), ("b",), ("c",), ("f", ("a",)), ("f", ("b",)), ("f", ("f", ("a",)))
 Q, PA, PB = ("Q",), ("P", ("a",)), ("P", ("b",))
 PLAIN = plain_order(GROUND)
-
-
-def yes(left, right=TOP):
-    return make_literal(True, left, right)
-
-
-def no(left, right=TOP):
-    return make_literal(False, left, right)
-
-
-def clause(*literals):
-    return make_clause(literals)
 
 
 def index_of(one, literal):

@@ -161,6 +161,17 @@ class Reduct(Case):
                                      ([], [("R", 1)]), ([("a", 0), ("f", 2)], []), ([("a", 0)], [("Q", 0), ("R", 3)])]:
             self.fails(BadWorld, reduct, world, Signature(functions, relations))
 
+    def test_other_arities_in_a_world_of_one_thing(self):
+        # With one thing, tables have one entry whatever the arity is.
+        world = World.blank(MIDDLE, 1)
+        for functions, relations in [([("a", 1)], []), ([("f", 0)], []), ([], [("Q", 1)]), ([], [("R", 1)])]:
+            self.fails(BadWorld, reduct, world, Signature(functions, relations))
+            self.fails(BadWorld, expanded, reduct(world, Signature([], [])), Signature(functions, relations), {})
+        self.gives(World.blank(Signature([("f", 1)], []), 1), reduct, world, Signature([("f", 1)], []))
+        small = World.blank(Signature([("f", 1)], [("Q", 0)]), 1)
+        for functions, relations in [([("f", 0)], [("Q", 0)]), ([("f", 2)], [("Q", 0)]), ([("f", 1)], [("Q", 1)])]:
+            self.fails(BadWorld, expanded, small, Signature(functions, relations), {})
+
     def test_expanded(self):
         small = Signature([("f", 1)], [("Q", 0)])
         world = World(small, 2, {"f": [1, 0], "Q": [True]})

@@ -1,6 +1,6 @@
 import random
 
-from tests.drawing import SIGNATURE, Case, dense_clause, draw_literal, draw_term, state
+from tests.drawing import SIGNATURE, Case, clause, dense_clause, draw_literal, draw_term, state
 from worldorpaper.clauses import make_clause, make_literal
 from worldorpaper.errors import BadStep
 from worldorpaper.lines import cut_lines, first_wrong, given_used, judge_lines
@@ -11,10 +11,6 @@ from worldorpaper.truth import clauses_true
 
 A, B = ("a",), ("b",)
 FA, FB = ("f", A), ("f", B)
-
-
-def clause(*literals):
-    return make_clause([make_literal(*literal) for literal in literals])
 
 
 PX, NOT_PFA = clause((True, ("P", "x"), TOP)), clause((False, ("P", FA), TOP))

@@ -1,9 +1,9 @@
 import itertools
 import random
 
-from tests.drawing import Case, dense_clause, draw_atom, draw_clause, draw_literal, draw_term, draw_world
+from tests.drawing import Case, clause, dense_clause, draw_atom, draw_clause, draw_literal, draw_term, draw_world
 from worldorpaper.books import Signature
-from worldorpaper.clauses import clause_unknowns, fill_clause, make_clause, make_literal
+from worldorpaper.clauses import clause_unknowns, fill_clause, make_clause
 from worldorpaper.matching import match_literal, match_term, subsumes, unify, variants
 from worldorpaper.terms import TOP, fill_term, part_at, places_of, unknowns_of
 from worldorpaper.truth import clause_true
@@ -11,10 +11,6 @@ from worldorpaper.truth import clause_true
 A, B = ("a",), ("b",)
 FA, FX = ("f", A), ("f", "x")
 FEW = Signature([("a", 0), ("g", 2)], [])
-
-
-def clause(*literals):
-    return make_clause([make_literal(*literal) for literal in literals])
 
 
 def is_term(side):
@@ -91,6 +87,8 @@ class MatchTerm(Case):
         self.gives(None, match_term, FA, ("f", B))
         self.gives(None, match_term, FX, "x")
         self.gives(None, match_term, A, "x")
+        # An unknown is no application of a function with its first letter.
+        self.gives(None, match_term, ("f", "x"), "fa")
         self.gives(None, match_term, FX, ("h", A))
         self.gives(None, match_term, A, FA)
 

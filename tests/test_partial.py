@@ -1,9 +1,9 @@
 import itertools
 import random
 
-from tests.drawing import SIGNATURE, Case, draw_atom, draw_clause, draw_term, draw_world, state
+from tests.drawing import SIGNATURE, Case, clause, draw_atom, draw_clause, draw_term, draw_world, no, state, yes
 from worldorpaper.books import Signature
-from worldorpaper.clauses import clause_unknowns, make_clause, make_literal
+from worldorpaper.clauses import clause_unknowns, make_literal
 from worldorpaper.errors import BadWorld
 from worldorpaper.partial import Partial, instances
 from worldorpaper.terms import TOP
@@ -11,18 +11,6 @@ from worldorpaper.truth import clause_true, literal_true, term_value
 
 A, B = ("a",), ("b",)
 CA, CB, CQ = ("a", ()), ("b", ()), ("Q", ())
-
-
-def yes(left, right=TOP):
-    return make_literal(True, left, right)
-
-
-def no(left, right=TOP):
-    return make_literal(False, left, right)
-
-
-def clause(*literals):
-    return make_clause(literals)
 
 
 def grown(*rows, clauses=()):
@@ -88,6 +76,8 @@ class Start(Case):
                               ([clause(yes(B, B)), clause(yes(("Q",)), no(("P", ("f", A))))], "a")]:
             self.assertEqual(list(self.call(Partial, SIGNATURE, clauses)), [((name, ()), 0)])
             self.assertEqual(list(self.call(Partial, SIGNATURE, tuple(clauses))), [((name, ()), 0)])
+        # The first letter of an unknown is no constant.
+        self.assertEqual(list(Partial(SIGNATURE, [clause(yes(B, "a1"), no("a1", "a2"))])), [(CB, 0)])
         turned = Signature([("f", 1), ("b", 0), ("a", 0)], [])
         self.assertEqual(list(Partial(turned, [clause(yes(A, B))])), [(CB, 0)])
 

@@ -16,4 +16,5 @@ class Readme(unittest.TestCase):
                 with contextlib.redirect_stdout(io.StringIO()) as out:
                     exec(block, {})
                 printed.append(out.getvalue())
-        self.assertEqual(printed, [blocks[1][1], "True\n"])
+        self.assertEqual(printed, [blocks[1][1], "True\n", "R(x1, w1(x1)) or not P(x1)\n",
+                                   "None (0,) [('a',), ('b',)]\n"])

@@ -1,9 +1,9 @@
 import itertools
 import random
 
-from tests.drawing import Case, dense_clause, draw_clause, draw_world
+from tests.drawing import Case, clause, dense_clause, draw_clause, draw_world
 from worldorpaper.books import Book, Signature
-from worldorpaper.clauses import always_true, make_clause, make_literal
+from worldorpaper.clauses import always_true
 from worldorpaper.forms import Form
 from worldorpaper.matching import subsumes
 from worldorpaper.reducing import needed_clauses
@@ -11,10 +11,6 @@ from worldorpaper.terms import TOP
 from worldorpaper.truth import clauses_true
 
 A, B = ("a",), ("b",)
-
-
-def clause(*literals):
-    return make_clause([make_literal(*literal) for literal in literals])
 
 
 def plain_needed(clauses):

@@ -1,7 +1,7 @@
 import itertools
 import random
 
-from tests.drawing import Case, dense_clause, draw_clause, draw_literal, draw_term, draw_world
+from tests.drawing import Case, clause, dense_clause, draw_clause, draw_literal, draw_term, draw_world
 from worldorpaper.clauses import clause_text, clause_unknowns, fill_clause, make_clause, make_literal
 from worldorpaper.errors import BadStep
 from worldorpaper.steps import drop_step, either_step, factor_step, fill_step, replace_step
@@ -12,10 +12,6 @@ A, B, C = ("a",), ("b",), ("c",)
 FA, FB = ("f", A), ("f", B)
 PA, PB, Q = ("P", A), ("P", B), ("Q",)
 SIDES = (-2, -1, 0, 1, 2, 3)
-
-
-def clause(*literals):
-    return make_clause([make_literal(*literal) for literal in literals])
 
 
 def true_at(world, literals, values):

@@ -42,6 +42,10 @@ class Signature:
             return self._relation_arities[name]
         raise UnknownName("the name is not listed")
 
+    def names(self):
+        """All listed names, functions before relations."""
+        return [name for name, _ in self.functions + self.relations]
+
     def constants(self):
         """The functions of arity 0, in order."""
         return [name for name, arity in self.functions if arity == 0]

@@ -1,6 +1,6 @@
 """Literals and clauses."""
 
-from worldorpaper.terms import TOP, fill_term, term_text, unknowns_of
+from worldorpaper.terms import TOP, fill_term, parts_of, term_text, unknowns_of
 
 
 def make_literal(sign, left, right):
@@ -55,6 +55,15 @@ def clause_unknowns(clause):
         for name in unknowns_of(left) + unknowns_of(right):
             found[name] = True
     return list(found)
+
+
+def parts_in(clauses):
+    """The parts of the sides of some clauses, duplicates included."""
+    parts = []
+    for clause in clauses:
+        for _, left, right in clause:
+            parts.extend(parts_of(left) + parts_of(right))
+    return parts
 
 
 def is_ground(clause):

@@ -55,7 +55,7 @@ class FormMaker:
         self.matrices = []
         self._taken = {}
         self._last_numbers = {}
-        for name, _ in book.signature.functions + book.signature.relations:
+        for name in book.signature.names():
             self._taken[name] = True
         for sentence in book.sentences:
             for name in bound_names(sentence):

@@ -1,10 +1,11 @@
 """Worlds whose things are named by the normal forms of terms."""
 
 from worldorpaper.clauseorders import sorted_clauses
+from worldorpaper.clauses import parts_in
 from worldorpaper.inferring import head_of
 from worldorpaper.orders import sorted_terms
 from worldorpaper.rewriting import normal, true_by
-from worldorpaper.terms import TOP, is_plain, parts_of, term_text
+from worldorpaper.terms import TOP, is_plain, term_text
 from worldorpaper.worlds import World, table_length
 
 
@@ -45,12 +46,7 @@ def _rule_of(order, rules, clause):
 
 def _terms_in(clauses):
     """The plain terms that stand in the clauses, parts included."""
-    found = {}
-    for clause in clauses:
-        for _, left, right in clause:
-            for part in parts_of(left) + parts_of(right):
-                if is_plain(part):
-                    found[term_text(part)] = part
+    found = {term_text(part): part for part in parts_in(clauses) if is_plain(part)}
     return list(found.values())
 
 

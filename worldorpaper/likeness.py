@@ -10,7 +10,7 @@ def renamed(world, places):
     """The world in which each thing has become the one at its index in places."""
     if sorted(places) != list(range(world.size)):
         raise BadWorld("the places are not a renaming")
-    tables = {name: _renamed_table(world, name, places) for name in _names(world.signature)}
+    tables = {name: _renamed_table(world, name, places) for name in world.signature.names()}
     return World(world.signature, world.size, tables)
 
 
@@ -36,22 +36,18 @@ def least_form(world):
 def reduct(world, signature):
     """The world with the tables for the names of the signature alone."""
     _check_listed(signature, world.signature)
-    tables = {name: world.table(name) for name in _names(signature)}
+    tables = {name: world.table(name) for name in signature.names()}
     return World(signature, world.size, tables)
 
 
 def expanded(world, signature, tables):
     """The world over the signature with further tables."""
     _check_listed(world.signature, signature)
-    own = {name: world.table(name) for name in _names(world.signature)}
+    own = {name: world.table(name) for name in world.signature.names()}
     for name in tables:
         if name in own:
             raise BadWorld("the world has a table of the name")
     return World(signature, world.size, {**own, **tables})
-
-
-def _names(signature):
-    return [name for name, _ in signature.functions + signature.relations]
 
 
 def _same_lists(first, second):
@@ -80,7 +76,7 @@ def _renamed_table(world, name, places):
 def _compare_tables(world, places, other):
     """Tells whether the renamed world has the number of the other one (0), a less (-1) or a greater one (1)."""
     # Most renamings differ in an early table, so the later ones are seldom made.
-    for name in _names(world.signature):
+    for name in world.signature.names():
         entries = _renamed_table(world, name, places)
         wanted = list(other.table(name))
         if entries != wanted:

@@ -42,7 +42,7 @@ def unify(*terms):
     classes = TermClasses()
     nodes = [classes.node_of(term) for term in terms]
     for node in nodes[1:]:
-        if not classes.join(nodes[0], node):
+        if not classes.make_equal(nodes[0], node):
             return None
     return classes.filling()
 
@@ -66,7 +66,7 @@ class TermClasses:
         inner = [self.node_of(argument) for argument in term[1:]]
         return self._new_node((term[0], inner), len(self._nodes))
 
-    def join(self, first, second):
+    def make_equal(self, first, second):
         """Makes two nodes equal, and all that must then be equal; tells False if two names differ there."""
         # Every round but the idle ones makes two classes one, so equal parts are not gone through again and again.
         due = [(first, second)]

@@ -11,7 +11,7 @@ class Order:
     HEAVIEST = 9
 
     def __init__(self, signature, weights, ranking):
-        names = sorted(_names(signature))
+        names = sorted(signature.names())
         if sorted(weights) != names or sorted(ranking) != names:
             raise BadOrder("the names are not those of the signature")
         for name in names:
@@ -24,7 +24,7 @@ class Order:
     @classmethod
     def ranked(cls, signature, ranking):
         """The order in which each name weighs 1."""
-        weights = {name: Order.LIGHTEST for name in _names(signature)}
+        weights = {name: Order.LIGHTEST for name in signature.names()}
         return cls(signature, weights, ranking)
 
     def weight(self, side):
@@ -70,7 +70,7 @@ class Order:
 
 def plain_order(signature):
     """The order in which each name weighs 1 and the names rank as they are listed."""
-    return Order.ranked(signature, _names(signature))
+    return Order.ranked(signature, signature.names())
 
 
 def sorted_terms(order, sides):
@@ -80,10 +80,6 @@ def sorted_terms(order, sides):
         if len(found) == 0 or found[-1] != side:
             found.append(side)
     return found
-
-
-def _names(signature):
-    return [name for name, _ in signature.functions + signature.relations]
 
 
 def _occur_as_often(one, other):

@@ -1,8 +1,8 @@
 """Partial worlds, what can be read in them, and instances of clauses."""
 
-from worldorpaper.clauses import clause_unknowns
+from worldorpaper.clauses import clause_unknowns, parts_in
 from worldorpaper.errors import BadWorld
-from worldorpaper.terms import TOP, parts_of
+from worldorpaper.terms import TOP
 from worldorpaper.worlds import thing_rows
 
 
@@ -98,11 +98,5 @@ def instances(clauses, size):
 
 
 def _constants_in(clauses):
-    """The names of the constants that stand in the clauses."""
-    found = {}
-    for clause in clauses:
-        for _, left, right in clause:
-            for part in parts_of(left) + parts_of(right):
-                if not isinstance(part, str) and len(part) == 1:
-                    found[part[0]] = True
-    return list(found)
+    """The names without arguments that stand in the clauses, those of constants among them."""
+    return [part[0] for part in parts_in(clauses) if not isinstance(part, str) and len(part) == 1]

@@ -32,14 +32,15 @@ class Sieve:
                 shape = _shape(literal)
                 shapes[literal_text(shape)] = shape
         above = {text: _shapes_above(shapes, shapes[text]) for text in shapes}
-        width = max([len(clause) for clause in clauses], default=0)
-        self._counts = [_counted(above, clause, width) for clause in clauses]
+        self._counts = [_counted(above, clause) for clause in clauses]
 
     def reaches(self, first, second):
         """Tells whether one clause, named by its index, subsumes another one."""
         # A literal keeps the shapes that it comes under, so the second clause must have as many under each.
-        if self._counts[first] & ~self._counts[second] != 0:
-            return False
+        counts = self._counts[second]
+        for shape, count in self._counts[first].items():
+            if counts.get(shape, 0) < count:
+                return False
         return subsumes(self._clauses[first], self._clauses[second]) is not None
 
 
@@ -51,20 +52,17 @@ def _shape(literal):
 
 
 def _shapes_above(shapes, shape):
-    """The numbers of the shapes that some filling may turn into the shape."""
-    return [number for number, text in enumerate(shapes) if _covers(shapes[text], shape)]
+    """The texts of the shapes that some filling may turn into the shape."""
+    return [text for text in shapes if _covers(shapes[text], shape)]
 
 
-def _counted(above, clause, width):
-    """An integer that has, for each shape, as many bits as literals of the clause come under it."""
+def _counted(above, clause):
+    """For each shape the number of literals of the clause that come under it."""
     counts = {}
     for literal in clause:
-        for number in above[literal_text(_shape(literal))]:
-            counts[number] = counts.get(number, 0) + 1
-    bits = 0
-    for number, count in counts.items():
-        bits = bits | ((1 << count) - 1) << (number * width)
-    return bits
+        for shape in above[literal_text(_shape(literal))]:
+            counts[shape] = counts.get(shape, 0) + 1
+    return counts
 
 
 def _covers(pattern, shape):

@@ -12,7 +12,7 @@ class World:
         self.signature = signature
         self.size = size
         self._tables = {}
-        for name, _ in signature.functions + signature.relations:
+        for name in signature.names():
             if name not in tables:
                 raise BadWorld("a name has no table")
             self._tables[name] = tuple(tables[name])
@@ -103,7 +103,7 @@ def thing_rows(size, length):
 
 def world_text(world):
     """The text of a world."""
-    names = [name for name, _ in world.signature.functions + world.signature.relations]
+    names = world.signature.names()
     width = max([len(name) for name in names], default=0)
     lines = [f"things {world.size}"]
     for name in names:
