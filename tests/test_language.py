@@ -18,6 +18,7 @@ METHODS = set("""append clear copy count endswith extend find get index insert i
 isspace isupper items join keys ljust lower lstrip partition pop remove replace reverse rfind rjust rpartition rsplit
 rstrip setdefault split splitlines startswith strip update upper values zfill bit_length isascii add discard
 __init__""".split())
+CHANGING = set("append clear extend insert pop remove reverse setdefault update sort add discard".split())
 LIBRARY = {
     "heapq": {"heappush", "heappop", "heapify", "heapreplace", "heappushpop"},
     "math": {"gcd", "lcm", "isqrt", "comb", "perm", "factorial"},
@@ -57,6 +58,34 @@ def bound_names(tree):
             yield node.id, node
         elif isinstance(node, ast.ExceptHandler) and node.name:
             yield node.name, node
+
+
+def walked_names(node):
+    """The names and attributes that a loop over this walks."""
+    if isinstance(node, ast.Call):
+        holder = [node.func.value] if isinstance(node.func, ast.Attribute) else []
+        # A new list is walked in their stead.
+        if getattr(node.func, "id", "") in ("list", "tuple", "sorted"):
+            return set()
+        return set().union(*[walked_names(part) for part in node.args + holder])
+    if isinstance(node, ast.IfExp):
+        return walked_names(node.body) | walked_names(node.orelse)
+    if isinstance(node, ast.BoolOp):
+        return set().union(*[walked_names(part) for part in node.values])
+    return {ast.unparse(node)} if isinstance(node, (ast.Name, ast.Attribute, ast.Subscript)) else set()
+
+
+def changed_names(node):
+    """The names and attributes whose items a statement changes."""
+    found = set()
+    for part in ast.walk(node):
+        if isinstance(part, ast.Call) and isinstance(part.func, ast.Attribute) and part.func.attr in CHANGING:
+            found.add(ast.unparse(part.func.value))
+        elif isinstance(part, ast.Subscript) and not isinstance(part.ctx, ast.Load):
+            found.add(ast.unparse(part.value))
+        elif isinstance(part, ast.AugAssign):
+            found.add(ast.unparse(part.target))
+    return found
 
 
 class Language(unittest.TestCase):
@@ -199,6 +228,20 @@ class Language(unittest.TestCase):
                     self.assertIn(holder.func.id, spot, where)
                     if holder.func.id in ("min", "max"):
                         self.assertTrue(all(keyword.arg == "default" for keyword in holder.keywords), where)
+
+    def test_loops_change_nothing_that_they_walk(self):
+        # A name that is given to another one counts as the same list, wherever in the function that stands.
+        for path, function in nodes(ast.FunctionDef):
+            same = [{ast.unparse(node.targets[0]), ast.unparse(node.value)} for node in ast.walk(function)
+                    if isinstance(node, ast.Assign) and isinstance(node.value, (ast.Name, ast.Attribute))]
+            for loop in ast.walk(function):
+                if isinstance(loop, ast.For):
+                    walked = walked_names(loop.iter)
+                    for _ in same:
+                        for pair in same:
+                            walked |= pair if pair & walked else set()
+                    for node in loop.body:
+                        self.assertFalse(walked & changed_names(node), self.at(path, loop))
 
     def test_set_methods(self):
         # A class has a method `add`, so no set is added to by that word.

@@ -108,18 +108,15 @@ class TermClasses:
     def _values(self):
         """For each head of a class the term that its nodes become, or None if there is no end of filling."""
         values = {}
-        waiting = [node for node in range(len(self._nodes)) if self._heads[node] == node]
-        while waiting:
-            later = []
-            for head in waiting:
-                value = self._value(head, values)
-                if value is None:
-                    later.append(head)
-                else:
+        heads = [node for node in range(len(self._nodes)) if self._heads[node] == node]
+        while len(values) < len(heads):
+            known = len(values)
+            for head in heads:
+                value = None if head in values else self._value(head, values)
+                if value is not None:
                     values[head] = value
-            if len(later) == len(waiting):
+            if len(values) == known:
                 return None
-            waiting = later
         return values
 
     def _value(self, head, values):
