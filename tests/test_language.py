@@ -307,7 +307,7 @@ class Language(unittest.TestCase):
             self.assertIsNotNone(node.type, self.at(path, node))
             kinds = node.type.elts if isinstance(node.type, ast.Tuple) else [node.type]
             for kind in kinds:
-                self.assertRegex(kind.id, r"\A(Bad\w+|UnknownName|NotOfKind|KeyError|ZeroDivisionError)\Z")
+                self.assertRegex(kind.id, r"\A(Bad\w+|UnknownName|NotOfKind|WorldOrPaperError|KeyError|ZeroDivisionError)\Z")
         for path, node in nodes(ast.Raise):
             self.assertTrue(node.exc is None or isinstance(node.exc, ast.Call), self.at(path, node))
 

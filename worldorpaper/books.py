@@ -112,3 +112,8 @@ class Book:
     def without(self, index):
         """The book without the sentence at the index."""
         return Book(self.signature, [sentence for at, sentence in enumerate(self.sentences) if at != index])
+
+
+def same_lists(first, second):
+    """Tells whether two signatures list the same functions and relations in the same order."""
+    return first.functions == second.functions and first.relations == second.relations

@@ -6,7 +6,7 @@ from worldorpaper.inferring import head_of
 from worldorpaper.orders import sorted_terms
 from worldorpaper.rewriting import normal, true_by
 from worldorpaper.terms import TOP, is_plain, term_text
-from worldorpaper.worlds import World, table_length
+from worldorpaper.worlds import World, blank_tables, entry_index
 
 
 def rules_of(order, clauses):
@@ -51,10 +51,7 @@ def _terms_in(clauses):
 
 
 def _tables(signature, rules, names):
-    size = len(names)
-    tables = {name: [0] * table_length(size, arity) for name, arity in signature.functions}
-    for name, arity in signature.relations:
-        tables[name] = [False] * table_length(size, arity)
+    tables = blank_tables(signature, len(names))
     things = {term_text(name): thing for thing, name in enumerate(names)}
     # Arguments of names and of first members of rules are names themselves, and no other
     # application of a function or relation to names is a name or has another normal form.
@@ -68,7 +65,4 @@ def _tables(signature, rules, names):
 
 def _row_index(things, side):
     """The index of the entry at the things that the arguments name."""
-    index = 0
-    for argument in side[1:]:
-        index = index * len(things) + things[term_text(argument)]
-    return index
+    return entry_index(len(things), [things[term_text(argument)] for argument in side[1:]])

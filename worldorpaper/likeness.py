@@ -2,8 +2,9 @@
 
 from itertools import permutations
 
+from worldorpaper.books import same_lists
 from worldorpaper.errors import BadWorld
-from worldorpaper.worlds import World, thing_rows
+from worldorpaper.worlds import World, entry_index, thing_rows
 
 
 def renamed(world, places):
@@ -16,7 +17,7 @@ def renamed(world, places):
 
 def alike(first, second):
     """Tells whether some renaming of the first world has the tables of the second one."""
-    if not _same_lists(first.signature, second.signature) or first.size != second.size:
+    if not same_lists(first.signature, second.signature) or first.size != second.size:
         return False
     for places in permutations(range(first.size)):
         if _compare_tables(first, places, second) == 0:
@@ -50,10 +51,6 @@ def expanded(world, signature, tables):
     return World(signature, world.size, {**own, **tables})
 
 
-def _same_lists(first, second):
-    return first.functions == second.functions and first.relations == second.relations
-
-
 def _check_listed(small, great):
     for name, arity in small.functions + small.relations:
         if not great.has(name) or great.arity(name) != arity:
@@ -66,9 +63,7 @@ def _renamed_table(world, name, places):
     arity = world.signature.arity(name)
     entries = list(table)
     for row, entry in zip(thing_rows(world.size, arity), table):
-        index = 0
-        for thing in row:
-            index = index * world.size + places[thing]
+        index = entry_index(world.size, [places[thing] for thing in row])
         entries[index] = places[entry] if world.signature.has_function(name) else entry
     return entries
 

@@ -33,7 +33,7 @@ def cut_lines(rows):
     cut = []
     for index in needed:
         clause, reason = rows[index]
-        cut.append((clause, _renumbered(reason, new_indexes)))
+        cut.append((clause, renumbered(reason, new_indexes)))
     return cut
 
 
@@ -103,6 +103,7 @@ def _needed_rows(rows):
     return sorted(needed)
 
 
-def _renumbered(reason, new_indexes):
+def renumbered(reason, new_indexes):
+    """The reason with a new index for each row that it names."""
     at_rows = ROW_INDEXES[reason[0]]
     return tuple([new_indexes[part] if at in at_rows else part for at, part in enumerate(reason)])

@@ -18,6 +18,14 @@ def inner_sentences(sentence):
     return sentence[1:]
 
 
+def parts_inside(sentence):
+    """The sentence itself and all sentences inside it, in preorder."""
+    parts = [sentence]
+    for part in inner_sentences(sentence):
+        parts.extend(parts_inside(part))
+    return parts
+
+
 def free_unknowns(sentence):
     """The unknowns that occur unbound, in order of first unbound occurrence."""
     if sentence[0] in BASIC:
@@ -63,10 +71,4 @@ def is_free(name, sentence):
 
 def bound_names(sentence):
     """The names that stand behind binders, without duplicates."""
-    found = {}
-    if sentence[0] in BINDERS:
-        found[sentence[1]] = True
-    for part in inner_sentences(sentence):
-        for name in bound_names(part):
-            found[name] = True
-    return list(found)
+    return list({part[1]: True for part in parts_inside(sentence) if part[0] in BINDERS})

@@ -23,12 +23,7 @@ class World:
     @classmethod
     def blank(cls, signature, size):
         """The world in which all entries are 0 and False."""
-        tables = {}
-        for name, arity in signature.functions:
-            tables[name] = [0] * table_length(size, arity)
-        for name, arity in signature.relations:
-            tables[name] = [False] * table_length(size, arity)
-        return cls(signature, size, tables)
+        return cls(signature, size, blank_tables(signature, size))
 
     @property
     def things(self):
@@ -75,11 +70,9 @@ class World:
     def _entry(self, name, args):
         if len(args) != self.signature.arity(name):
             raise BadWorld("there are too many or too few things")
-        index = 0
         for thing in args:
             self._check_thing(thing)
-            index = index * self.size + thing
-        return self._tables[name][index]
+        return self._tables[name][entry_index(self.size, args)]
 
 
 def table_length(size, arity):
@@ -90,15 +83,38 @@ def table_length(size, arity):
     return length
 
 
+def entry_index(size, things):
+    """The index of the entry at some things in a table."""
+    index = 0
+    for thing in things:
+        index = index * size + thing
+    return index
+
+
+def blank_tables(signature, size):
+    """For each name a list of entries, all of which are 0 or False."""
+    tables = {}
+    for name, arity in signature.functions:
+        tables[name] = [0] * table_length(size, arity)
+    for name, arity in signature.relations:
+        tables[name] = [False] * table_length(size, arity)
+    return tables
+
+
 def thing_rows(size, length):
     """Yields the tuples of so many things in ascending order."""
     for number in range(table_length(size, length)):
-        row = []
-        rest = number
-        for _ in range(length):
-            rest, thing = divmod(rest, size)
-            row.append(thing)
-        yield tuple(row[::-1])
+        yield row_at(size, length, number)
+
+
+def row_at(size, length, number):
+    """The tuple of so many things that has so many others before it in ascending order."""
+    row = []
+    rest = number
+    for _ in range(length):
+        rest, thing = divmod(rest, size)
+        row.append(thing)
+    return tuple(row[::-1])
 
 
 def world_text(world):
