@@ -45,15 +45,23 @@ def draw_atom(rng, depth, unknowns=UNKNOWNS, signature=SIGNATURE):
     return (name,) + tuple(draw_term(rng, depth, unknowns, signature) for _ in range(arity))
 
 
-def draw_literal(rng, depth, unknowns=UNKNOWNS):
+def draw_literal(rng, depth, unknowns=UNKNOWNS, signature=SIGNATURE):
     sign = rng.random() < 0.6
     if rng.random() < 0.4:
-        return make_literal(sign, draw_atom(rng, depth, unknowns), TOP)
-    return make_literal(sign, draw_term(rng, depth, unknowns), draw_term(rng, depth, unknowns))
+        return make_literal(sign, draw_atom(rng, depth, unknowns, signature), TOP)
+    return make_literal(sign, *[draw_term(rng, depth, unknowns, signature) for _ in range(2)])
 
 
-def draw_clause(rng, most, depth, unknowns=UNKNOWNS):
-    return make_clause([draw_literal(rng, depth, unknowns) for _ in range(rng.randint(0, most))])
+def draw_clause(rng, most, depth, unknowns=UNKNOWNS, signature=SIGNATURE):
+    return make_clause([draw_literal(rng, depth, unknowns, signature) for _ in range(rng.randint(0, most))])
+
+
+def draw_clauses(rng, most, signature):
+    """Some short clauses of few unknowns, so that a tree for them is not too large."""
+    clauses = []
+    for _ in range(rng.randint(0, most)):
+        clauses.append(draw_clause(rng, 2, 1, ("x", "y"), signature) or draw_clause(rng, 2, 1, ("x",), signature))
+    return clauses
 
 
 def dense_clause(rng, most):

@@ -47,6 +47,26 @@ FUNCTIONS = {
     "hearts": ["saturate(signature, order, clauses, *, picks=())", "refutation(heart)"],
     "groundworlds": ["rules_of(order, clauses)", "world_of(signature, order, clauses)"],
     "partial": ["instances(clauses, size)"],
+    "growing": ["most_nodes(signature, limit)", "grow(signature, clauses, limit, *, picks=(), elder_every=0)"],
+    "trees": ["first_fault(signature, clauses, limit, tree)", "judge_tree(signature, clauses, limit, tree)",
+              "tree_nodes(tree)", "has_beyond(tree)", "clauses_used(tree)", "cut_tree(signature, clauses, tree)"],
+    "treetext": ["tree_text(tree)", "read_tree(text)"],
+    "treelines": ["lines_of(signature, clauses, tree)"],
+    "kinds": ["names_in(book)", "ground_terms(book)", "listing(book)", "is_single(book)", "is_prefix(book)",
+              "is_linked(book)", "kinds_of(book)", "enough(book, kind)", "told_size(book)"],
+    "sorts": ["cases_of(book)", "case_of(book, world)", "case_size(case)", "small_world(book, case)",
+              "small_worlds(book)", "least_case(book)", "partner(book, first, second, thing, *, picked=())"],
+    "casepapers": ["case_paper(book)", "cases_before_paper(book, size)", "judge_cases(book, paper)",
+                   "judge_cases_before(book, size, paper)"],
+    "shrinking": ["shrink(book, kind, world)", "cut_world(world, things)"],
+    "fillings": ["named_signature(signature)", "closed_terms(signature, depth)"],
+    "answers": ["decided_clauses(form)", "decided_origins(form)", "judge_answer(book, answer)"],
+    "deciders": ["decide(book, rounds=None, *, picks=(), elder_every=0, deal=(1, 0), cases=True)",
+                 "rounds_enough(book, *, deal=(1, 0))"],
+    "questions": ["follows(book, sentence, rounds=None, *, picks=(), deal=(1, 0))",
+                  "independent(book, index, rounds=None)", "sentences_used(book, paper)", "least_at_odds(book, rounds)"],
+    "benches": ["replay(signature, deeds)"],
+    "desk": ["run(text, rounds=200)"],
 }
 METHODS = {
     ("books", "Signature"): ["__init__(self, functions, relations)", "has(self, name)", "arity(self, name)",
@@ -64,9 +84,29 @@ METHODS = {
     ("partial", "Partial"): ["__init__(self, signature, clauses)", "__iter__(self)", "is_free(self, cell)",
                              "ways(self, cell)", "with_cell(self, cell, entry)", "read_term(self, term, values)",
                              "read_literal(self, literal, values)", "read_clause(self, clause, values)"],
+    ("growing", "Grower"): ["__init__(self, signature, clauses, limit, *, picks=(), elder_every=0)", "step(self)",
+                            "has_ended(self)"],
+    ("fillings", "Fillings"): ["__init__(self, signature, clauses, picks=())", "step(self)", "has_ended(self)",
+                               "paper(self)"],
+    ("answers", "Answer"): ["__init__(self, verdict, *, world=None, paper=None, rounds=0)"],
+    ("deciders", "Decider"): ["__init__(self, book, *, picks=(), elder_every=0, deal=(1, 0), cases=True)", "step(self)",
+                              "has_answer(self)", "run(self, rounds=None)"],
+    ("benches", "Bench"): ["__init__(self, signature)", "labels(self)", "derived(self)", "sentence(self, label)",
+                           "book(self)", "full_book(self)", "add(self, label, sentence)", "drop(self, label)",
+                           "derive(self, label, sentence, rounds=None)", "ask(self, rounds=None)", "deeds(self)",
+                           "undo(self)"],
+}
+# The attributes of an object that was made from a book of one sentence, with their kinds.
+ATTRIBUTES = {
+    "Grower": {"limit": int, "opened": int, "world": None, "tree": None, "beyond": bool},
+    "Fillings": {"signature": "Signature", "heart": "Heart", "put_in": list, "world": None},
+    "Answer": {"verdict": str, "world": None, "paper": None, "rounds": int},
+    "Decider": {"book": "Book", "form": "Form", "clauses": tuple, "told": int, "rounds": int, "limit": int,
+                "answer": None, "found": None},
+    "Bench": {"reused": int},
 }
 GENERATORS = [("going", "worlds_of_size"), ("shaping", "negation_steps"), ("shaping", "narrowing_steps"),
-              ("inferring", "factors"), ("partial", "instances")]
+              ("inferring", "factors"), ("partial", "instances"), ("sorts", "small_worlds")]
 ERRORS = ["BadName", "BadArity", "UnknownName", "BadTerm", "BadSentence", "BadPlace", "BadStep", "BadWorld",
           "BadOrder", "NotOfKind", "BadDeed", "BadText"]
 
@@ -99,6 +139,21 @@ class Interface(unittest.TestCase):
         self.assertEqual(str(inspect.signature(order.ranked)), "(signature, ranking)")
         self.assertEqual((vars(order)["LIGHTEST"], vars(order)["HEAVIEST"]), (1, 9))
         self.assertIsInstance(vars(module("hearts").Heart)["kept_clauses"], property)
+
+    def test_attributes_of_new_objects(self):
+        book = module("reading").read_book("relation P 1\nsentence all x. P(x)")
+        signature, clauses = book.signature, module("forms").form_of(book).clauses
+        objects = [module("growing").Grower(signature, clauses, 1), module("fillings").Fillings(signature, clauses),
+                   module("answers").Answer("open"), module("deciders").Decider(book), module("benches").Bench(signature)]
+        for thing in objects:
+            for name, kind in ATTRIBUTES[type(thing).__name__].items():
+                found = getattr(thing, name)
+                if kind is None:
+                    self.assertIsNone(found, name)
+                elif isinstance(kind, str):
+                    self.assertEqual(type(found).__name__, kind, name)
+                else:
+                    self.assertIs(type(found), kind, name)
 
     def test_generators(self):
         for name, function in GENERATORS:
