@@ -1,7 +1,7 @@
 """The road of fillings, which decides clauses by their instances without unknowns."""
 
 from worldorpaper.clauses import clause_text, clause_unknowns
-from worldorpaper.groundworlds import world_of
+from worldorpaper.groundworlds import world_of_ranked
 from worldorpaper.hearts import Heart, refutation
 from worldorpaper.lines import renumbered
 from worldorpaper.names import fresh_name
@@ -67,7 +67,7 @@ class Fillings:
         if not self.heart.has_ended():
             self.heart.step()
             return
-        world, names = world_of(self.signature, self.heart.order, self.heart.kept_clauses)
+        world, names = world_of_ranked(self.signature, self.heart.order, self.heart.ranked)
         for index, clause in enumerate(self._clauses):
             things = false_values(world, clause)
             if things is not None:

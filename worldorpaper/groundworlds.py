@@ -1,64 +1,84 @@
 """Worlds whose things are named by the normal forms of terms."""
 
-from worldorpaper.clauseorders import sorted_clauses
-from worldorpaper.clauses import parts_in
-from worldorpaper.inferring import head_of
+from worldorpaper.inferring import RankedClause
 from worldorpaper.orders import sorted_terms
-from worldorpaper.rewriting import normal, true_by
-from worldorpaper.terms import TOP, is_plain, term_text
+from worldorpaper.rewriting import Rewriter
+from worldorpaper.terms import TOP, is_atom, term_text
 from worldorpaper.worlds import World, blank_tables, entry_index
 
 
 def rules_of(order, clauses):
     """The rules that the clauses make, from the least clause on."""
-    rules = []
-    for clause in sorted_clauses(order, clauses):
-        rule = _rule_of(order, rules, clause)
-        if rule is not None:
-            rules.append(rule)
-    return rules
+    return _rewriter_of([RankedClause(order, clause) for clause in clauses]).rules
 
 
 def world_of(signature, order, clauses):
     """The world of the rules, and the list of the terms that name its things."""
-    rules = rules_of(order, clauses)
-    names = sorted_terms(order, [normal(rules, term) for term in _terms_in(clauses)])
+    return world_of_ranked(signature, order, [RankedClause(order, clause) for clause in clauses])
+
+
+def world_of_ranked(signature, order, ranked):
+    """The same for clauses with what the order tells of them."""
+    rewriter = _rewriter_of(ranked)
+    terms = _terms_in([one.clause for one in ranked])
+    names = sorted_terms(order, [rewriter.normal(term) for term in terms])
     if len(names) == 0:
         names = [(signature.constants()[0],)]
-    return World(signature, len(names), _tables(signature, rules, names)), names
+    return World(signature, len(names), _tables(signature, rewriter, names)), names
 
 
-def _rule_of(order, rules, clause):
-    """The rule that the clause makes beside the rules made so far, or None."""
-    head = head_of(order, clause)
-    if head is None or true_by(rules, clause):
-        return None
-    index, side = head
-    literal = clause[index]
-    greater, other = literal[1 + side], literal[2 - side]
-    if not literal[0] or normal(rules, greater) != greater:
-        return None
-    rest = [one for at, one in enumerate(clause) if at != index]
-    if true_by(rules + [(greater, other)], rest):
-        return None
-    return (greater, other)
+def _rewriter_of(ranked):
+    # A clause that occurs twice makes no second rule, as the first one makes it true.
+    rewriter = Rewriter()
+    for one in sorted(ranked, key=lambda other: other.key):
+        rewriter = _extended(rewriter, one)
+    return rewriter
+
+
+def _extended(rewriter, ranked):
+    """The rules made so far, with the one that the clause makes if it makes one."""
+    if not ranked.is_equating or rewriter.makes_true(ranked.clause):
+        return rewriter
+    index, side = ranked.head
+    if rewriter.normal(ranked.top) != ranked.top:
+        return rewriter
+    longer = rewriter.with_rule(ranked.top, ranked.clause[index][2 - side])
+    rest = [literal for at, literal in enumerate(ranked.clause) if at != index]
+    return rewriter if longer.makes_true(rest) else longer
 
 
 def _terms_in(clauses):
     """The plain terms that stand in the clauses, parts included."""
-    found = {term_text(part): part for part in parts_in(clauses) if is_plain(part)}
+    found = {}
+    for clause in clauses:
+        for _, left, right in clause:
+            for side in (left, right):
+                if is_atom(side) or side == TOP:
+                    for argument in side[1:]:
+                        _add_parts(argument, found)
+                else:
+                    _add_parts(side, found)
     return list(found.values())
 
 
-def _tables(signature, rules, names):
+def _add_parts(term, found):
+    # The parts of a term that was found before were found with it.
+    text = term_text(term)
+    if text not in found:
+        found[text] = term
+        for argument in term[1:]:
+            _add_parts(argument, found)
+
+
+def _tables(signature, rewriter, names):
     tables = blank_tables(signature, len(names))
     things = {term_text(name): thing for thing, name in enumerate(names)}
     # Arguments of names and of first members of rules are names themselves, and no other
     # application of a function or relation to names is a name or has another normal form.
     for name in names:
         tables[name[0]][_row_index(things, name)] = things[term_text(name)]
-    for first, second in rules:
-        entry = True if second == TOP else things[term_text(normal(rules, second))]
+    for first, second in rewriter.rules:
+        entry = True if second == TOP else things[term_text(rewriter.normal(second))]
         tables[first[0]][_row_index(things, first)] = entry
     return tables
 

@@ -1,42 +1,70 @@
 """Normal forms of sides without unknowns."""
 
+from worldorpaper.terms import term_text
+
 
 def normal(rules, side, /):
     """The normal form of a side."""
-    return _normal(rules, side, {})
+    return _rewriter_of(rules).normal(side)
 
 
 def true_by(rules, clause):
     """Tells whether the rules make some literal of the clause true."""
-    for sign, left, right in clause:
-        if (normal(rules, left) == normal(rules, right)) == sign:
-            return True
-    return False
+    return _rewriter_of(rules).makes_true(clause)
 
 
-def _normal(rules, side, found):
-    """The normal form of a side; found has the normal forms of second members, by the indexes of their rules."""
-    # Rules can lead to the same second member again and again, so what was found once is kept.
-    passed = []
-    now = _with_normal_arguments(rules, side, found)
-    index = _rule_for(rules, now)
-    while index is not None and index not in found:
-        passed.append(index)
-        now = _with_normal_arguments(rules, rules[index][1], found)
-        index = _rule_for(rules, now)
-    result = now if index is None else found[index]
-    for earlier in passed:
-        found[earlier] = result
-    return result
+class Rewriter:
+    """Rules by the texts of their first members; sides may be nested deeper than keys are."""
+
+    def __init__(self):
+        self.rules = []
+        self._seconds = {}
+        # By the text of a first member that was met the normal form of it, with its text.
+        self._found = {}
+
+    def with_rule(self, first, second):
+        """The same rules with a further one."""
+        longer = Rewriter()
+        longer.rules = self.rules + [(first, second)]
+        longer._seconds = {text: self._seconds[text] for text in self._seconds}
+        longer._seconds.setdefault(term_text(first), second)
+        return longer
+
+    def normal(self, side):
+        """The normal form of a side."""
+        form, _ = self._normal(side)
+        return form
+
+    def makes_true(self, clause):
+        """Tells whether the rules make some literal of a clause true."""
+        for sign, left, right in clause:
+            if (self.normal(left) == self.normal(right)) == sign:
+                return True
+        return False
+
+    def _normal(self, side):
+        # Rules can lead to the same second member again and again, so what was found once is kept.
+        passed = []
+        now, text = self._with_normal_arguments(side)
+        while text in self._seconds and text not in self._found:
+            passed.append(text)
+            now, text = self._with_normal_arguments(self._seconds[text])
+        result = self._found.get(text, (now, text))
+        for earlier in passed:
+            self._found[earlier] = result
+        return result
+
+    def _with_normal_arguments(self, side):
+        """The side with the normal forms of its arguments, and a text of it."""
+        if len(side) == 1:
+            return side, side[0]
+        forms = [self._normal(argument) for argument in side[1:]]
+        text = side[0] + "(" + ", ".join([inner for _, inner in forms]) + ")"
+        return side[:1] + tuple([form for form, _ in forms]), text
 
 
-def _with_normal_arguments(rules, side, found):
-    return side[:1] + tuple([_normal(rules, argument, found) for argument in side[1:]])
-
-
-def _rule_for(rules, side):
-    """The index of the first rule for the side, or None."""
-    for index, (first, _) in enumerate(rules):
-        if first == side:
-            return index
-    return None
+def _rewriter_of(rules):
+    rewriter = Rewriter()
+    for first, second in rules:
+        rewriter = rewriter.with_rule(first, second)
+    return rewriter
