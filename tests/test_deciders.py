@@ -75,7 +75,7 @@ def draw_tight(rng):
              "some x. not P(x)", "all x. P(x) implies P(f(x))", "P(a)", "not P(f(f(a)))", "all x. all y. R(x, y) implies P(y)",
              "all x. all y. R(x, y) implies R(y, x)", "not R(f(a), a)", "all x. f(f(x)) = x", "all x. x = a or x = b",
              "all x. some y. R(x, y) and not P(y)", "some x. all y. not R(x, y)", "f(a) = f(b)", "Q", "Q implies a = f(a)"]
-    return read(*rng.sample(texts, rng.randint(2, 6)))
+    return read(*rng.sample(texts, rng.randint(2, 8)))
 
 
 def tables(one, world):
