@@ -9,12 +9,23 @@ README = pathlib.Path(__file__).resolve().parent.parent / "README.md"
 
 class Readme(unittest.TestCase):
     def test_examples_run(self):
-        blocks = re.findall(r"```(\w*)\n(.*?)```", README.read_text(encoding="utf-8"), re.S)
-        printed = []
-        for language, block in blocks:
-            if language == "python":
+        parts = re.split(r"```(\w*)\n(.*?)```", README.read_text(encoding="utf-8"), flags=re.S)
+        examples = 0
+        for at in range(1, len(parts), 3):
+            if parts[at] == "python":
+                block = parts[at + 1]
+                # What an example prints stands in the block behind it or in a comment.
+                expected = re.findall(r"print\(.*\)  # (.*)", block)
+                if parts[at + 2].strip() == "prints":
+                    expected = parts[at + 4].rstrip("\n").split("\n")
                 with contextlib.redirect_stdout(io.StringIO()) as out:
                     exec(block, {})
-                printed.append(out.getvalue())
-        self.assertEqual(printed, [blocks[1][1], "True\n", "R(x1, w1(x1)) or not P(x1)\n",
-                                   "None (0,) [('a',), ('b',)]\n"])
+                self.assertEqual(out.getvalue().rstrip("\n").split("\n"), expected)
+                examples += 1
+        self.assertEqual(examples, 7)
+
+    def test_every_module_is_named(self):
+        text = README.read_text(encoding="utf-8")
+        for path in (README.parent / "worldorpaper").glob("*.py"):
+            if path.stem != "__init__":
+                self.assertIn(f"`{path.stem}`", text)
