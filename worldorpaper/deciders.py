@@ -25,7 +25,9 @@ class Decider:
         self.found = None
         self._picks = tuple(picks)
         self._elder_every = elder_every
-        self._of_trees, self._of_fillings = deal
+        of_trees, of_fillings = deal
+        self._of_trees = of_trees
+        self._of_fillings = of_fillings
         self._by_cases = cases and is_single(book)
         self._grower = self._new_grower()
         self._fillings = Fillings(self.form.signature, self.clauses, self._picks)

@@ -1,13 +1,12 @@
 """The road of fillings, which decides clauses by their instances without unknowns."""
 
-from worldorpaper.clauses import clause_text, clause_unknowns
+from worldorpaper.clauses import clause_unknowns
 from worldorpaper.groundworlds import world_of_ranked
 from worldorpaper.hearts import Heart, refutation
 from worldorpaper.lines import renumbered
 from worldorpaper.names import fresh_name
 from worldorpaper.orders import plain_order
 from worldorpaper.steps import fill_step
-from worldorpaper.terms import term_text
 from worldorpaper.truth import false_values
 from worldorpaper.worlds import row_at, table_length, thing_rows
 
@@ -113,7 +112,7 @@ class Fillings:
         self.heart.add(fill_step(self._clauses[index], pairs))
 
     def _key(self, index, pairs):
-        return index, clause_text(fill_step(self._clauses[index], pairs))
+        return index, repr(fill_step(self._clauses[index], pairs))
 
 
 def named_signature(signature):
@@ -133,11 +132,11 @@ def closed_terms(signature, depth):
 
 def _deeper_terms(signature, terms):
     """The terms, and behind them the further ones that are nested one deeper."""
-    listed = {term_text(term): True for term in terms}
+    listed = {repr(term): True for term in terms}
     deeper = []
     for name, arity in signature.functions:
         for row in thing_rows(len(terms), arity):
             term = (name,) + tuple([terms[place] for place in row])
-            if term_text(term) not in listed:
+            if repr(term) not in listed:
                 deeper.append(term)
     return terms + deeper

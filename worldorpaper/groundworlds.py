@@ -3,7 +3,7 @@
 from worldorpaper.inferring import RankedClause
 from worldorpaper.orders import sorted_terms
 from worldorpaper.rewriting import Rewriter
-from worldorpaper.terms import TOP, is_atom, term_text
+from worldorpaper.terms import TOP, is_atom
 from worldorpaper.worlds import World, blank_tables, entry_index
 
 
@@ -28,7 +28,8 @@ def world_of_ranked(signature, order, ranked):
 
 
 def _rewriter_of(ranked):
-    # A clause that occurs twice makes no second rule, as the first one makes it true.
+    # A clause that occurs twice makes no second rule, as the first one makes it true. Clauses are ascending, so the
+    # first member of a new rule is not less than any side that was looked at before.
     rewriter = Rewriter()
     for one in sorted(ranked, key=lambda other: other.key):
         rewriter = _extended(rewriter, one)
@@ -62,8 +63,8 @@ def _terms_in(clauses):
 
 
 def _add_parts(term, found):
-    # The parts of a term that was found before were found with it.
-    text = term_text(term)
+    # The parts of a term that was found before were found with it. What repr makes can be a key, and quickly.
+    text = repr(term)
     if text not in found:
         found[text] = term
         for argument in term[1:]:
@@ -72,17 +73,17 @@ def _add_parts(term, found):
 
 def _tables(signature, rewriter, names):
     tables = blank_tables(signature, len(names))
-    things = {term_text(name): thing for thing, name in enumerate(names)}
+    things = {repr(name): thing for thing, name in enumerate(names)}
     # Arguments of names and of first members of rules are names themselves, and no other
     # application of a function or relation to names is a name or has another normal form.
     for name in names:
-        tables[name[0]][_row_index(things, name)] = things[term_text(name)]
+        tables[name[0]][_row_index(things, name)] = things[repr(name)]
     for first, second in rewriter.rules:
-        entry = True if second == TOP else things[term_text(rewriter.normal(second))]
+        entry = True if second == TOP else things[repr(rewriter.normal(second))]
         tables[first[0]][_row_index(things, first)] = entry
     return tables
 
 
 def _row_index(things, side):
     """The index of the entry at the things that the arguments name."""
-    return entry_index(len(things), [things[term_text(argument)] for argument in side[1:]])
+    return entry_index(len(things), [things[repr(argument)] for argument in side[1:]])

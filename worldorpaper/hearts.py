@@ -1,6 +1,6 @@
 """Hearts: inferring from clauses without unknowns until nothing new follows."""
 
-from worldorpaper.clauses import clause_text, is_ground
+from worldorpaper.clauses import is_ground
 from worldorpaper.errors import BadStep
 from worldorpaper.inferring import RankedClause, factor_rows, join_result, joined, needless, simpler_step, simplify
 from worldorpaper.lines import cut_lines
@@ -91,14 +91,14 @@ class Heart:
             self._infer(join_result(first, second, step), reason)
 
     def _infer(self, clause, reason):
-        if clause_text(clause) not in self._texts:
+        if repr(clause) not in self._texts:
             self._append_row(clause, reason)
             self.waiting.append(len(self.rows) - 1)
 
     def _append_row(self, clause, reason):
         self.rows.append((clause, reason))
         # Texts can be keys; clauses may be nested deeper than keys are.
-        self._texts[clause_text(clause)] = True
+        self._texts[repr(clause)] = True
 
 
 def saturate(signature, order, clauses, *, picks=()):

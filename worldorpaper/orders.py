@@ -24,8 +24,7 @@ class Order:
     @classmethod
     def ranked(cls, signature, ranking):
         """The order in which each name weighs 1."""
-        weights = {name: Order.LIGHTEST for name in signature.names()}
-        return cls(signature, weights, ranking)
+        return cls(signature, _even_weights(signature), ranking)
 
     def weight(self, side):
         """The weights of the names together, and 1 for each unknown."""
@@ -70,7 +69,7 @@ class Order:
 
 def plain_order(signature):
     """The order in which each name weighs 1 and the names rank as they are listed."""
-    return Order.ranked(signature, signature.names())
+    return Order(signature, _even_weights(signature), signature.names())
 
 
 def sorted_terms(order, sides):
@@ -96,3 +95,7 @@ def _count_unknowns(side, counts, step):
         return
     for argument in side[1:]:
         _count_unknowns(argument, counts, step)
+
+
+def _even_weights(signature):
+    return {name: Order.LIGHTEST for name in signature.names()}

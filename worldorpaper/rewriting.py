@@ -21,19 +21,26 @@ class Rewriter:
         self._seconds = {}
         # By the text of a first member that was met the normal form of it, with its text.
         self._found = {}
+        # By the text of a side that was asked for its normal form.
+        self._asked = {}
 
     def with_rule(self, first, second):
-        """The same rules with a further one."""
+        """The same rules with a further one; what was asked for so far is not greater than its first member."""
         longer = Rewriter()
         longer.rules = self.rules + [(first, second)]
         longer._seconds = {text: self._seconds[text] for text in self._seconds}
         longer._seconds.setdefault(term_text(first), second)
+        # So the first member stands in no normal form that was found, unless it is this form.
+        longer._asked = {text: form for text, form in self._asked.items() if form != first}
         return longer
 
     def normal(self, side):
         """The normal form of a side."""
-        form, _ = self._normal(side)
-        return form
+        text = repr(side)
+        if text not in self._asked:
+            form, _ = self._normal(side)
+            self._asked[text] = form
+        return self._asked[text]
 
     def makes_true(self, clause):
         """Tells whether the rules make some literal of a clause true."""

@@ -91,7 +91,8 @@ def _world_of_sorts(book, world):
     for name in signature.constants():
         tables[name] = [own[world.value(name, ())]]
     for name, arity in signature.relations:
-        for row, entry in zip(thing_rows(world.size, arity), world.table(name)):
+        table = world.table(name)
+        for row, entry in zip(thing_rows(world.size, arity), table):
             if entry:
                 tables[name][entry_index(len(places), [own[thing] for thing in row])] = True
     return World(signature, len(places), tables)

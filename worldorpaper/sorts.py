@@ -15,14 +15,14 @@ class Outline:
             raise NotOfKind("the book is not of the kind `single`")
         self.facts = relations_in(book, (0,))
         self.marks = relations_in(book, (1,))
-        self.constants = functions_in(book, (0,))
+        self.standing = functions_in(book, (0,))
         # Without a named thing a case must be able to tell that there is a thing.
-        least = 1 if len(self.constants) == 0 else 0
+        least = 1 if len(self.standing) == 0 else 0
         self.depth = max([quantifier_depth(sentence) for sentence in book.sentences] + [least])
 
     def named_things(self, world):
         """The values of the standing constants, in the order of the first ones that name them."""
-        return list({world.value(name, ()): True for name in self.constants})
+        return list({world.value(name, ()): True for name in self.standing})
 
     def sort_of(self, world, thing):
         """The sort of a thing."""
@@ -32,7 +32,7 @@ class Outline:
         """The case in which a world lies."""
         named = self.named_things(world)
         answers = tuple([world.holds(name, ()) for name in self.facts])
-        places = tuple([named.index(world.value(name, ())) for name in self.constants])
+        places = tuple([named.index(world.value(name, ())) for name in self.standing])
         sorts = tuple([self.sort_of(world, thing) for thing in named])
         others = [self.sort_of(world, thing) for thing in world.things if thing not in named]
         counts = [min(others.count(sort), self.depth) for sort in range(self.count_sorts())]
@@ -46,11 +46,13 @@ class Outline:
         """All cases in their order."""
         cases = []
         many = self.count_sorts()
-        count_rows = list(thing_rows(self.depth + 1, many))
+        amounts = self.depth + 1
+        count_rows = list(thing_rows(amounts, many))
         for digits in thing_rows(2, len(self.facts)):
             answers = tuple([digit == 1 for digit in digits])
-            for places in _place_rows(len(self.constants)):
-                for sorts in thing_rows(many, max(places, default=-1) + 1):
+            for places in _place_rows(len(self.standing)):
+                named = max(places, default=-1) + 1
+                for sorts in thing_rows(many, named):
                     cases.extend([(answers, places, sorts, counts) for counts in count_rows])
         return sorted([case for case in cases if case_size(case) > 0], key=lambda case: (case_size(case), case))
 
@@ -60,7 +62,7 @@ class Outline:
         tables = blank_tables(signature, case_size(case))
         for name, answer in zip(self.facts, answers):
             tables[name] = [answer]
-        for name, place in zip(self.constants, places):
+        for name, place in zip(self.standing, places):
             tables[name] = [place]
         of_things = list(sorts)
         for sort, count in enumerate(counts):
@@ -111,7 +113,7 @@ def partner(book, first, second, thing, *, picked=()):
     outline = Outline(book)
     if outline.case_of(first) != outline.case_of(second):
         raise BadWorld("the worlds lie in different cases")
-    for name in outline.constants:
+    for name in outline.standing:
         if first.value(name, ()) == thing:
             return second.value(name, ())
     for one, other in picked:

@@ -20,7 +20,7 @@ def read_tree(text):
     while not reader.is_at_end():
         reader.new_line()
         reader.node()
-    return reader.tree()
+    return reader.whole()
 
 
 class TreeReader:
@@ -62,7 +62,7 @@ class TreeReader:
             depth += 1
         self.close(depth)
 
-    def tree(self):
+    def whole(self):
         """The tree of all nodes that were read."""
         self.close(0)
         return self.root
