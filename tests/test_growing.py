@@ -103,6 +103,14 @@ class Example(Case):
         clauses = [clause(yes(("P", X))), clause(no(X, X)), ()]
         self.assertEqual(grow(SIGNATURE, clauses, 2).tree, ("false", 1, (0,)))
 
+    def test_false_instances_of_new_and_of_older_things(self):
+        # With the new thing 1 the first clause is false for both things, the second one for the thing 0.
+        clauses = [clause(yes(X, Y)), clause(yes(FX, X)), clause(no(("f", FX), X))]
+        tree = ("cell", "f", (0,), (("false", 2, (0,)), ("false", 0, (0, 1))))
+        self.assertEqual(grow(BARE, clauses, 2).tree, tree)
+        # The other way round, the older instance comes first.
+        self.assertEqual(grow(BARE, clauses[1:2] + clauses[:1] + clauses[2:], 2).tree[3][1], ("false", 0, (0,)))
+
     def test_a_world_at_the_root(self):
         for clauses in [[], (), [clause(yes(X, X))], [clause(yes(A, A))], [clause(yes(X, Y))]]:
             grower = self.call(grow, SIGNATURE, clauses, 2)

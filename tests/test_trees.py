@@ -346,6 +346,12 @@ class Cutting(Case):
         tree = ("cell", "b", (), (split(0, 2), split(1, 0)))
         self.gives(split(0, 2), cut_tree, SIGNATURE, clauses, tree)
 
+    def test_unknowns_with_longer_names(self):
+        clauses = [clause(no(("P", "unknown1"))), clause(yes(("P", "x12")), no("y3", "y3"))]
+        split = ("cell", "P", (0,), (("false", 1, (0, 0)), ("false", 0, (0,))))
+        self.assertEqual(judge_tree(SIGNATURE, clauses, 1, split), "closed")
+        self.gives(split, cut_tree, SIGNATURE, clauses, ("cell", "Q", (), (split, split)))
+
     def test_as_the_points_stand(self):
         shorter = better = 0
         for rng, signature, clauses, grower in drawn_trees(10301, 200):

@@ -108,6 +108,15 @@ class Reading(Case):
                 self.fails_at(line, column, read_tree, text)
             self.assertEqual(fault(text), None if line is None else (line, column), text)
 
+    def test_signs_of_names_and_numbers(self):
+        for name in ("a", "z", "A", "Z", "az09AZ", "Zz9", "m5M", "A0"):
+            self.gives(("cell", name, (9, 10, 90), ()), read_tree, f"cell {name} 9 10 90")
+        for sign in "`{@[/:~!-.":
+            self.fails_at(1, 6, read_tree, "cell " + sign)
+            self.fails_at(1, 7, read_tree, "cell a" + sign)
+            self.fails_at(1, 8, read_tree, "cell a " + sign)
+            self.fails_at(1, 9, read_tree, "cell a 1" + sign)
+
     def test_every_short_text(self):
         for words in itertools.product(("cell a", "beyond", "false 0", "\n", "  ", " ", "0"), repeat=4):
             self.check("".join(words))

@@ -63,9 +63,9 @@ def _fault_below(partial, clauses, limit, tree, must_be_beyond):
     if not partial.is_free(cell) or len(partial.ways(cell)) != len(tree[3]):
         return ()
     for index, entry in enumerate(partial.ways(cell)):
-        # In Python False is the integer 0, so the entry alone does not tell a new thing from a truth.
-        is_new = partial.signature.has_function(cell[0]) and entry == partial.size
-        fault = _fault_below(partial.with_cell(cell, entry), clauses, limit, tree[3][index], is_new and entry == limit)
+        # No entry is greater than the limit, so this one is a new thing. As an entry of a relation True is no integer.
+        is_beyond = partial.signature.has_function(cell[0]) and entry == limit
+        fault = _fault_below(partial.with_cell(cell, entry), clauses, limit, tree[3][index], is_beyond)
         if fault is not None:
             return (index,) + fault
     return None
