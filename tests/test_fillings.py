@@ -4,7 +4,7 @@ import random
 from tests.drawing import SIGNATURE, Case, clause, draw_clauses, no, state, yes
 from worldorpaper.books import Signature
 from worldorpaper.clauses import clause_text, clause_unknowns, fill_clause
-from worldorpaper.fillings import Fillings, closed_terms, named_signature
+from worldorpaper.fillings import Fillings, Levels, closed_terms, named_signature
 from worldorpaper.groundworlds import world_of
 from worldorpaper.hearts import Heart
 from worldorpaper.lines import cut_lines, judge_lines
@@ -87,7 +87,8 @@ class Terms(Case):
     """Point 137."""
 
     def test_named_signature(self):
-        self.assertIs(self.call(named_signature, SIGNATURE), SIGNATURE)
+        for signature in (SIGNATURE, Signature([("f", 1), ("a", 0)], []), Signature([("c1", 0)], [])):
+            self.assertIs(self.call(named_signature, signature), signature)
         for functions, relations, name in [([], [], "c1"), ([("f", 1)], [("P", 1)], "c1"), ([("c1", 1), ("c2", 2)], [], "c3"),
                                            ([("c2", 1)], [("C1", 0)], "c1")]:
             named = self.call(named_signature, Signature(functions, relations))
@@ -113,8 +114,38 @@ class Terms(Case):
                 self.gives(plain_terms(signature, at), closed_terms, signature, at)
 
 
+class LevelsOfTerms(Case):
+    """The levels of point 138, also those that a road does not reach."""
+
+    def taken(self, levels, most):
+        found = []
+        for _ in range(most):
+            found.append(levels.following())
+        return found
+
+    def test_levels_that_end(self):
+        clauses = [clause(yes(("P", X))), clause(no(A, B)), clause(yes(("R", Y, X)))]
+        rows = [(0, [B]), (0, [A]), (1, []), (2, [B, B]), (2, [B, A]), (2, [A, B]), (2, [A, A])]
+        self.assertEqual(self.taken(Levels(FLAT, clauses), 9), rows + [None, None])
+        # Without unknowns deeper terms make no further fillings.
+        self.assertEqual(self.taken(Levels(SMALL, [clause(no(A, B)), ()]), 4), [(0, []), (1, []), None, None])
+        self.assertEqual(self.taken(Levels(SMALL, []), 2), [None, None])
+
+    def test_levels_without_end(self):
+        rows = [(0, []), (1, [A]), (1, [B])]
+        self.assertEqual(self.taken(Levels(SMALL, [(), clause(yes(("P", X)))]), 8),
+                         rows + rows + [(1, [FA]), (1, [("f", B)])])
+
+
 class Road(Case):
     """Points 138 and 139."""
+
+    def test_a_refutation_ends_the_road(self):
+        road = run(Fillings(SMALL, [clause(yes(("P", X))), clause(no(("P", A)))]))
+        before = outcome(road)
+        for _ in range(3):
+            road.step()
+            self.assertEqual(outcome(road), before)
 
     def test_no_clauses(self):
         road = Fillings(SMALL, [])

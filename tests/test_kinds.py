@@ -16,7 +16,7 @@ from worldorpaper.terms import parts_of, unknowns_of
 from worldorpaper.truth import book_true
 
 WORDS = ("listed", "prefix", "single", "linked")
-SIGNATURE = Signature([("a", 0), ("b", 0), ("c", 0), ("f", 1), ("g", 2)],
+SIGNATURE = Signature([("a", 0), ("b", 0), ("c", 0), ("f", 1), ("g", 2), ("h", 3)],
                       [("Q", 0), ("O", 0), ("P", 1), ("M", 1), ("R", 2), ("S", 3)])
 A, B, FA = ("a",), ("b",), ("f", ("a",))
 
@@ -154,8 +154,9 @@ class Names(Case):
         self.gives([], names_in, book())
         self.gives(["a", "P"], names_in, book("P(a)"))
         self.gives(["a", "c", "g", "Q", "R"], names_in, book("all x. R(g(x, c), x)", "Q", "some a1. a1 = a"))
-        # The unknown has the name of no function that stands there.
-        self.gives(["b"], names_in, book("all x. x = b"))
+        # Unknowns that begin with the name of a function.
+        self.gives(["b"], names_in, book("all a1. a1 = b"))
+        self.gives(["b", "P"], names_in, book("all ff. P(ff)", "some c2. c2 != b"))
 
     def test_ground_terms(self):
         self.gives([], ground_terms, book("all x. P(x)", "Q"))
@@ -190,7 +191,8 @@ class Listed(Case):
         for text in ["a = b", "some x. x = a", "all x. x = x", "all x. x = f(x)", "all x. x = a and x = b", "Q",
                      "all x. x = a or P(x)", "all x. x != a", "all x. a = b", "all x. x = a or a = b", "all x. all y. x = a",
                      "all x. all y. x = y", "(all x. x = a) or all x. x = b", "(all x. x = a) and Q",
-                     "all x. x = a implies x = b", "all x. all x. x = a", "all x. some x. x = a"]:
+                     "all x. x = a implies x = b", "all x. all x. x = a", "all x. some x. x = a", "all same. a = b",
+                     "all holds. P(holds)", "all same. P(same)"]:
             self.gives(None, listing, book(text))
             self.assertNotIn("listed", kinds_of(book(text)))
             self.fails(NotOfKind, enough, book(text), "listed")
@@ -213,7 +215,8 @@ class Single(Case):
                             (("some x. some y. x != y", "all x. M(x) and O"), 4), (("some x. P(a) or M(b) and P(c)",), 7)]:
             self.gives(True, is_single, book(*texts))
             self.gives(size, enough, book(*texts), "single")
-        for texts in [("R(a, a)",), ("all x. S(x, x, x)",), ("f(a) = a",), ("all x. P(f(x))",), ("Q", "some x. R(x, a)")]:
+        for texts in [("R(a, a)",), ("all x. S(x, x, x)",), ("f(a) = a",), ("all x. P(f(x))",), ("Q", "some x. R(x, a)"),
+                      ("P(g(a, b))",), ("P(h(a, b, c))",)]:
             self.gives(False, is_single, book(*texts))
             self.fails(NotOfKind, enough, book(*texts), "single")
 
@@ -225,7 +228,8 @@ class Prefix(Case):
         for texts, size in [((), 1), (("Q",), 1), (("all x. R(x, x)",), 1), (("P(f(a))",), 2), (("R(f(a), g(a, b))",), 4),
                             (("some x. all y. R(x, y)",), 1), (("some x. some y. all z. S(x, y, z)", "some x. P(x)"), 3),
                             (("not all x. P(x) or x = f(f(a))",), 4), (("all x. P(x) implies R(x, f(a))",), 2),
-                            (("(some x. P(x)) iff Q",), 1), (("some x. some x. P(x)",), 2)]:
+                            (("(some x. P(x)) iff Q",), 1), (("some x. some x. P(x)",), 2),
+                            (("all xyz. all a1. R(xyz, a1)",), 1), (("some unknown. P(unknown)", "P(h(a, b, c))"), 5)]:
             self.gives(True, is_prefix, book(*texts))
             self.gives(size, enough, book(*texts), "prefix")
         for texts in [("all x. P(f(x))",), ("some x. f(x) = a",), ("all x. some y. R(x, y)",), ("P(a)", "some x. P(g(a, x))"),
@@ -294,7 +298,8 @@ class Linked(Case):
                       ("all x. all x. R(x, x) implies P(x)",), ("all x. all y. all y. S(x, y, y) implies P(x)",),
                       ("all x. all y. R(x, y) implies x != y",), ("all x. all y. x = y implies R(x, y)",),
                       ("all x. all y. not R(x, y) and P(x)",), ("all x. some y. all z. R(y, z) implies P(x)",),
-                      ("all x. all y. R(x, y) iff P(x)",), ("P(f(a))",), ("all x. all y. R(x, a) implies P(y)",),
+                      ("all x. all y. R(x, y) iff P(x)",), ("P(f(a))",), ("P(g(a, a))",), ("P(h(a, a, a))",),
+                      ("all x. all y. R(x, y) and not R(y, x)",), ("all x. all y. R(x, a) implies P(y)",),
                       ("all x. all y. P(x) or not some z. R(x, y)",), ("all x. all y. Q or (P(x) and not R(x, y))",),
                       ("Q", "not S(a, a, a)"), ("all x. all y. not R(x, y) or not R(y, x)",)]:
             self.gives(False, is_linked, book(*texts))

@@ -181,6 +181,13 @@ class Shrinking(Case):
         small = self.shrinks(one, "prefix", world.with_table("P", [False, False, True]))
         self.assertEqual((small.size, small.table("M"), small.table("P")), (1, (False,), (True,)))
 
+    def test_prefix_goes_through_both_sides_of_an_and(self):
+        one = book("(some x. P(x)) and (some x. M(x)) and Q", "not ((all x. P(x)) or all x. M(x))")
+        world = World.blank(SIGNATURE, 5).with_table("Q", [True]).with_table("P", [True, True, False, False, False])
+        small = self.shrinks(one, "prefix", world.with_table("M", [True, False, True, False, True]))
+        # The witnesses are 0, 0, 2 and 1.
+        self.assertEqual((small.size, small.table("P"), small.table("M")), (3, (True, True, False), (True, False, True)))
+
     def test_single(self):
         one = book("some x. some y. x != y and P(x)", "a = a")
         world = World.blank(SIGNATURE, 6).with_table("a", [4]).with_table("P", [False, True, False, True, True, True])

@@ -126,6 +126,14 @@ class Cases(Case):
             # Point 126.
             self.assertEqual(max(case_size(case) for case in cases_of(one)), enough(one, "single"))
 
+    def test_several_standing_constants(self):
+        for count, rows in ((2, 2), (3, 5), (4, 15), (5, 52)):
+            names = "abcde"[:count]
+            head = "".join(f"function {name} 0\n" for name in names)
+            one = book(*[f"{name} = {name}" for name in names], head=head)
+            self.gives(plain_cases(one), cases_of, one)
+            self.assertEqual(len(cases_of(one)), rows)
+
     def test_every_world_lies_in_one(self):
         rng = random.Random(12402)
         for one in BOOKS:
