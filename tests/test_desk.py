@@ -45,7 +45,7 @@ class Lines(Desk):
         for line in ("foo", "Ask", "ask ask", "ask 5", "undo p", "show p", "world 1", "drop", "drop p q", "function", "function a",
                      "function a 0 0", "relation P", "say", "say p", "say p P(a)", "derive p", "follows", "follows P(a)", ":",
                      ": P(a)", "say: P(a)", "say p q: P(a)", "derive: P(a)", "follows p: P(a)", "ask:", "ask: P(a)", "show:", "undo:",
-                     "world:", "drop p:", "drop: p", "function a 0:", "SAY p: P(a)", "says p: P(a)", "say:p P(a)"):
+                     "world:", "drop p:", "drop: p", "function a 0:", "SAY p: P(a)", "says p: P(a)", "say:p P(a)", "foo S 0", "functions c 0", "Relation S 1", "sentence P a"):
             self.writes(["line 6: cannot be done"], line)
 
     def test_the_number_of_the_line(self):
