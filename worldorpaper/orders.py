@@ -62,8 +62,12 @@ class Order:
         """A nested tuple of integers; sides without unknowns compare as these do."""
         if side == TOP:
             return (0,)
-        inner = [self.ground_key(argument) for argument in side[1:]]
-        weight = self.weights[side[0]] + sum([key[0] for key in inner])
+        weight = self.weights[side[0]]
+        inner = []
+        for argument in side[1:]:
+            key = self.ground_key(argument)
+            weight += key[0]
+            inner.append(key)
         return (weight, self._ranks[side[0]]) + tuple(inner)
 
 

@@ -65,9 +65,13 @@ class Rewriter:
         """The side with the normal forms of its arguments, and a text of it."""
         if len(side) == 1:
             return side, side[0]
-        forms = [self._normal(argument) for argument in side[1:]]
-        text = side[0] + "(" + ", ".join([inner for _, inner in forms]) + ")"
-        return side[:1] + tuple([form for form, _ in forms]), text
+        forms = []
+        texts = []
+        for argument in side[1:]:
+            form, text = self._normal(argument)
+            forms.append(form)
+            texts.append(text)
+        return side[:1] + tuple(forms), side[0] + "(" + ", ".join(texts) + ")"
 
 
 def _rewriter_of(rules):

@@ -71,19 +71,28 @@ def term_text(term):
         return "true"
     if len(term) == 1:
         return term[0]
-    return term[0] + "(" + ", ".join([term_text(argument) for argument in term[1:]]) + ")"
+    # Loops nest less deep than comprehensions do, and the road of fillings makes deep terms.
+    texts = []
+    for argument in term[1:]:
+        texts.append(term_text(argument))
+    return term[0] + "(" + ", ".join(texts) + ")"
 
 
 def is_plain(term):
     """Tells whether something is a term that contains neither an atom nor TOP."""
     if isinstance(term, str):
         return True
-    return _is_named(term) and not _begins_capital(term[0]) and _has_plain_arguments(term)
+    if not _is_named(term) or _begins_capital(term[0]):
+        return False
+    for argument in term[1:]:
+        if not is_plain(argument):
+            return False
+    return True
 
 
 def is_atom(side):
     """Tells whether something is an atom of plain terms."""
-    return _is_named(side) and _begins_capital(side[0]) and _has_plain_arguments(side)
+    return _is_named(side) and _begins_capital(side[0]) and all([is_plain(argument) for argument in side[1:]])
 
 
 def _arguments(term):
@@ -111,7 +120,3 @@ def _is_named(side):
 
 def _begins_capital(name):
     return "A" <= name[:1] <= "Z"
-
-
-def _has_plain_arguments(side):
-    return all([is_plain(argument) for argument in side[1:]])
