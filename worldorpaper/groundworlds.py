@@ -9,7 +9,7 @@ from worldorpaper.worlds import World, blank_tables, entry_index
 
 def rules_of(order, clauses):
     """The rules that the clauses make, from the least clause on."""
-    return _rewriter_of([RankedClause(order, clause) for clause in clauses]).rules
+    return _rewriter_from([RankedClause(order, clause) for clause in clauses]).rules
 
 
 def world_of(signature, order, clauses):
@@ -19,7 +19,7 @@ def world_of(signature, order, clauses):
 
 def world_of_ranked(signature, order, ranked):
     """The same for clauses with what the order tells of them."""
-    rewriter = _rewriter_of(ranked)
+    rewriter = _rewriter_from(ranked)
     terms = _terms_in([one.clause for one in ranked])
     names = sorted_terms(order, [rewriter.normal(term) for term in terms])
     if len(names) == 0:
@@ -27,7 +27,7 @@ def world_of_ranked(signature, order, ranked):
     return World(signature, len(names), _tables(signature, rewriter, names)), names
 
 
-def _rewriter_of(ranked):
+def _rewriter_from(ranked):
     # A clause that occurs twice makes no second rule, as the first one makes it true. Clauses are ascending, so the
     # first member of a new rule is not less than any side that was looked at before.
     rewriter = Rewriter()

@@ -29,6 +29,11 @@ def relations_in(book, arities):
     return [name for name in names_in(book) if signature.has_relation(name) and signature.arity(name) in arities]
 
 
+def greatest_depth(book):
+    """The greatest quantifier depth of the sentences of a book, or 0."""
+    return max([quantifier_depth(sentence) for sentence in book.sentences], default=0)
+
+
 def ground_terms(book):
     """The terms without unknowns in a book, parts included, in order of first occurrence."""
     found = {term_text(part): part for part in _term_parts(book) if _is_ground(part)}
@@ -91,8 +96,7 @@ def enough(book, kind):
     sorts = table_length(2, len(relations_in(book, (1,))))
     if kind == "linked":
         return sorts
-    depth = max([quantifier_depth(sentence) for sentence in book.sentences], default=0)
-    return max(1, len(functions_in(book, (0,))) + depth * sorts)
+    return max(1, len(functions_in(book, (0,))) + greatest_depth(book) * sorts)
 
 
 def told_size(book):

@@ -1,8 +1,7 @@
 """Sorts of things, and the finitely many cases that decide books of the kind `single`."""
 
 from worldorpaper.errors import BadWorld, NotOfKind
-from worldorpaper.kinds import functions_in, is_single, relations_in
-from worldorpaper.sentences import quantifier_depth
+from worldorpaper.kinds import functions_in, greatest_depth, is_single, relations_in
 from worldorpaper.truth import book_true
 from worldorpaper.worlds import World, blank_tables, table_length, thing_rows
 
@@ -18,7 +17,7 @@ class Outline:
         self.standing = functions_in(book, (0,))
         # Without a named thing a case must be able to tell that there is a thing.
         least = 1 if len(self.standing) == 0 else 0
-        self.depth = max([quantifier_depth(sentence) for sentence in book.sentences] + [least])
+        self.depth = max(greatest_depth(book), least)
 
     def named_things(self, world):
         """The values of the standing constants, in the order of the first ones that name them."""
