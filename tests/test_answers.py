@@ -63,7 +63,8 @@ class Answers(Case):
         self.assertEqual((answer.verdict, answer.world, answer.paper, answer.rounds), ("open", None, None, 0))
         world = World.blank(Signature([], []), 1)
         answer = Answer("world", world=world, paper=("cases", ()), rounds=7)
-        self.assertEqual((answer.verdict, answer.world, answer.paper, answer.rounds), ("world", world, ("cases", ()), 7))
+        self.assertEqual((answer.verdict, answer.world, answer.paper, answer.rounds),
+                         ("world", world, ("cases", ()), 7))
 
 
 class Judging(Case):
@@ -166,7 +167,8 @@ class Judging(Case):
         other = Signature(one.signature.functions[::-1], one.signature.relations)
         self.refuses(one, "world", world=World(other, 1, {name: world.table(name) for name in "abfPRQ"}))
         wider = one.signature.extended([("c", 0)])
-        self.refuses(one, "world", world=World(wider, 1, {name: [0] if name == "c" else world.table(name) for name in "abfPRQc"}))
+        self.refuses(one, "world",
+                     world=World(wider, 1, {name: [0] if name == "c" else world.table(name) for name in "abfPRQc"}))
         # No form is needed.
         self.takes(WIDE, "world", world=World(WIDE.signature, 1, {"R": [True]}))
 
@@ -200,7 +202,8 @@ class Judging(Case):
 
     def test_cases_before_for_other_books(self):
         one = read("P(a)", "some x. not P(x)", "R(a, a)")
-        world = World.blank(one.signature, 2).with_table("P", [True, False]).with_table("R", [True, False, False, False])
+        world = World.blank(one.signature, 2).with_table("P", [True, False]).with_table("R",
+            [True, False, False, False])
         self.refuses(one, "world", world=world, paper=("cases", (0, 1)))
         self.takes(one, "world", world=world, paper=tree_paper(one, 1))
 
@@ -219,7 +222,8 @@ class Judging(Case):
         for _ in range(150):
             one = draw_book(rng)
             cases = rng.random() < 0.5
-            answer = decide(one, 60, deal=rng.choice(((1, 0), (1, 1), (1, 3))), cases=cases, elder_every=rng.randint(0, 2))
+            answer = decide(one, 60, deal=rng.choice(((1, 0), (1, 1), (1, 3))), cases=cases,
+                            elder_every=rng.randint(0, 2))
             self.gives(True, judge_answer, one, answer)
             word = answer.paper[0] if answer.paper else ""
             seen[(answer.verdict, word)] = seen.get((answer.verdict, word), 0) + 1

@@ -26,7 +26,8 @@ def bench(*rows):
 
 def shown(one):
     """All that a bench shows, without asking it anything."""
-    return state([one.labels(), one.derived(), [one.sentence(label) for label in one.labels()], list(one.book().sentences),
+    return state([one.labels(), one.derived(), [one.sentence(label) for label in one.labels()],
+                  list(one.book().sentences),
                   list(one.full_book().sentences), one.deeds()])
 
 
@@ -69,7 +70,8 @@ class Sentences(Case):
     def test_sentences_that_do_not_fit(self):
         one = bench(("one", "Q"))
         before = shown(one)
-        for error, sentence in [(BadSentence, ("holds", ("Z",))), (BadSentence, ("holds", ("P",))), (BadTerm, ("holds", ("P", "x"))),
+        for error, sentence in [(BadSentence, ("holds", ("Z",))), (BadSentence, ("holds", ("P",))),
+                                (BadTerm, ("holds", ("P", "x"))),
                                 (BadTerm, ("same", ("a",), ("e",))), (BadSentence, ("all", "f", s("Q")))]:
             self.fails(error, one.add, "new", sentence)
             self.fails(error, one.derive, "new", sentence)
@@ -175,14 +177,16 @@ class Deriving(Case):
                     if index < len(labels):
                         name = labels[index]
                         deeper += name not in one.labels()
-                        rests |= {name} if name in one.labels() else set(dict((row[0], row[2]) for row in derived)[name])
+                        rests |= {name} if name in one.labels() else set(dict((row[0],
+                            row[2]) for row in derived)[name])
                 expected = (label, s(text), tuple(name for name in one.labels() if name in rests))
                 self.assertEqual(one.derived(), derived + [expected])
         self.assertGreater(min(counts["yes"], counts["no"]), 20)
         self.assertGreater(deeper, 20)
 
 
-TEXTS = ("P(a)", "Q", "all x. P(x) implies M(x)", "M(a)", "M(a) or Q", "not P(b)", "some x. P(x)", "Q implies O", "O", "a = b",
+TEXTS = ("P(a)", "Q", "all x. P(x) implies M(x)", "M(a)", "M(a) or Q", "not P(b)", "some x. P(x)", "Q implies O", "O",
+         "a = b",
          "P(b)", "some x. not M(x)", "Q or not O", "all x. R(x, f(x))", "R(a, f(a))", "some y. R(a, y)")
 # A derived sentence can make one needless from which it follows.
 LINKED = ("R(a, a) or Q", "not Q", "R(a, a)", "some x. R(x, x)", "R(a, a) and O", "R(a, a) or O", "O", "Q implies O",
@@ -336,7 +340,8 @@ class Deeds(Case):
         one.derive("r", s("P(a) or Q"), 50)
         one.ask()
         one.drop("q")
-        expected = [("add", "p", s("P(a)")), ("derive", "q", s("some x. P(x)"), None), ("derive", "r", s("P(a) or Q"), 50),
+        expected = [("add", "p", s("P(a)")), ("derive", "q", s("some x. P(x)"), None),
+                    ("derive", "r", s("P(a) or Q"), 50),
                     ("drop", "q")]
         self.gives(expected, one.deeds)
         for error, label in ((BadDeed, "p"), (BadSentence, "new")):

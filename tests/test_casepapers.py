@@ -65,7 +65,8 @@ class Papers(Case):
         self.gives(None, cases_before_paper, one, 10 ** 20)
         self.gives(True, judge_cases_before, one, 1, ())
         self.gives(True, judge_cases_before, one, 2, (0,))
-        for size, paper in [(1, (0,)), (2, ()), (2, (1,)), (2, (-2,)), (2, (2,)), (2, (0, 0)), (3, (0,)), (3, (0, 0)), (3, (0, 1))]:
+        for size, paper in [(1, (0,)), (2, ()), (2, (1,)), (2, (-2,)), (2, (2,)), (2, (0, 0)), (3, (0,)), (3, (0, 0)),
+                            (3, (0, 1))]:
             self.gives(False, judge_cases_before, one, size, paper)
 
     def test_size_1(self):

@@ -71,10 +71,13 @@ class PlainDecider:
 
 def draw_tight(rng):
     """A book of so many sentences that it often has no world, or none of one thing."""
-    texts = ["a != b", "all x. P(x) or R(x, x)", "all x. not P(x) or not R(x, f(x))", "all x. f(x) != x", "all x. R(x, f(x))",
-             "some x. not P(x)", "all x. P(x) implies P(f(x))", "P(a)", "not P(f(f(a)))", "all x. all y. R(x, y) implies P(y)",
+    texts = ["a != b", "all x. P(x) or R(x, x)", "all x. not P(x) or not R(x, f(x))", "all x. f(x) != x",
+             "all x. R(x, f(x))",
+             "some x. not P(x)", "all x. P(x) implies P(f(x))", "P(a)", "not P(f(f(a)))",
+             "all x. all y. R(x, y) implies P(y)",
              "all x. all y. R(x, y) implies R(y, x)", "not R(f(a), a)", "all x. f(f(x)) = x", "all x. x = a or x = b",
-             "all x. some y. R(x, y) and not P(y)", "some x. all y. not R(x, y)", "f(a) = f(b)", "Q", "Q implies a = f(a)"]
+             "all x. some y. R(x, y) and not P(y)", "some x. all y. not R(x, y)", "f(a) = f(b)", "Q",
+             "Q implies a = f(a)"]
     return read(*rng.sample(texts, rng.randint(2, 8)))
 
 
@@ -100,7 +103,8 @@ class Start(Case):
         self.assertIs(decider.book, one)
         self.assertEqual(decider.form.clauses, form_of(one).clauses)
         self.assertEqual(decider.clauses, tuple(decided_clauses(form_of(one))))
-        self.assertEqual((decider.told, decider.rounds, decider.limit, decider.answer, decider.found), (2, 0, 1, None, None))
+        self.assertEqual((decider.told, decider.rounds, decider.limit, decider.answer, decider.found),
+                         (2, 0, 1, None, None))
         self.gives(False, decider.has_answer)
         self.assertIsNone(Decider(ENDLESS).told)
 
@@ -126,10 +130,12 @@ class Roads(Case):
         decider = Decider(book("P(a)", "some x. not P(x)"))
         self.assertIsNone(decider.step())
         answer = decider.answer
-        self.assertEqual((answer.verdict, answer.world.size, answer.paper, answer.rounds), ("world", 2, ("cases", (0, 1)), 1))
+        self.assertEqual((answer.verdict, answer.world.size, answer.paper, answer.rounds),
+                         ("world", 2, ("cases", (0, 1)), 1))
         self.assertEqual((decider.rounds, decider.limit, decider.found), (1, 1, None))
         answer = decide(book("P(a)", "not P(a)"))
-        self.assertEqual((answer.verdict, answer.world, answer.paper, answer.rounds), ("refuted", None, ("cases", (0, 1)), 1))
+        self.assertEqual((answer.verdict, answer.world, answer.paper, answer.rounds),
+                         ("refuted", None, ("cases", (0, 1)), 1))
         answer = decide(book("P(a)"))
         self.assertEqual((answer.verdict, answer.world.size, answer.paper, answer.rounds), ("world", 1, None, 1))
         # Whatever the deal is.
@@ -138,7 +144,8 @@ class Roads(Case):
     def test_no_cases(self):
         decider = Decider(book("P(a)", "some x. not P(x)"), cases=False)
         answer = decider.run()
-        self.assertEqual((answer.verdict, answer.world.size, answer.paper[:2], decider.limit), ("world", 2, ("tree", 1), 2))
+        self.assertEqual((answer.verdict, answer.world.size, answer.paper[:2], decider.limit),
+                         ("world", 2, ("tree", 1), 2))
         answer = decide(book("P(a)", "not P(a)"), cases=False)
         self.assertEqual((answer.verdict, answer.paper[0]), ("refuted", "tree"))
 
@@ -176,7 +183,8 @@ class Roads(Case):
             decider.step()
         found = decider.found
         self.assertTrue(book_true(found, one))
-        self.assertEqual((found.signature.functions, found.signature.relations), (one.signature.functions, one.signature.relations))
+        self.assertEqual((found.signature.functions, found.signature.relations),
+                         (one.signature.functions, one.signature.relations))
         self.assertIsNone(decider.answer)
         before = decider.rounds
         answer = decider.run()
@@ -222,7 +230,8 @@ class Verdicts(Case):
             one = draw_tight(rng)
             answers = []
             for _ in range(4):
-                answer = decide(one, 150, picks=[rng.randrange(4) for _ in range(rng.randint(0, 2))], elder_every=rng.randint(0, 2),
+                answer = decide(one, 150, picks=[rng.randrange(4) for _ in range(rng.randint(0, 2))],
+                                elder_every=rng.randint(0, 2),
                                 deal=rng.choice(((1, 0), (1, 1), (1, 4))), cases=rng.random() < 0.5)
                 if answer.verdict != "open":
                     answers.append((answer.verdict, answer.world and answer.world.size))
@@ -309,7 +318,8 @@ class Runs(Case):
                 part = rng.randint(0, left)
                 answer = decider.run(part)
                 left -= part
-            self.assertEqual(state([answer.verdict, answer.rounds, answer.paper]), state([whole.verdict, whole.rounds, whole.paper]))
+            self.assertEqual(state([answer.verdict, answer.rounds, answer.paper]),
+                             state([whole.verdict, whole.rounds, whole.paper]))
             self.assertEqual(answer.world and tables(one, answer.world), whole.world and tables(one, whole.world))
 
     def test_run_and_decide_without_rounds(self):
@@ -322,4 +332,5 @@ class Runs(Case):
         world = decide(one).world
         self.assertEqual((world.signature.functions, world.size), (one.signature.functions, 2))
         self.assertIsInstance(world, World)
-        self.assertEqual(Signature(one.signature.functions, one.signature.relations).relations, world.signature.relations)
+        self.assertEqual(Signature(one.signature.functions, one.signature.relations).relations,
+                         world.signature.relations)

@@ -37,19 +37,25 @@ class Lines(Desk):
 
     def test_spaces(self):
         self.writes(["said p", "world of 1 thing"], "  say    p  :  P(a)  ", "   ask  ")
-        self.writes(["said p", "yes", "dropped p", "nothing"], "say p:P(a)", "follows   :P(a)", "   drop   p  ", " show ")
+        self.writes(["said p", "yes", "dropped p", "nothing"], "say p:P(a)", "follows   :P(a)", "   drop   p  ",
+                    " show ")
         self.alone(["function a", "relation P"], "   function   a   0  ", "relation P  1")
         self.alone(["line 1: cannot be done", "line 2: cannot be done"], "\task", "function\ta 0")
 
     def test_lines_that_are_no_commands(self):
-        for line in ("foo", "Ask", "ask ask", "ask 5", "undo p", "show p", "world 1", "drop", "drop p q", "function", "function a",
-                     "function a 0 0", "relation P", "say", "say p", "say p P(a)", "derive p", "follows", "follows P(a)", ":",
-                     ": P(a)", "say: P(a)", "say p q: P(a)", "derive: P(a)", "follows p: P(a)", "ask:", "ask: P(a)", "show:", "undo:",
-                     "world:", "drop p:", "drop: p", "function a 0:", "SAY p: P(a)", "says p: P(a)", "say:p P(a)", "foo S 0", "functions c 0", "Relation S 1", "sentence P a"):
+        for line in ("foo", "Ask", "ask ask", "ask 5", "undo p", "show p", "world 1", "drop", "drop p q", "function",
+                     "function a",
+                     "function a 0 0", "relation P", "say", "say p", "say p P(a)", "derive p", "follows",
+                     "follows P(a)", ":",
+                     ": P(a)", "say: P(a)", "say p q: P(a)", "derive: P(a)", "follows p: P(a)", "ask:", "ask: P(a)",
+                     "show:", "undo:",
+                     "world:", "drop p:", "drop: p", "function a 0:", "SAY p: P(a)", "says p: P(a)", "say:p P(a)",
+                     "foo S 0", "functions c 0", "Relation S 1", "sentence P a"):
             self.writes(["line 6: cannot be done"], line)
 
     def test_the_number_of_the_line(self):
-        self.alone(["line 3: cannot be done", "nothing", "line 6: cannot be done"], "", "# x", "foo", "show", "  ", "bar")
+        self.alone(["line 3: cannot be done", "nothing", "line 6: cannot be done"], "", "# x", "foo", "show", "  ",
+                   "bar")
 
     def test_the_first_colon_counts(self):
         self.writes(["line 6: cannot be read at 1, 6"], "say p: P(a): Q")
@@ -58,7 +64,8 @@ class Lines(Desk):
 
 class Declaring(Desk):
     def test_declarations(self):
-        self.alone(["function a", "relation P", "function b", "said x", "world of 1 thing", "things 1", "a = 0", "b = 0", "P = yes"],
+        self.alone(["function a", "relation P", "function b", "said x", "world of 1 thing", "things 1", "a = 0",
+                    "b = 0", "P = yes"],
                    "function a 0", "relation P 1", "function b 0", "say x: P(a) and P(b)", "ask", "world")
 
     def test_arities(self):
@@ -75,23 +82,29 @@ class Declaring(Desk):
                 self.alone(["line 1: does not fit", "nothing"], f"{word} {name} 1", "show")
                 # The arity is looked at before the name.
                 self.alone(["line 1: cannot be done"], f"{word} {name} 4")
-        self.alone(["function a", "line 2: does not fit", "line 3: does not fit"], "function a 0", "function a 0", "function a 1")
+        self.alone(["function a", "line 2: does not fit", "line 3: does not fit"], "function a 0", "function a 0",
+                   "function a 1")
         self.alone(["relation P", "line 2: does not fit", "function a", "relation R"],
                    "relation P 0", "relation P 2", "function a 0", "relation R 2")
 
     def test_declarations_that_come_too_late(self):
         for command, lines in [("say p: P(a)", ["said p"]), ("derive p: P(a)", ["p: no"]), ("follows: P(a)", ["no"]),
-                               ("drop p", ["line 6: cannot be done"]), ("ask", ["world of 1 thing"]), ("undo", ["nothing to undo"]),
+                               ("drop p", ["line 6: cannot be done"]), ("ask", ["world of 1 thing"]),
+                               ("undo", ["nothing to undo"]),
                                ("show", ["nothing"]), ("say p: (", ["line 6: cannot be read at 1, 3"]),
-                               ("say P: P(a)", ["line 6: cannot be done"]), ("derive 1: (", ["line 6: cannot be read at 1, 3"]),
-                               ("follows: ", ["line 6: cannot be read at 1, 2"]), ("follows:", ["line 6: cannot be read at 1, 1"]),
+                               ("say P: P(a)", ["line 6: cannot be done"]),
+                               ("derive 1: (", ["line 6: cannot be read at 1, 3"]),
+                               ("follows: ", ["line 6: cannot be read at 1, 2"]),
+                               ("follows:", ["line 6: cannot be read at 1, 1"]),
                                ("derive Q: P(a)", ["line 6: cannot be done"])]:
-            self.writes(lines + ["line 7: cannot be done", "line 8: cannot be done"], command, "function c 0", "relation S 3")
+            self.writes(lines + ["line 7: cannot be done", "line 8: cannot be done"], command, "function c 0",
+                        "relation S 3")
             # Whether names can be declared is looked at before the name.
             self.writes(lines + ["line 7: cannot be done"], command, "function a 0")
 
     def test_lines_after_which_names_can_be_declared(self):
-        for command in ("world", "foo", "say", "say p q: P(a)", "follows p: P(a)", "drop", "drop p q", "ask it", "show:", "undo 1",
+        for command in ("world", "foo", "say", "say p q: P(a)", "follows p: P(a)", "drop", "drop p q", "ask it",
+                        "show:", "undo 1",
                         ": P(a)", "function b 7", "relation P", "# ask"):
             lines = [] if command[0] == "#" else ["line 6: cannot be done"]
             self.writes(lines + ["function c", "said p"], command, "function c 0", "say p: P(c)")
@@ -104,12 +117,14 @@ class Declaring(Desk):
 
 class Sentences(Desk):
     def test_say(self):
-        self.writes(["said p", "said all1", "p: P(a)", "all1: all x. R(x, f(x))"], "say p: P(a)", "say all1: all x. R(x, f(x))", "show")
+        self.writes(["said p", "said all1", "p: P(a)", "all1: all x. R(x, f(x))"], "say p: P(a)",
+                    "say all1: all x. R(x, f(x))", "show")
         self.writes(["line 6: cannot be done", "nothing"], "say all: P(a)", "show")
         self.writes(["said p", "line 7: cannot be done", "p: P(a)"], "say p: P(a)", "say p: Q", "show")
 
     def test_sentences_that_cannot_be_read(self):
-        for text, column in ((" P(b)", 4), ("P(b)", 3), ("", 1), ("   ", 4), (" P(a) and", 10), (" P(a) Q", 7), (" all a. Q", 6), (" !", 2),
+        for text, column in ((" P(b)", 4), ("P(b)", 3), ("", 1), ("   ", 4), (" P(a) and", 10), (" P(a) Q", 7),
+                             (" all a. Q", 6), (" !", 2),
                              (" a", 3), (" P(a)) ", 6), (":", 1), (" x = a", 2)):
             for command in ("say p", "derive p", "follows", "say ", "derive P", "say p "):
                 if command.split() in (["say"], ["derive"]):
@@ -118,7 +133,8 @@ class Sentences(Desk):
                     self.writes([f"line 6: cannot be read at 1, {column}", "nothing"], command + ":" + text, "show")
 
     def test_the_sentence_is_read_before_the_label_is_checked(self):
-        self.writes(["said p", "line 7: cannot be read at 1, 2", "line 8: cannot be read at 1, 2", "line 9: cannot be done"],
+        self.writes(["said p", "line 7: cannot be read at 1, 2", "line 8: cannot be read at 1, 2",
+                     "line 9: cannot be done"],
                     "say p: Q", "say p: x", "derive NO: x", "derive NO: Q")
 
     def test_drop(self):
@@ -126,7 +142,8 @@ class Sentences(Desk):
                     "say p: Q", "drop p", "drop p", "drop Q", "show")
 
     def test_undo(self):
-        self.writes(["nothing to undo", "said p", "undone", "nothing to undo", "nothing"], "undo", "say p: Q", "undo", "undo", "show")
+        self.writes(["nothing to undo", "said p", "undone", "nothing to undo", "nothing"], "undo", "say p: Q", "undo",
+                    "undo", "show")
         self.writes(["said p", "d: yes", "dropped p", "undone", "p: Q", "d: (Q or P(a)) [from p]", "undone", "p: Q"],
                     "say p: Q", "derive d: Q or P(a)", "drop p", "undo", "show", "undo", "show")
 
@@ -139,24 +156,30 @@ class Sentences(Desk):
 
 class Questions(Desk):
     def test_derive_and_follows(self):
-        self.writes(["said p", "d: yes", "e: no", "yes", "no", "no", "p: P(a)", "d: some x. P(x) [from p]"], "say p: P(a)",
-                    "derive d: some x. P(x)", "derive e: Q", "follows: not not P(a)", "follows: Q", "follows: not Q", "show")
+        self.writes(["said p", "d: yes", "e: no", "yes", "no", "no", "p: P(a)", "d: some x. P(x) [from p]"],
+                    "say p: P(a)",
+                    "derive d: some x. P(x)", "derive e: Q", "follows: not not P(a)", "follows: Q", "follows: not Q",
+                    "show")
         # Derived sentences count for what follows.
-        self.writes(["said p", "d: yes", "yes", "dropped p", "no"], "say p: P(a)", "derive d: P(a) or Q", "follows: Q or P(a)",
+        self.writes(["said p", "d: yes", "yes", "dropped p", "no"], "say p: P(a)", "derive d: P(a) or Q",
+                    "follows: Q or P(a)",
                     "drop p", "follows: Q or P(a)")
 
     def test_rounds(self):
         endless = ("say one: all x. f(x) != a", "say two: all x. all y. f(x) != f(y) or x = y")
         said = ["said one", "said two"]
-        self.writes(said + ["open", "d: open", "open", "line 11: cannot be done"], *endless, "ask", "derive d: P(a)", "follows: Q", "world")
+        self.writes(said + ["open", "d: open", "open", "line 11: cannot be done"], *endless, "ask", "derive d: P(a)",
+                    "follows: Q", "world")
         for rounds in (0, 3, 50):
             self.writes(said + ["open"], *endless, "ask", rounds=rounds)
         chain = ("say one: all x. P(x) implies P(f(x))", "say two: P(a)", "follows: P(f(f(a)))")
         self.writes(said + ["yes"], *chain)
         self.writes(said + ["open"], *chain, rounds=5)
         # A book that has a told size gets no limit.
-        self.writes(["said one", "refuted by cases", "yes"], "say one: P(a) and not P(a)", "ask", "follows: Q", rounds=0)
-        self.writes(["said one", "said two", "refuted by tree"], "say one: R(a, a)", "say two: all x. not R(x, x)", "ask", rounds=0)
+        self.writes(["said one", "refuted by cases", "yes"], "say one: P(a) and not P(a)", "ask", "follows: Q",
+                    rounds=0)
+        self.writes(["said one", "said two", "refuted by tree"], "say one: R(a, a)", "say two: all x. not R(x, x)",
+                    "ask", rounds=0)
 
     def test_ask(self):
         self.writes(["world of 1 thing"], "ask")
@@ -167,15 +190,18 @@ class Questions(Desk):
 
     def test_world(self):
         self.writes(["line 6: cannot be done"], "world")
-        self.writes(["said p", "world of 2 things", "things 2", "a = 0", "f = 0 0", "P = yes  no", "R = no no, no no", "Q = yes"],
+        self.writes(["said p", "world of 2 things", "things 2", "a = 0", "f = 0 0", "P = yes  no", "R = no no, no no",
+                     "Q = yes"],
                     "say p: P(a) and Q and some x. not P(x)", "ask", "world")
         # The last answer, also if the book is another one now, and also an answer without a world.
         self.gives(["relation Q", "said p", "world of 1 thing", "said q", "things 1", "Q = yes", "refuted by cases",
-                    "line 7: cannot be done", "dropped q", "line 9: cannot be done", "world of 1 thing", "things 1", "Q = yes"],
+                    "line 7: cannot be done", "dropped q", "line 9: cannot be done", "world of 1 thing", "things 1",
+                    "Q = yes"],
                    run, "relation Q 0\nsay p: Q\nask\nsay q: not Q\nworld\nask\nworld\ndrop q\nworld\nask\nworld")
 
     def test_kept_answers(self):
-        self.gives(["relation Q", "said p", "world of 1 thing", "said q", "refuted by cases", "undone", "world of 1 thing"],
+        self.gives(["relation Q", "said p", "world of 1 thing", "said q", "refuted by cases", "undone",
+                    "world of 1 thing"],
                    run, "relation Q 0\nsay p: Q\nask\nsay q: not Q\nask\nundo\nask")
 
 
@@ -183,7 +209,8 @@ class Failing(Desk):
     def test_a_book_without_a_form(self):
         wide = "all x. all y. all z. all u. some v. R(x, v) and R(y, v) and R(z, v) and R(u, v)"
         lines = run(HEAD + "say w: " + wide + "\nask\nderive d: Q\nfollows: Q\nundo\nask\nworld")[len(DECLARED):]
-        self.assertEqual(lines[:6], ["said w", "line 7: does not fit", "line 8: does not fit", "line 9: does not fit", "undone",
+        self.assertEqual(lines[:6], ["said w", "line 7: does not fit", "line 8: does not fit", "line 9: does not fit",
+                                     "undone",
                                      "world of 1 thing"])
 
     def test_a_failing_ask_keeps_the_last_answer(self):
@@ -194,7 +221,8 @@ class Failing(Desk):
 
     def test_a_failing_command_changes_nothing(self):
         commands = ["say p: P(a)", "derive d: some x. P(x)", "ask"]
-        wrong = ["say p: Q", "say q: x", "drop z", "derive d: Q", "derive p: P(a)", "derive e: P(b)", "foo", "function g 1", "say Z: Q",
+        wrong = ["say p: Q", "say q: x", "drop z", "derive d: Q", "derive p: P(a)", "derive e: P(b)", "foo",
+                 "function g 1", "say Z: Q",
                  "drop", "follows: P(", "ask 1", "undo it", "relation P 1"]
         mixed = commands + wrong + ["show", "world", "undo", "show", "ask"]
         good = commands + ["show", "world", "undo", "show", "ask"]
@@ -247,7 +275,8 @@ class Plain:
 
 
 class Drawn(Desk):
-    TEXTS = (" P(a)", "Q", " all x. P(x) implies Q ", "not Q", " some x. not P(x)", " P(", " a = f(a)", " R(a, f(a))", "b = a", " Q or P(a)",
+    TEXTS = (" P(a)", "Q", " all x. P(x) implies Q ", "not Q", " some x. not P(x)", " P(", " a = f(a)", " R(a, f(a))",
+             "b = a", " Q or P(a)",
              " all x. f(x) != x", " not P(f(a)) ", " all x. some y. R(x, y)")
 
     def test_as_the_points_stand(self):
@@ -257,8 +286,10 @@ class Drawn(Desk):
         for _ in range(120):
             plain, lines, expected = Plain(signature, 30), [], []
             for number in range(6, 24):
-                kind = rng.choice(("say", "say", "say", "derive", "derive", "follows", "drop", "undo", "ask", "ask", "world", "show"))
-                label = rng.choice(("p", "q", "r", "s1", "all", "A", "longlonglonglong")) if kind in ("say", "derive", "drop") else None
+                kind = rng.choice(("say", "say", "say", "derive", "derive", "follows", "drop", "undo", "ask", "ask",
+                                   "world", "show"))
+                label = rng.choice(("p", "q", "r", "s1", "all", "A", "longlonglonglong")) if kind in ("say", "derive",
+                    "drop") else None
                 text = rng.choice(self.TEXTS) if kind in ("say", "derive", "follows") else None
                 space = rng.choice(("", "", " ", "   "))
                 words = space + kind + (" " + space + label if label else "") + space
@@ -267,6 +298,7 @@ class Drawn(Desk):
                 expected += written
                 seen[written[0].split(":")[-1]] = True
             self.gives(DECLARED + expected, run, HEAD + "\n".join(lines), 30)
-        for word in ("undone", "nothing", "nothing to undo", "world of 1 thing", "world of 2 things", "refuted by cases", "refuted by tree",
+        for word in ("undone", "nothing", "nothing to undo", "world of 1 thing", "world of 2 things",
+                     "refuted by cases", "refuted by tree",
                      "yes", "no", "said p", "dropped p", " yes", " no", " cannot be done"):
             self.assertIn(word, seen)

@@ -25,7 +25,8 @@ def plain_terms(signature, depth):
         before = list(terms)
         for name, arity in signature.functions:
             if arity >= 1:
-                terms += [(name,) + row for row in itertools.product(before, repeat=arity) if (name,) + row not in before]
+                terms += [(name,) + row for row in itertools.product(before, repeat=arity) if (name,
+                    ) + row not in before]
     return terms
 
 
@@ -72,7 +73,8 @@ class PlainFillings:
 
 def outcome(road):
     heart = road.heart
-    return state([road.put_in, road.world, heart.given, heart.rows, heart.kept, heart.waiting, heart.steps, heart.refuted])
+    return state([road.put_in, road.world, heart.given, heart.rows, heart.kept, heart.waiting, heart.steps,
+                  heart.refuted])
 
 
 def run(road, most=2000):
@@ -89,7 +91,8 @@ class Terms(Case):
     def test_named_signature(self):
         for signature in (SIGNATURE, Signature([("f", 1), ("a", 0)], []), Signature([("c1", 0)], [])):
             self.assertIs(self.call(named_signature, signature), signature)
-        for functions, relations, name in [([], [], "c1"), ([("f", 1)], [("P", 1)], "c1"), ([("c1", 1), ("c2", 2)], [], "c3"),
+        for functions, relations, name in [([], [], "c1"), ([("f", 1)], [("P", 1)], "c1"),
+                                           ([("c1", 1), ("c2", 2)], [], "c3"),
                                            ([("c2", 1)], [("C1", 0)], "c1")]:
             named = self.call(named_signature, Signature(functions, relations))
             self.assertEqual((named.functions, named.relations), (tuple(functions) + ((name, 0),), tuple(relations)))
@@ -166,7 +169,8 @@ class Road(Case):
         self.assertIsNotNone(run(road).heart.refuted)
 
     def test_clauses_without_unknowns(self):
-        for clauses in [[()], [clause(yes(A, B)), clause(no(A, B))], [clause(yes(("P", A))), clause(no(("P", B))), clause(yes(A, B))]]:
+        for clauses in [[()], [clause(yes(A, B)), clause(no(A, B))], [clause(yes(("P", A))), clause(no(("P", B))),
+            clause(yes(A, B))]]:
             road = run(Fillings(SMALL, clauses))
             self.assertIsNotNone(road.heart.refuted)
             self.assertIsNone(road.world)
@@ -177,7 +181,8 @@ class Road(Case):
             self.assertEqual([reason[0] for _, reason in rows][:2], ["given", "fill"])
         self.assertEqual(state(run(Fillings(SMALL, [()])).paper()), state([((), ("given", 0)), ((), ("fill", 0, ()))]))
         # All fillings of all levels are in when the third one is due.
-        clauses = [clause(yes(A, B)), clause(yes(FA, B)), clause(yes(("Q",))), clause(yes(("P", A))), clause(no(("P", FA)))]
+        clauses = [clause(yes(A, B)), clause(yes(FA, B)), clause(yes(("Q",))), clause(yes(("P", A))),
+                   clause(no(("P", FA)))]
         road = run(Fillings(SMALL, clauses))
         self.assertEqual(sorted(index for index, _ in road.put_in), [0, 1, 2, 3, 4])
 
@@ -212,7 +217,8 @@ class Road(Case):
         self.assertTrue(judge_lines(road.signature, [clause(yes(("P", X))), clause(no(("P", Y)))], road.paper()))
 
     def test_picks_are_those_of_the_heart(self):
-        clauses = [clause(yes(("P", X)), yes(("Q",))), clause(no(("P", FX)), no(("Q",))), clause(yes(X, A), yes(("P", A)))]
+        clauses = [clause(yes(("P", X)), yes(("Q",))), clause(no(("P", FX)), no(("Q",))),
+                   clause(yes(X, A), yes(("P", A)))]
         for picks in ((), [1], (3, 0, 2)):
             road, plain = Fillings(SMALL, clauses, picks), PlainFillings(SMALL, clauses, picks)
             for _ in range(40):
@@ -262,6 +268,7 @@ class Road(Case):
             self.assertTrue(run(Fillings(FLAT, clauses), 5000).has_ended())
 
     def test_a_refutation_by_deep_terms(self):
-        clauses = [clause(yes(("P", A))), clause(no(("P", X)), yes(("P", FX))), clause(no(("P", ("f", ("f", ("f", FA))))))]
+        clauses = [clause(yes(("P", A))), clause(no(("P", X)), yes(("P", FX))),
+                   clause(no(("P", ("f", ("f", ("f", FA))))))]
         road = run(Fillings(SMALL, clauses))
         self.assertTrue(judge_lines(SMALL, clauses, self.call(road.paper)))

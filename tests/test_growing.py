@@ -167,7 +167,8 @@ class Choices(Case):
 
     def test_eldest_by_the_greatest_thing(self):
         # At the second node the things are 0 and 1, and the cells P at 1, R at 0 and 0, P at 0, and others.
-        clauses = [clause(no(A, B)), clause(yes(("P", B)), yes(("R", A, A))), clause(no(("P", X))), clause(no(("R", X, Y)))]
+        clauses = [clause(no(A, B)), clause(yes(("P", B)), yes(("R", A, A))), clause(no(("P", X))),
+                   clause(no(("R", X, Y)))]
         tree = grow(SIGNATURE, clauses, 2, elder_every=2).tree
         self.assertEqual(tree[1:3], ("b", ()))
         self.assertEqual(tree[3][1][1:3], ("R", (0, 0)))

@@ -9,7 +9,7 @@ from worldorpaper.forms import form_of
 from worldorpaper.growing import Grower
 from worldorpaper.kinds import (enough, ground_terms, is_linked, is_prefix, is_single, kinds_of, listing, names_in,
                                 told_size)
-from worldorpaper.reading import read_book, read_sentence
+from worldorpaper.reading import read_sentence
 from worldorpaper.sentences import quantifier_depth
 from worldorpaper.shaping import negation_form
 from worldorpaper.terms import parts_of, unknowns_of
@@ -45,7 +45,8 @@ def terms(one):
 
 
 def plain_names(one):
-    found = {part[0] for basic in basics(one) for side in basic[1:] for part in parts_of(side) if isinstance(part, tuple)}
+    found = {part[0] for basic in basics(one) for side in basic[1:] for part in parts_of(side) if isinstance(part,
+        tuple)}
     return [name for name, _ in one.signature.functions + one.signature.relations if name in found]
 
 
@@ -137,7 +138,8 @@ def draw_over(rng, signature):
             words = rng.choice((
                 "all x. x = a or b = x", "all x. (x = a or x = f(a)) or (x = b or x = a)", "not some y. y != b",
                 "all x. all y. R(x, y) implies P(x) or some z. R(y, z)", "all x. some y. R(x, y) and P(y)",
-                "all x. all y. all z. S(z, x, y) implies x = z", "some x. all y. R(x, y)", "P(f(a)) or some x. not R(x, f(a))",
+                "all x. all y. all z. S(z, x, y) implies x = z", "some x. all y. R(x, y)",
+                "P(f(a)) or some x. not R(x, f(a))",
             ))
             sentence = read_sentence(words, SIGNATURE)
             try:
@@ -189,7 +191,8 @@ class Listed(Case):
 
     def test_sentences_that_do_not(self):
         for text in ["a = b", "some x. x = a", "all x. x = x", "all x. x = f(x)", "all x. x = a and x = b", "Q",
-                     "all x. x = a or P(x)", "all x. x != a", "all x. a = b", "all x. x = a or a = b", "all x. all y. x = a",
+                     "all x. x = a or P(x)", "all x. x != a", "all x. a = b", "all x. x = a or a = b",
+                     "all x. all y. x = a",
                      "all x. all y. x = y", "(all x. x = a) or all x. x = b", "(all x. x = a) and Q",
                      "all x. x = a implies x = b", "all x. all x. x = a", "all x. some x. x = a", "all same. a = b",
                      "all holds. P(holds)", "all same. P(same)"]:
@@ -212,10 +215,12 @@ class Single(Case):
     def test_kinds(self):
         for texts, size in [((), 1), (("Q",), 1), (("P(a)",), 1), (("P(a)", "a = b"), 2), (("all x. P(x)",), 2),
                             (("some x. all y. P(x) iff M(y)", "c = c"), 9), (("all x. x = x",), 1),
-                            (("some x. some y. x != y", "all x. M(x) and O"), 4), (("some x. P(a) or M(b) and P(c)",), 7)]:
+                            (("some x. some y. x != y", "all x. M(x) and O"), 4),
+                            (("some x. P(a) or M(b) and P(c)",), 7)]:
             self.gives(True, is_single, book(*texts))
             self.gives(size, enough, book(*texts), "single")
-        for texts in [("R(a, a)",), ("all x. S(x, x, x)",), ("f(a) = a",), ("all x. P(f(x))",), ("Q", "some x. R(x, a)"),
+        for texts in [("R(a, a)",), ("all x. S(x, x, x)",), ("f(a) = a",), ("all x. P(f(x))",),
+                      ("Q", "some x. R(x, a)"),
                       ("P(g(a, b))",), ("P(h(a, b, c))",)]:
             self.gives(False, is_single, book(*texts))
             self.fails(NotOfKind, enough, book(*texts), "single")
@@ -225,14 +230,17 @@ class Prefix(Case):
     """Point 116."""
 
     def test_kinds(self):
-        for texts, size in [((), 1), (("Q",), 1), (("all x. R(x, x)",), 1), (("P(f(a))",), 2), (("R(f(a), g(a, b))",), 4),
-                            (("some x. all y. R(x, y)",), 1), (("some x. some y. all z. S(x, y, z)", "some x. P(x)"), 3),
+        for texts, size in [((), 1), (("Q",), 1), (("all x. R(x, x)",), 1), (("P(f(a))",), 2),
+                            (("R(f(a), g(a, b))",), 4),
+                            (("some x. all y. R(x, y)",), 1), (("some x. some y. all z. S(x, y, z)", "some x. P(x)"),
+                                3),
                             (("not all x. P(x) or x = f(f(a))",), 4), (("all x. P(x) implies R(x, f(a))",), 2),
                             (("(some x. P(x)) iff Q",), 1), (("some x. some x. P(x)",), 2),
                             (("all xyz. all a1. R(xyz, a1)",), 1), (("some unknown. P(unknown)", "P(h(a, b, c))"), 5)]:
             self.gives(True, is_prefix, book(*texts))
             self.gives(size, enough, book(*texts), "prefix")
-        for texts in [("all x. P(f(x))",), ("some x. f(x) = a",), ("all x. some y. R(x, y)",), ("P(a)", "some x. P(g(a, x))"),
+        for texts in [("all x. P(f(x))",), ("some x. f(x) = a",), ("all x. some y. R(x, y)",),
+                      ("P(a)", "some x. P(g(a, x))"),
                       ("all x. P(x) and (Q or some y. R(x, y))",), ("not some x. all y. P(x)",),
                       ("all x. not (P(x) implies not some y. P(y))",), ("(all x. some y. Q) or Q",)]:
             self.gives(False, is_prefix, book(*texts))
@@ -261,7 +269,8 @@ class Prefix(Case):
                 for _, left, right in clause:
                     for side in (left, right):
                         inner = [side] if isinstance(side, str) or not side[0][:1].isupper() else side[1:]
-                        found += [part for term in inner for part in parts_of(term) if isinstance(part, tuple) and part != ("",)]
+                        found += [part for term in inner for part in parts_of(term) if isinstance(part,
+                            tuple) and part != ("",)]
             self.assertTrue(all(len(part) == 1 or not unknowns_of(part) for part in found))
             self.assertLessEqual(len({repr(part) for part in found}), size)
             for limit in (size, size + 1):
@@ -278,8 +287,10 @@ class Linked(Case):
     """Point 117."""
 
     def test_positive(self):
-        for texts, size in [((), 1), (("R(a, b)",), 1), (("all x. some y. R(x, y)",), 1), (("all x. P(x) or R(x, x)",), 2),
-                            (("not P(a)", "not Q", "some x. M(x)"), 4), (("all x. some y. not M(y) and R(x, y) and x = y",), 2),
+        for texts, size in [((), 1), (("R(a, b)",), 1), (("all x. some y. R(x, y)",), 1),
+                            (("all x. P(x) or R(x, x)",), 2),
+                            (("not P(a)", "not Q", "some x. M(x)"), 4),
+                            (("all x. some y. not M(y) and R(x, y) and x = y",), 2),
                             (("not not R(a, a)",), 1), (("not some x. P(x) and not S(x, x, x)",), 2)]:
             self.gives(True, is_linked, book(*texts))
             self.gives(size, enough, book(*texts), "linked")
@@ -287,13 +298,15 @@ class Linked(Case):
     def test_guarded(self):
         for text in ["all x. all y. R(x, y) implies P(x)", "all x. all y. R(y, x) implies some z. R(y, z)",
                      "all x. all y. all z. S(y, z, x) implies R(x, a)", "all x. all y. not R(x, y)",
-                     "all x. all y. (P(x) or not R(x, y)) or (x = y or M(a))", "not some x. some y. R(x, y) and not P(y)",
+                     "all x. all y. (P(x) or not R(x, y)) or (x = y or M(a))",
+                     "not some x. some y. R(x, y) and not P(y)",
                      "all x. all y. P(x) or (R(a, a) or (all z. R(x, z)) or not R(y, x))"]:
             self.gives(True, is_linked, book(text))
             self.assertNotIn("prefix" if "some z" in text else "", kinds_of(book(text)))
 
     def test_neither(self):
-        for texts in [("a != b",), ("not R(a, b)",), ("all x. not R(x, x)",), ("all x. all y. R(x, y) and R(y, x) implies P(x)",),
+        for texts in [("a != b",), ("not R(a, b)",), ("all x. not R(x, x)",),
+                      ("all x. all y. R(x, y) and R(y, x) implies P(x)",),
                       ("all x. all y. all z. R(x, y) implies P(x)",), ("all x. R(x, a) implies P(x)",),
                       ("all x. all x. R(x, x) implies P(x)",), ("all x. all y. all y. S(x, y, y) implies P(x)",),
                       ("all x. all y. R(x, y) implies x != y",), ("all x. all y. x = y implies R(x, y)",),
@@ -335,8 +348,10 @@ class Kinds(Case):
             self.fails(NotOfKind, enough, book("P(a)"), word)
 
     def test_every_kind_alone(self):
-        for word, size, texts in [("listed", 1, ("all x. x = a", "all x. not R(f(x), x)")), ("linked", 1, ("all x. some y. R(x, y)",)),
-                                  ("prefix", 3, ("some x. all y. R(x, y) iff P(f(a))",)), ("single", 2, ("all x. some y. x != y",))]:
+        for word, size, texts in [("listed", 1, ("all x. x = a", "all x. not R(f(x), x)")),
+                                  ("linked", 1, ("all x. some y. R(x, y)",)),
+                                  ("prefix", 3, ("some x. all y. R(x, y) iff P(f(a))",)),
+                                  ("single", 2, ("all x. some y. x != y",))]:
             self.gives([word], kinds_of, book(*texts))
             self.gives(size, enough, book(*texts), word)
             self.gives(size, told_size, book(*texts))
@@ -384,7 +399,8 @@ class Kinds(Case):
             small = rng.choice((marks, pairs))
             one = Book(small, [draw_over(rng, small) for _ in range(rng.randint(1, 3))])
             sizes = [enough(one, word) for word in kinds_of(one)]
-            least = next((size for size in (1, 2, 3) if any(book_true(world, one) for world in worlds_of_size(small, size))), None)
+            least = next((size for size in (1, 2, 3) if any(book_true(world, one) for world in worlds_of_size(small,
+                size))), None)
             if least is not None and sizes:
                 self.assertLessEqual(least, min(sizes))
                 told[least] += 1

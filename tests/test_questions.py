@@ -123,7 +123,8 @@ class Used(Case):
 
     def test_the_listing_sentence(self):
         # Three things by f, and no more than a and b.
-        one = read("Q", "all x. x = a or x = b", "all x. f(x) != x", "all x. f(f(x)) != x", "all x. R(x, f(x)) and P(f(x))")
+        one = read("Q", "all x. x = a or x = b", "all x. f(x) != x", "all x. f(f(x)) != x",
+                   "all x. R(x, f(x)) and P(f(x))")
         self.assertEqual((kinds_of(one), listing(one)), (["listed"], (1, 2)))
         paper = decide(one).paper
         self.assertEqual(paper[:2], ("tree", 2))
@@ -159,14 +160,16 @@ class Used(Case):
         three = read("all x. x = a", "some x. some y. x != y", "P(b)", "not P(b)", "all x. some y. P(x) or x != y")
         self.assertEqual({word: enough(three, word) for word in kinds_of(three)}, {"listed": 1, "single": 6})
         for limit, indexes in ((1, 2), (5, 2), (6, 1), (7, 1)):
-            self.assertEqual(len(sentences_used(three, ("tree", limit, ("cell", "b", (), (("false", 2, ()), ("beyond",)))))), indexes)
+            self.assertEqual(len(sentences_used(three, ("tree", limit, ("cell", "b", (),
+                (("false", 2, ()), ("beyond",)))))), indexes)
 
     def test_the_used_sentences_are_at_odds(self):
         rng = random.Random(15601)
         checked = beyond = 0
         for _ in range(250):
             one = draw_tight(rng)
-            answer = decide(one, 300, deal=rng.choice(((1, 0), (1, 3))), elder_every=rng.randint(0, 1), cases=rng.random() < 0.5)
+            answer = decide(one, 300, deal=rng.choice(((1, 0), (1, 3))), elder_every=rng.randint(0, 1),
+                            cases=rng.random() < 0.5)
             if answer.verdict == "refuted":
                 checked += 1
                 used = self.call(sentences_used, one, answer.paper)

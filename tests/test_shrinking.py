@@ -4,7 +4,7 @@ import random
 from tests.drawing import SIGNATURE as WIDE, Case, draw_world, state
 from tests.test_kinds import SIGNATURE, book, draw_book
 from tests.test_sorts import draw_single, parts, plain_case
-from worldorpaper.books import Book, Signature
+from worldorpaper.books import Signature
 from worldorpaper.errors import BadWorld, NotOfKind
 from worldorpaper.going import worlds_of_size
 from worldorpaper.kinds import enough, ground_terms, kinds_of, names_in
@@ -77,7 +77,8 @@ def plain_linked(one, world):
     return found
 
 
-PLAIN = {"prefix": plain_prefix, "single": plain_single, "linked": plain_linked, "listed": lambda one, world: tables(world)}
+PLAIN = {"prefix": plain_prefix, "single": plain_single, "linked": plain_linked, "listed": lambda one,
+         world: tables(world)}
 
 
 class Cutting(Case):
@@ -88,11 +89,13 @@ class Cutting(Case):
         world = World(signature, 3, {"a": [2], "f": [1, 2, 0], "Q": [True],
                                      "R": [True, False, True, False, False, False, False, True, True]})
         cut = self.call(cut_world, world, [0, 2])
-        self.assertEqual(state(tables(cut)), state({"a": (1,), "f": (0, 0), "Q": (True,), "R": (True, True, False, True)}))
+        self.assertEqual(state(tables(cut)), state({"a": (1,), "f": (0, 0), "Q": (True,),
+                                                    "R": (True, True, False, True)}))
         self.assertEqual((cut.size, cut.signature), (2, signature))
         # Values that are not among the things become 0.
         cut = self.call(cut_world, world, [0, 1])
-        self.assertEqual(state(tables(cut)), state({"a": (0,), "f": (1, 0), "Q": (True,), "R": (True, False, False, False)}))
+        self.assertEqual(state(tables(cut)), state({"a": (0,), "f": (1, 0), "Q": (True,),
+                                                    "R": (True, False, False, False)}))
         cut = self.call(cut_world, world, (1,))
         self.assertEqual(state(tables(cut)), state({"a": (0,), "f": (0,), "Q": (True,), "R": (False,)}))
         self.assertEqual(state(cut_world(world, [0, 1, 2])), state(world))
@@ -112,7 +115,8 @@ class Errors(Case):
 
     def test_not_of_kind(self):
         world = World.blank(SIGNATURE, 2)
-        for texts, words in [(("all x. x = f(x)",), ("listed", "prefix", "single", "linked")), (("Q",), ("listed", "", "Single")),
+        for texts, words in [(("all x. x = f(x)",), ("listed", "prefix", "single", "linked")),
+                             (("Q",), ("listed", "", "Single")),
                              (("P(f(a))",), ("single", "linked"))]:
             for word in words:
                 self.fails(NotOfKind, shrink, book(*texts), word, world)
@@ -186,7 +190,8 @@ class Shrinking(Case):
         world = World.blank(SIGNATURE, 5).with_table("Q", [True]).with_table("P", [True, True, False, False, False])
         small = self.shrinks(one, "prefix", world.with_table("M", [True, False, True, False, True]))
         # The witnesses are 0, 0, 2 and 1.
-        self.assertEqual((small.size, small.table("P"), small.table("M")), (3, (True, True, False), (True, False, True)))
+        self.assertEqual((small.size, small.table("P"), small.table("M")), (3, (True, True, False),
+            (True, False, True)))
 
     def test_single(self):
         one = book("some x. some y. x != y and P(x)", "a = a")
@@ -204,9 +209,11 @@ class Shrinking(Case):
     def test_linked(self):
         one = book("all x. some y. R(x, y)", "some x. P(x)")
         world = World.blank(SIGNATURE, 3).with_table("P", [False, True, False]).with_table("b", [1])
-        world = world.with_table("R", [False, True, False, False, False, True, True, False, False]).with_table("f", [1, 1, 1])
+        world = world.with_table("R", [False, True, False, False, False, True, True, False, False]).with_table("f",
+            [1, 1, 1])
         small = self.shrinks(one, "linked", world.with_table("Q", [True]))
-        self.assertEqual((small.size, small.table("P"), small.table("R"), small.table("b"), small.table("f"), small.table("Q")),
+        self.assertEqual((small.size, small.table("P"), small.table("R"), small.table("b"), small.table("f"),
+                          small.table("Q")),
                          (2, (False, True), (True, True, True, False), (1,), (0, 0), (True,)))
         # The sorts are in the order of the first things that have them.
         small = self.shrinks(one, "linked", world.with_table("P", [True, False, False]))

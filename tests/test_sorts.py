@@ -18,7 +18,8 @@ SIGNATURE = Signature([("a", 0), ("e1", 0), ("b", 0), ("e2", 1)],
 OTHER = "function f 1\nrelation R 2\nsentence all x. R(x, f(x))"
 
 
-def book(*texts, head="function a 0\nfunction e1 0\nfunction b 0\nfunction e2 1\nrelation E1 1\nrelation P 1\nrelation Q 0\n"
+def book(*texts,
+         head="function a 0\nfunction e1 0\nfunction b 0\nfunction e2 1\nrelation E1 1\nrelation P 1\nrelation Q 0\n"
          "relation E2 2\nrelation M 1\nrelation O 0\nrelation E3 0\n"):
     return read_book(head + "\n".join("sentence " + text for text in texts))
 
@@ -40,7 +41,8 @@ def parts(one):
 def plain_case(one, world):
     """Points 123 and 124 as they stand."""
     facts, marks, constants, depth = parts(one)
-    sorts = [int("0" + "".join("1" if world.holds(mark, (thing,)) else "0" for mark in marks), 2) for thing in world.things]
+    sorts = [int("0" + "".join("1" if world.holds(mark, (thing,)) else "0" for mark in marks),
+                 2) for thing in world.things]
     values = [world.value(name, ()) for name in constants]
     named = [value for place, value in enumerate(values) if value not in values[:place]]
     counts = [sum(1 for thing in world.things if thing not in named and sorts[thing] == sort)
@@ -67,7 +69,8 @@ def plain_cases(one):
 
 def draw_single(rng, most=2):
     """A book of facts, marks and constants with few cases."""
-    small = Signature([("a", 0), ("b", 0)][:rng.randint(0, 2)], [("P", 1), ("Q", 0), ("M", 1)][:rng.choice((1, 2, 2, 3))])
+    small = Signature([("a", 0), ("b", 0)][:rng.randint(0, 2)], [("P", 1), ("Q", 0),
+        ("M", 1)][:rng.choice((1, 2, 2, 3))])
     sentences = []
     count = rng.randint(1, most)
     while len(sentences) < count:
@@ -165,7 +168,8 @@ class Cases(Case):
     def test_places_number_the_named_things_by_first_names(self):
         one = book("a = b", "e1 = e1")
         world = World.blank(SIGNATURE, 4)
-        for values, places in [((2, 2, 2), (0, 0, 0)), ((3, 0, 3), (0, 1, 0)), ((1, 3, 0), (0, 1, 2)), ((2, 0, 0), (0, 1, 1))]:
+        for values, places in [((2, 2, 2), (0, 0, 0)), ((3, 0, 3), (0, 1, 0)), ((1, 3, 0), (0, 1, 2)),
+                               ((2, 0, 0), (0, 1, 1))]:
             for name, value in zip(("a", "e1", "b"), values):
                 world = world.with_table(name, [value])
             self.gives(((), places, (0,) * (max(places) + 1), (0,)), case_of, one, world)
@@ -252,7 +256,8 @@ def plain_partner(one, first, second, thing, picked):
             return pair[1]
     sort = [first.holds(mark, (thing,)) for mark in marks]
     fits = [other for other in second.things if [second.holds(mark, (other,)) for mark in marks] == sort
-            and other not in [second.value(name, ()) for name in constants] and other not in [pair[1] for pair in picked]]
+            and other not in [second.value(name,
+                                           ()) for name in constants] and other not in [pair[1] for pair in picked]]
     return min(fits, default=None)
 
 
@@ -262,7 +267,8 @@ class Partners(Case):
     ONE = book("some x. some y. P(x) and P(y) and x = a")
 
     def world(self, size, a, marked):
-        return World.blank(SIGNATURE, size).with_table("a", [a]).with_table("P", [thing in marked for thing in range(size)])
+        return World.blank(SIGNATURE, size).with_table("a", [a]).with_table("P",
+            [thing in marked for thing in range(size)])
 
     def test_written_out(self):
         first, second = self.world(6, 4, (0, 1, 2)), self.world(5, 1, (2, 3))
@@ -285,7 +291,8 @@ class Partners(Case):
             self.gives(thing, partner, self.ONE, world, world, thing)
 
     def test_different_cases(self):
-        for one, tables in [(book("Q"), {"Q": [True]}), (book("P(a)"), {"P": [True, False]}), (book("a = b"), {"a": [1]})]:
+        for one, tables in [(book("Q"), {"Q": [True]}), (book("P(a)"), {"P": [True, False]}),
+                            (book("a = b"), {"a": [1]})]:
             world = World.blank(SIGNATURE, 2)
             other = world
             for name, entries in tables.items():
@@ -320,7 +327,8 @@ class Partners(Case):
                 self.assertIsNotNone(other)
                 pairs.append((thing, other))
             for thing, other in pairs:
-                self.assertEqual([first.holds(mark, (thing,)) for mark in marks], [second.holds(mark, (other,)) for mark in marks])
+                self.assertEqual([first.holds(mark, (thing,)) for mark in marks],
+                                 [second.holds(mark, (other,)) for mark in marks])
                 self.assertEqual([first.value(name, ()) == thing for name in constants],
                                  [second.value(name, ()) == other for name in constants])
                 for third, fourth in pairs:

@@ -60,13 +60,16 @@ class Lines(Case):
     def test_things_that_are_new_at_functions(self):
         # No thing is its own f, and all are the same.
         self.closes(BARE, [clause(no(FX, X)), clause(yes(X, Y))], 2)
-        self.closes(SIGNATURE, [clause(no(FX, X)), clause(no(("f", FX), X)), clause(yes(X, Y), yes(X, Z), yes(Y, Z))], 3)
+        self.closes(SIGNATURE, [clause(no(FX, X)), clause(no(("f", FX), X)), clause(yes(X, Y), yes(X, Z), yes(Y, Z))],
+                    3)
         self.closes(G, [clause(no(("g", X, Y), X)), clause(yes(("g", X, X), A))], 4, elder_every=1)
-        self.closes(G, [clause(yes(("R", X, ("h", X, A, X)))), clause(no(("R", A, Y)), no(("R", Y, Z)))], 5, elder_every=1)
+        self.closes(G, [clause(yes(("R", X, ("h", X, A, X)))), clause(no(("R", A, Y)), no(("R", Y, Z)))], 5,
+                    elder_every=1)
 
     def test_entries_that_are_older_things(self):
         # There are two things; f takes each to another one, and three times f is like once.
-        clauses = [clause(yes(X, A), yes(X, B)), clause(no(FX, X)), clause(yes(("f", FX), FX), yes(A, B)), clause(no(A, B))]
+        clauses = [clause(yes(X, A), yes(X, B)), clause(no(FX, X)), clause(yes(("f", FX), FX), yes(A, B)),
+                   clause(no(A, B))]
         self.closes(SIGNATURE, clauses, 3)
         clauses = [clause(yes(X, A), yes(X, B)), clause(no(FX, X)), clause(no(("f", ("f", FX)), FX))]
         self.closes(SIGNATURE, clauses, 3, picks=(1, 2))
@@ -83,7 +86,8 @@ class Lines(Case):
         clauses = [clause(yes(("P", A))), clause(no(("P", A))), clause(yes(("Q",)), yes(("P", A)))]
         for tree in (("cell", "Q", (), (split, split)),
                      ("cell", "Q", (), (("cell", "P", (0,), (("false", 2, ()), ("false", 1, ()))), split)),
-                     ("cell", "f", (0,), (split, split)), ("cell", "b", (), (split, ("cell", "Q", (), (split, split))))):
+                     ("cell", "f", (0,), (split, split)), ("cell", "b", (),
+                                                           (split, ("cell", "Q", (), (split, split))))):
             self.shows(SIGNATURE, clauses, tree)
 
     def test_drawn_trees(self):

@@ -4,7 +4,7 @@ from tests.drawing import SIGNATURE, Case, clause, draw_clauses, no, yes
 from worldorpaper.books import Signature
 from worldorpaper.clauses import clause_unknowns
 from worldorpaper.errors import BadWorld
-from worldorpaper.growing import Grower, grow
+from worldorpaper.growing import Grower
 from worldorpaper.partial import Partial
 from worldorpaper.terms import TOP
 from worldorpaper.trees import clauses_used, cut_tree, first_fault, has_beyond, judge_tree, tree_nodes
@@ -88,7 +88,8 @@ def drawn_trees(seed, count, most=120):
     while found < count:
         signature = rng.choice((SMALL, BARE, PAIR, SIGNATURE))
         clauses = draw_clauses(rng, 6, signature)
-        grower = Grower(signature, clauses, rng.randint(1, 3), picks=[rng.randrange(4) for _ in range(rng.randint(0, 3))],
+        grower = Grower(signature, clauses, rng.randint(1, 3), picks=[rng.randrange(4) for _ in range(rng.randint(0,
+            3))],
                         elder_every=rng.randint(0, 2))
         while not grower.has_ended() and grower.opened < most:
             grower.step()
@@ -142,7 +143,8 @@ class Faults(Case):
             self.gives(None, first_fault, SIGNATURE, clauses, 2, tree)
         wrong = [("cell", "a", (), (leaf, leaf)), ("cell", "c", (), (leaf, leaf)), ("cell", "", (), (leaf, leaf)),
                  ("cell", "not", (), (leaf, leaf)), ("cell", "Q", (0,), (leaf, leaf)), ("cell", "P", (), (leaf, leaf)),
-                 ("cell", "P", (0, 0), (leaf, leaf)), ("cell", "P", (1,), (leaf, leaf)), ("cell", "P", (-1,), (leaf, leaf)),
+                 ("cell", "P", (0, 0), (leaf, leaf)), ("cell", "P", (1,), (leaf, leaf)),
+                 ("cell", "P", (-1,), (leaf, leaf)),
                  ("cell", "P", (10 ** 30,), (leaf, leaf)), ("cell", "Q", (), ()), ("cell", "Q", (), (leaf,)),
                  ("cell", "Q", (), (leaf, leaf, leaf)), ("cell", "f", (0,), (leaf,)), ("cell", "f", (0,), (leaf,) * 3),
                  ("cell", "f", (0,), ())]
@@ -155,15 +157,19 @@ class Faults(Case):
             twice = ("cell", word, (), (leaf, ("cell", word, (), (leaf, leaf))))
             self.gives((1,), first_fault, SIGNATURE, clauses, 2, twice)
         # Below the new thing there is one more way.
-        self.gives((1,), first_fault, SIGNATURE, clauses, 3, ("cell", "b", (), (leaf, ("cell", "f", (1,), (leaf,) * 2))))
-        self.gives(None, first_fault, SIGNATURE, clauses, 3, ("cell", "b", (), (leaf, ("cell", "f", (1,), (leaf,) * 3))))
+        self.gives((1,), first_fault, SIGNATURE, clauses, 3, ("cell", "b", (),
+            (leaf, ("cell", "f", (1,), (leaf,) * 2))))
+        self.gives(None, first_fault, SIGNATURE, clauses, 3, ("cell", "b", (),
+            (leaf, ("cell", "f", (1,), (leaf,) * 3))))
 
     def test_wrong_places_of_a_leaf_beyond(self):
         leaf = ("false", 0, ())
         for tree, limit, fault in [
-                (BEYOND, 1, ()), (("cell", "Q", (), (leaf, BEYOND)), 1, (1,)), (("cell", "Q", (), (BEYOND, leaf)), 1, (0,)),
+                (BEYOND, 1, ()), (("cell", "Q", (), (leaf, BEYOND)), 1, (1,)),
+                (("cell", "Q", (), (BEYOND, leaf)), 1, (0,)),
                 (("cell", "b", (), (BEYOND, BEYOND)), 1, (0,)), (("cell", "b", (), (leaf, BEYOND)), 2, (1,)),
-                (("cell", "b", (), (leaf, leaf)), 1, (1,)), (("cell", "b", (), (leaf, ("cell", "Q", (), (leaf, leaf)))), 1, (1,)),
+                (("cell", "b", (), (leaf, leaf)), 1, (1,)), (("cell", "b", (),
+                    (leaf, ("cell", "Q", (), (leaf, leaf)))), 1, (1,)),
                 (("cell", "b", (), (leaf, ("cell", "f", (0,), (leaf, BEYOND, leaf)))), 2, (1, 1)),
                 (("cell", "b", (), (leaf, ("cell", "f", (0,), (leaf, leaf, leaf)))), 2, (1, 2)),
                 (("cell", "b", (), (leaf, ("cell", "f", (0,), (leaf, leaf, BEYOND)))), 2, None),
@@ -245,7 +251,8 @@ class Contents(Case):
         self.gives([0, 1], clauses_used, TREE)
         self.gives([], clauses_used, BEYOND)
         self.gives([], clauses_used, ("cell", "f", (7,), ()))
-        tree = ("cell", "f", (7,), (("false", 5, ()), ("false", -2, (1,)), ("cell", "g", (), (("false", 5, (3,)), BEYOND)),
+        tree = ("cell", "f", (7,), (("false", 5, ()), ("false", -2, (1,)), ("cell", "g", (),
+            (("false", 5, (3,)), BEYOND)),
                                     ("false", 10 ** 20, ())))
         self.gives([-2, 5, 10 ** 20], clauses_used, tree)
 
@@ -317,7 +324,8 @@ class Cutting(Case):
         self.gives(split, cut_tree, SIGNATURE, self.CLAUSES, ("cell", "Q", (), (split, split)))
         self.gives(split, cut_tree, SIGNATURE, self.CLAUSES, ("cell", "b", (), (split, split)))
         # The first such child.
-        self.gives(("false", 0, ()), cut_tree, SIGNATURE, self.CLAUSES, split[:3] + ((("false", 2, ()), ("false", 0, ())),))
+        self.gives(("false", 0, ()), cut_tree, SIGNATURE, self.CLAUSES, split[:3] + ((("false", 2, ()),
+            ("false", 0, ())),))
         first, second = ("cell", "R", (0, 0), (split, split)), ("false", 0, ())
         self.gives(split, cut_tree, SIGNATURE, self.CLAUSES, ("cell", "Q", (), (first, second)))
         self.gives(second, cut_tree, SIGNATURE, self.CLAUSES, ("cell", "Q", (), (second, first)))

@@ -90,13 +90,15 @@ class Reading(Case):
     def test_faults(self):
         for text, line, column in [
                 ("cell f 00", 1, 9), ("", 1, 1), ("\n", 1, 1), (" ", 1, 1), (" beyond", 1, 1), ("Beyond", 1, 1),
-                ("beyond\n", 1, 7), ("beyond ", 1, 7), ("beyondx", 1, 7), ("bey", 1, 4), ("beyonf", 1, 6), ("false", 1, 6),
+                ("beyond\n", 1, 7), ("beyond ", 1, 7), ("beyondx", 1, 7), ("bey", 1, 4), ("beyonf", 1, 6),
+                ("false", 1, 6),
                 ("false ", 1, 7), ("false  0", 1, 7), ("false a", 1, 7), ("false 0 ", 1, 9), ("false 0  1", 1, 9),
                 ("false 0\n", 1, 8), ("false 0\n  beyond", 1, 8), ("false -1", 1, 7), ("false 1234567", 1, 13),
                 ("false 123456 1234567", 1, 20), ("false 01", 1, 8), ("false0", 1, 6), ("cell", 1, 5), ("cell ", 1, 6),
                 ("cell 1", 1, 6), ("cell _", 1, 6), ("cell a_", 1, 7), ("cell a ", 1, 8), ("cell a x", 1, 8),
                 ("cell abcdefghijklm", 1, 18), ("cell a\n", 2, 1), ("cell a\n ", 2, 2), ("cell a\n  ", 2, 3),
-                ("cell a\nbeyond", 2, 1), ("cell a\n beyond", 2, 2), ("cell a\n   beyond", 2, 3), ("cell a\n    beyond", 2, 3),
+                ("cell a\nbeyond", 2, 1), ("cell a\n beyond", 2, 2), ("cell a\n   beyond", 2, 3),
+                ("cell a\n    beyond", 2, 3),
                 ("cell a\n\n", 2, 1), ("cell a\n  beyond\n", 3, 1), ("cell a\n  beyond\n    beyond", 3, 3),
                 ("cell a\n  beyond\nbeyond", 3, 1), ("cell a\n  beyond\n  false 0 00", 3, 12),
                 ("cell a\n  cell b\n    beyond\n   beyond", 4, 4), ("cell a\n  cell b\n    beyond\n      beyond", 4, 5),
@@ -128,7 +130,8 @@ class Reading(Case):
             text = tree_text(draw_tree(rng, 3))
             for _ in range(rng.randint(1, 2)):
                 at = rng.randint(0, len(text))
-                text = text[:at] + rng.choice(("", " ", "  ", "\n", "0", "7", "a", "X", "\n  ", "-", "!")) + text[at + rng.randint(0, 2):]
+                text = text[:at] + rng.choice(("", " ", "  ", "\n", "0", "7", "a", "X", "\n  ", "-",
+                                               "!")) + text[at + rng.randint(0, 2):]
             wrong += not is_text(text)
             self.check(text)
         self.assertGreater(wrong, 400)
