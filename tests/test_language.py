@@ -268,6 +268,16 @@ class Language(unittest.TestCase):
             assigned |= values
         for path, node in nodes(ast.Attribute):
             self.assertIn(node.attr, assigned | set(methods) | METHODS, self.at(path, node))
+        # A name that is an attribute of one class and a method of another one.
+        for _, owner in nodes(ast.ClassDef):
+            for node in owner.body:
+                if isinstance(node, ast.FunctionDef) and node.name in assigned:
+                    self.assertFalse(node.decorator_list, node.name)
+                    self.assertFalse([part for part in ast.walk(node) if isinstance(part, (ast.Yield, ast.YieldFrom))])
+        owners = {owner.name for _, owner in nodes(ast.ClassDef)}
+        for path, node in nodes(ast.Attribute):
+            if isinstance(node.value, ast.Name) and node.value.id in owners:
+                self.assertNotIn(node.attr, methods, self.at(path, node))
 
     def test_classes(self):
         for path, owner in nodes(ast.ClassDef):

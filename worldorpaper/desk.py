@@ -33,7 +33,7 @@ class Desk:
     def lines_for(self, number, line):
         """The lines that a command writes, or one that says why it fails."""
         try:
-            return self._done(line)
+            return self._reply_to(line)
         except BadText as error:
             return [f"line {number}: cannot be read at {error.line}, {error.column}"]
         except BadDeed:
@@ -41,11 +41,11 @@ class Desk:
         except WorldOrPaperError:
             return [f"line {number}: does not fit"]
 
-    def _done(self, line):
+    def _reply_to(self, line):
         head, colon, text = line.partition(":")
         words = [word for word in head.split(" ") if word != ""]
         if colon != "":
-            return self._done_with_sentence(words, text)
+            return self._reply_to_sentence(words, text)
         if len(words) == 3 and words[0] in ("function", "relation"):
             return self._declare(words[0], words[1], words[2])
         if words == ["world"]:
@@ -61,7 +61,7 @@ class Desk:
             return self._shown_lines()
         raise BadDeed("there is no such command")
 
-    def _done_with_sentence(self, words, text):
+    def _reply_to_sentence(self, words, text):
         is_labelled = len(words) == 2 and words[0] in ("say", "derive")
         if not is_labelled and words != ["follows"]:
             raise BadDeed("there is no such command")

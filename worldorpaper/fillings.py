@@ -66,7 +66,7 @@ class Fillings:
         if not self.heart.has_ended():
             self.heart.step()
             return
-        world, names = world_of_ranked(self.signature, self.heart.order, self.heart.ranked)
+        world, names = world_of_ranked(self.signature, self.heart.order, self.heart.ranked_kept)
         for index, clause in enumerate(self._clauses):
             things = false_values(world, clause)
             if things is not None:

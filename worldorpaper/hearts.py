@@ -20,13 +20,13 @@ class Heart:
         self.steps = 0
         self.refuted = None
         self._picks = tuple(picks)
-        self.ranked = []
+        self.ranked_kept = []
         self._texts = {}
 
     @property
     def kept_clauses(self):
         """The clauses of the kept rows."""
-        return [ranked.clause for ranked in self.ranked]
+        return [ranked.clause for ranked in self.ranked_kept]
 
     def add(self, clause):
         """Takes in a clause; raises BadStep if it has unknowns."""
@@ -48,7 +48,7 @@ class Heart:
         clause = self.rows[row][0]
         while not needless(self.kept_clauses, clause):
             ranked = RankedClause(self.order, clause)
-            step = simpler_step(self.ranked, ranked)
+            step = simpler_step(self.ranked_kept, ranked)
             if step is None:
                 self._settle(row, ranked)
                 return
@@ -77,11 +77,11 @@ class Heart:
             return
         for step in factor_rows(ranked):
             self._infer(factor_step(ranked.clause, *step), ("factor", row) + step)
-        for other_row, other in zip(self.kept, self.ranked):
+        for other_row, other in zip(self.kept, self.ranked_kept):
             self._infer_join(other_row, other, row, ranked)
             self._infer_join(row, ranked, other_row, other)
         self.kept.append(row)
-        self.ranked.append(ranked)
+        self.ranked_kept.append(ranked)
 
     def _infer_join(self, first_row, first, second_row, second):
         step = joined(first, second)

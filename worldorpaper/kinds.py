@@ -87,6 +87,16 @@ def enough(book, kind):
     """A size such that the book has a world of at most this size if it has one at all."""
     if kind not in kinds_of(book):
         raise NotOfKind("the book is not of the kind")
+    return _size(book, kind)
+
+
+def told_size(book):
+    """The least of the sizes of the kinds of a book, or None."""
+    return min([_size(book, kind) for kind in kinds_of(book)], default=None)
+
+
+def _size(book, kind):
+    """The size of a kind of which the book is."""
     if kind == "listed":
         _, count = listing(book)
         return count
@@ -97,11 +107,6 @@ def enough(book, kind):
     if kind == "linked":
         return sorts
     return max(1, len(functions_in(book, (0,))) + greatest_depth(book) * sorts)
-
-
-def told_size(book):
-    """The least of the sizes of the kinds of a book, or None."""
-    return min([enough(book, kind) for kind in kinds_of(book)], default=None)
 
 
 def _sides_in(book):
