@@ -197,6 +197,8 @@ class Texts(Case):
 
     def test_texts(self):
         self.gives("x", term_text, "x")
+        self.gives("unknown1", term_text, "unknown1")
+        self.gives("f(x1)", term_text, ("f", "x1"))
         self.gives("a", term_text, A)
         self.gives("f(x)", term_text, ("f", "x"))
         self.gives("f(a, g(x, a), x, h(g(x, a), y))", term_text, TERM)
