@@ -96,8 +96,8 @@ class Fillings:
             return at_false_values
         found = self._levels.following()
         while found is not None:
-            filling = self._paired(*found)
-            if self._key(*filling) not in self._in:
+            filling = self._paired(found[0], found[1])
+            if self._key(filling) not in self._in:
                 return filling
             found = self._levels.following()
         return at_false_values
@@ -106,13 +106,16 @@ class Fillings:
         return index, tuple(zip(clause_unknowns(self._clauses[index]), terms))
 
     def _put(self, filling):
-        index, pairs = filling
-        self._in[self._key(index, pairs)] = True
+        self._in[self._key(filling)] = True
         self.put_in.append(filling)
-        self.heart.add(fill_step(self._clauses[index], pairs))
+        self.heart.add(self._filled(filling))
 
-    def _key(self, index, pairs):
-        return index, repr(fill_step(self._clauses[index], pairs))
+    def _key(self, filling):
+        return filling[0], repr(self._filled(filling))
+
+    def _filled(self, filling):
+        index, pairs = filling
+        return fill_step(self._clauses[index], pairs)
 
 
 def named_signature(signature):
