@@ -137,6 +137,21 @@ class CheckingTerms(Case):
         self.gives(None, SIGNATURE.check_term, "x" * 12, ["x" * 12])
 
 
+class CheckingDeepTerms(Case):
+    """The road of fillings makes terms like these."""
+
+    def test_deep_terms(self):
+        for end, fits in ((("a",), True), ("x", True), ("y", False), (("a", "x"), False), (("k",), False)):
+            term = end
+            for _ in range(5000):
+                term = ("f", term)
+            if fits:
+                self.assertIsNone(SIGNATURE.check_term(term, ["x"]))
+            else:
+                with self.assertRaises(BadTerm):
+                    SIGNATURE.check_term(term, ["x"])
+
+
 class CheckingSentences(Case):
     """Point 8: check_sentence."""
 

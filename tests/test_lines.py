@@ -107,6 +107,33 @@ class RightPapers(Lines):
         self.right([both], [(both, ("given", 0)), (clause((True, B, B)), ("replace", 0, 0, 0, 0, 0, (0,)))])
 
 
+class DeepPapers(Lines):
+    """Papers with terms like those that the road of fillings makes."""
+
+    def test_deep_terms(self):
+        term = A
+        for _ in range(3000):
+            term = ("f", term)
+        pt, not_pfx = clause((True, ("P", term), TOP)), clause((False, ("P", ("f", "x")), TOP))
+        deeper = clause((False, ("P", ("f", term)), TOP))
+        rows = [
+            (PX, ("given", 0)),
+            (pt, ("fill", 0, (("x", term),))),
+            (clause((True, ("P", ("f", term)), TOP)), ("fill", 0, (("x", ("f", term)),))),
+            (not_pfx, ("given", 1)),
+            (deeper, ("fill", 3, (("x", term),))),
+            (((False, TOP, TOP),), ("replace", 2, 0, 0, 4, 0, (0,))),
+            ((), ("drop", 5)),
+        ]
+        self.assertIs(judge_lines(SIGNATURE, [PX, not_pfx], rows), True)
+        self.assertEqual(first_wrong(SIGNATURE, [PX, not_pfx], [*rows[:4], (pt, rows[4][1]), *rows[5:]]), 4)
+        # The part at the very end is replaced.
+        given = [clause((True, A, B)), pt]
+        place = (0, 0) + (0,) * 3000
+        wrong = [(given[0], ("given", 0)), (pt, ("given", 1)), (pt, ("replace", 0, 0, 0, 1, 0, place + (0,)))]
+        self.assertEqual(first_wrong(SIGNATURE, given, wrong), 2)
+
+
 class WrongRows(Lines):
     """Point 15: what makes a row wrong."""
 

@@ -3,7 +3,7 @@ import random
 from tests.drawing import Case, draw_atom, draw_term
 from worldorpaper.errors import BadPlace
 from worldorpaper.terms import (
-    TOP, fill_term, part_at, parts_of, places_of, replace_at, term_size, term_text, unknowns_of,
+    TOP, fill_term, is_plain, part_at, parts_of, places_of, replace_at, term_size, term_text, unknowns_of,
 )
 
 A, B = ("a",), ("b",)
@@ -205,3 +205,23 @@ class Texts(Case):
         self.gives("Q", term_text, ("Q",))
         self.gives("R(a, f(x))", term_text, ("R", A, ("f", "x")))
         self.gives("true", term_text, TOP)
+
+
+class DeeperThanCalls(Case):
+    """The road of fillings makes terms like these."""
+
+    def test_deep_terms(self):
+        depth = 5000
+        term = chain(depth, "x")
+        self.assertEqual(term_text(term), "f(" * depth + "x" + ")" * depth)
+        self.assertEqual((term_size(term), unknowns_of(term)), (depth + 1, ["x"]))
+        self.assertEqual(part_at(term, (0,) * depth), "x")
+        self.assertEqual(term_text(replace_at(term, (0,) * depth, A)), "f(" * depth + "a" + ")" * depth)
+        self.assertIs(is_plain(term), True)
+        self.assertIs(is_plain(chain(depth, ("P",))), False)
+        self.fails_deep(term)
+
+    def fails_deep(self, term):
+        for place in ((0,) * 5001, (0,) * 4999 + (1,), (0,) * 4999 + (-1,)):
+            with self.assertRaises(BadPlace):
+                replace_at(term, place, A)

@@ -56,14 +56,16 @@ class Signature:
 
     def check_term(self, term, unknowns):
         """Raises BadTerm unless the term fits."""
-        if isinstance(term, str):
-            if term not in unknowns or not is_small_name(term) or self.has(term):
-                raise BadTerm("the unknown is not known")
-            return
-        if not self.has_function(term[0]) or self.arity(term[0]) != len(term) - 1:
-            raise BadTerm("the function is not listed with so many arguments")
-        for argument in term[1:]:
-            self.check_term(argument, unknowns)
+        due = [term]
+        while len(due) > 0:
+            part = due.pop()
+            if isinstance(part, str):
+                if part not in unknowns or not is_small_name(part) or self.has(part):
+                    raise BadTerm("the unknown is not known")
+            else:
+                if not self.has_function(part[0]) or self.arity(part[0]) != len(part) - 1:
+                    raise BadTerm("the function is not listed with so many arguments")
+                due.extend(part[1:])
 
     def check_sentence(self, sentence, unknowns=()):
         """Raises BadSentence or BadTerm unless the sentence fits."""

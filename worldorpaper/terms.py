@@ -24,12 +24,14 @@ def part_at(term, place):
 
 def replace_at(term, place, part):
     """The term with the part at a place replaced; raises BadPlace as part_at does."""
-    if len(place) == 0:
-        return part
-    index = place[0]
-    _check_index(term, index)
-    argument = replace_at(term[index + 1], place[1:], part)
-    return term[:index + 1] + (argument,) + term[index + 2:]
+    way = [term]
+    for index in place:
+        _check_index(way[-1], index)
+        way.append(way[-1][index + 1])
+    replaced = part
+    for index, holder in reversed(list(zip(place, way))):
+        replaced = holder[:index + 1] + (replaced,) + holder[index + 2:]
+    return replaced
 
 
 def parts_of(term):
@@ -65,28 +67,35 @@ def fill_term(term, filling):
 
 def term_text(term):
     """The text of a term, an atom or TOP."""
-    if isinstance(term, str):
-        return term
-    if term == TOP:
-        return "true"
-    if len(term) == 1:
-        return term[0]
-    # Loops nest less deep than comprehensions do, and the road of fillings makes deep terms.
     texts = []
-    for argument in term[1:]:
-        texts.append(term_text(argument))
-    return term[0] + "(" + ", ".join(texts) + ")"
+    # Terms and texts that are due, the next one last; a text is written as an unknown is.
+    due = [term]
+    while len(due) > 0:
+        part = due.pop()
+        if isinstance(part, str):
+            texts.append(part)
+        elif part == TOP:
+            texts.append("true")
+        elif len(part) == 1:
+            texts.append(part[0])
+        else:
+            texts.append(part[0] + "(")
+            due.append(")")
+            for argument in part[:1:-1]:
+                due.extend([argument, ", "])
+            due.append(part[1])
+    return "".join(texts)
 
 
 def is_plain(term):
     """Tells whether something is a term that contains neither an atom nor TOP."""
-    if isinstance(term, str):
-        return True
-    if not _is_named(term) or _begins_capital(term[0]):
-        return False
-    for argument in term[1:]:
-        if not is_plain(argument):
-            return False
+    due = [term]
+    while len(due) > 0:
+        part = due.pop()
+        if not isinstance(part, str):
+            if not _is_named(part) or _begins_capital(part[0]):
+                return False
+            due.extend(part[1:])
     return True
 
 
@@ -107,9 +116,14 @@ def _check_index(part, index):
 
 
 def _all_parts(term):
-    parts = [term]
-    for argument in _arguments(term):
-        parts.extend(_all_parts(argument))
+    """The parts of a term in preorder, duplicates included."""
+    # The road of fillings makes terms that are nested deeper than calls can be.
+    parts = []
+    due = [term]
+    while len(due) > 0:
+        part = due.pop()
+        parts.append(part)
+        due.extend(_arguments(part)[::-1])
     return parts
 
 
