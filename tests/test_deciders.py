@@ -2,6 +2,7 @@ import random
 
 from tests.drawing import Case, state
 from tests.test_answers import WIDE, read
+from tests.test_fillings import FOUR
 from tests.test_kinds import book, draw_book
 from tests.test_sorts import draw_single
 from worldorpaper.answers import decided_clauses, judge_answer
@@ -283,6 +284,41 @@ class Verdicts(Case):
                     if answer.verdict == "world":
                         self.assertLessEqual(answer.world.size, enough(one, kind))
         self.assertGreater(decided, 40)
+
+
+class BothRoads(Case):
+    """Points 142 and 143 for books whose rounds of fillings go on and on beside the trees."""
+
+    def test_the_answer_comes_after_the_same_rounds_of_trees(self):
+        self.assertEqual(told_size(FOUR), 2)
+        for deal, rounds in (((1, 0), 2776), ((3, 1), 3701), ((1, 1), 5551), ((1, 3), 11101)):
+            answer = decide(FOUR, picks=[4], deal=deal)
+            self.assertEqual((answer.verdict, answer.world.size, answer.rounds), ("world", 2, rounds))
+            self.assertLessEqual(rounds, rounds_enough(FOUR, deal=deal))
+            self.assertTrue(judge_answer(FOUR, answer))
+
+    def test_drawn(self):
+        texts = ["all x. all y. A(x, y) implies not B(y) and some z. A(y, z)", "some x. B(x)", "some x. not B(x)",
+                 "all x. B(x) implies some y. A(x, y) and not B(y)", "all x. B(x) or some y. A(x, y) and B(y)",
+                 "all x. some y. A(x, y) and (B(x) or B(y))", "all x. all y. A(x, y) implies some z. A(y, z)",
+                 "all x. all y. not A(x, y) or some z. A(y, z) and (B(z) or B(x))",
+                 "all x. not B(x) or some y. A(x, y) and not B(y) and some z. A(y, z)"]
+        rng = random.Random(14302)
+        rounds = []
+        for _ in range(60):
+            one = read(*[rng.choice(texts) for _ in range(rng.randint(3, 6))], head="relation A 2\nrelation B 1\n")
+            answers = []
+            for deal in ((1, 0), (1, 2), (2, 1)):
+                decider = Decider(one, deal=deal, picks=[rng.randrange(6) for _ in range(2)], cases=False)
+                answer = decider.run(6000)
+                if decider.has_answer():
+                    answers.append((answer.verdict, answer.world and answer.world.size))
+                    rounds.append(answer.rounds)
+                    self.assertLessEqual(answer.rounds, rounds_enough(one, deal=deal))
+                    self.assertTrue(judge_answer(one, answer))
+            self.assertLessEqual(len(set(answers)), 1)
+        self.assertGreater(len(rounds), 150)
+        self.assertGreater(max(rounds), 2000)
 
 
 class Runs(Case):

@@ -2,16 +2,24 @@ import itertools
 import random
 
 from tests.drawing import SIGNATURE, Case, clause, draw_clauses, no, state, yes
+from tests.test_answers import read
+from worldorpaper.answers import decided_clauses
 from worldorpaper.books import Signature
 from worldorpaper.clauses import clause_text, clause_unknowns, fill_clause
-from worldorpaper.fillings import Fillings, Levels, closed_terms, named_signature
+from worldorpaper.fillings import Fillings, closed_terms, named_signature
+from worldorpaper.forms import form_of
 from worldorpaper.groundworlds import world_of
 from worldorpaper.hearts import Heart
-from worldorpaper.lines import cut_lines, judge_lines
+from worldorpaper.lines import cut_lines, first_wrong, judge_lines
 from worldorpaper.orders import plain_order
+from worldorpaper.terms import term_size
 from worldorpaper.truth import clauses_true, false_values
 
 A, B, X, Y = ("a",), ("b",), "x", "y"
+# A book that has a world of two things, but whose road of fillings goes on and on.
+LEAF = "all y. (not B(y) implies B(y)) implies some w3. A(y, w3) and (B(w3) implies not B(w3))"
+FOUR = read("all y. all w3. A(y, w3) implies not B(w3) and some y. A(w3, y)", LEAF, LEAF,
+            "(some y. B(y)) and some y. not B(y)", head="relation A 2\nrelation B 1\n")
 FA, FX = ("f", ("a",)), ("f", "x")
 SMALL = Signature([("a", 0), ("b", 0), ("f", 1)], [("P", 1), ("Q", 0)])
 BARE = Signature([("f", 1)], [("P", 1), ("R", 2)])
@@ -115,29 +123,6 @@ class Terms(Case):
         for signature, depth in [(SIGNATURE, 1), (SMALL, 4), (Signature([("g", 2), ("a", 0), ("h", 2)], []), 3)]:
             for at in range(depth + 1):
                 self.gives(plain_terms(signature, at), closed_terms, signature, at)
-
-
-class LevelsOfTerms(Case):
-    """The levels of point 138, also those that a road does not reach."""
-
-    def taken(self, levels, most):
-        found = []
-        for _ in range(most):
-            found.append(levels.following())
-        return found
-
-    def test_levels_that_end(self):
-        clauses = [clause(yes(("P", X))), clause(no(A, B)), clause(yes(("R", Y, X)))]
-        rows = [(0, [B]), (0, [A]), (1, []), (2, [B, B]), (2, [B, A]), (2, [A, B]), (2, [A, A])]
-        self.assertEqual(self.taken(Levels(FLAT, clauses), 9), rows + [None, None])
-        # Without unknowns deeper terms make no further fillings.
-        self.assertEqual(self.taken(Levels(SMALL, [clause(no(A, B)), ()]), 4), [(0, []), (1, []), None, None])
-        self.assertEqual(self.taken(Levels(SMALL, []), 2), [None, None])
-
-    def test_levels_without_end(self):
-        rows = [(0, []), (1, [A]), (1, [B])]
-        self.assertEqual(self.taken(Levels(SMALL, [(), clause(yes(("P", X)))]), 8),
-                         rows + rows + [(1, [FA]), (1, [("f", B)])])
 
 
 class Road(Case):
@@ -272,3 +257,50 @@ class Road(Case):
                    clause(no(("P", ("f", ("f", ("f", FA))))))]
         road = run(Fillings(SMALL, clauses))
         self.assertTrue(judge_lines(SMALL, clauses, self.call(road.paper)))
+
+
+class LongRoads(Case):
+    """Many steps of point 138, each of which does not take longer than the first ones."""
+
+    def test_some_steps_as_the_point_stands(self):
+        clauses = decided_clauses(form_of(FOUR))
+        signature = form_of(FOUR).signature
+        road, plain = Fillings(signature, clauses, [4]), PlainFillings(signature, clauses, [4])
+        for _ in range(110):
+            road.step()
+            plain.step()
+            self.assertEqual(state(road.put_in), state(plain.put_in))
+        self.assertEqual(outcome(road), outcome(plain))
+
+    def test_many_steps(self):
+        road = Fillings(form_of(FOUR).signature, decided_clauses(form_of(FOUR)), [4])
+        counts = []
+        for steps in (925, 5000):
+            for _ in range(steps):
+                road.step()
+            counts.append((len(road.heart.rows), len(road.heart.kept), len(road.put_in), road.heart.steps))
+        self.assertEqual(counts[0], (1101, 412, 461, 464))
+        self.assertIs(road.has_ended(), False)
+        self.assertGreater(max(term_size(term) for _, pairs in road.put_in for _, term in pairs), 900)
+        self.assertIsNone(first_wrong(road.signature, road.heart.given, road.heart.rows))
+
+    def test_terms_that_are_nested_deeper_than_calls(self):
+        signature = Signature([("a", 0), ("f", 1)], [("R", 2)])
+        road = run(Fillings(signature, [clause(yes(("R", X, FX)))]), 6000)
+        self.assertEqual((len(road.put_in), len(road.heart.kept), road.has_ended()), (3000, 3000, False))
+        self.assertEqual([term_size(pairs[0][1]) for _, pairs in road.put_in], list(range(1, 3001)))
+        self.assertIsNone(first_wrong(signature, road.heart.given, road.heart.rows))
+
+    def test_terms_with_ever_more_places(self):
+        # Each filling at false values has twice as many places as the one before it.
+        signature = Signature([("a", 0), ("g", 2)], [("R", 2)])
+        road = run(Fillings(signature, [clause(yes(("R", X, ("g", X, X))))]), 1200)
+        self.assertEqual((len(road.put_in), len(road.heart.kept), road.has_ended()), (600, 600, False))
+
+    def test_equations(self):
+        # Each filling names a thing and makes a rule for a term that nothing else reads.
+        signature = Signature([("a", 0), ("f", 1), ("g", 1)], [("P", 1)])
+        clauses = [clause(yes(("g", FX), X)), clause(no(X, FX))]
+        road = run(Fillings(signature, clauses), 3000)
+        self.assertIs(road.has_ended(), False)
+        self.assertIsNone(first_wrong(signature, road.heart.given, road.heart.rows))

@@ -2,7 +2,8 @@ import random
 
 from tests.drawing import GROUND, Case, draw_atom, draw_order, draw_term, ground_clauses
 from worldorpaper.clauses import make_clause, make_literal
-from worldorpaper.rewriting import normal, true_by
+from worldorpaper.numbering import Sides
+from worldorpaper.rewriting import Rewriter, normal, true_by
 from worldorpaper.terms import TOP, part_at, places_of, replace_at
 
 A, B, C = ("a",), ("b",), ("c",)
@@ -138,3 +139,46 @@ class TrueBy(Case):
             self.gives(expected, true_by, rules, clause)
             answers[expected] += 1
         self.assertTrue(min(answers.values()) > 100, answers)
+
+
+class Rewriters(Case):
+    """Rules that come and go."""
+
+    def test_rules_for_atoms(self):
+        rewriter = Rewriter(Sides())
+        a, b, pa, pb, top = [rewriter.sides.number_of(side) for side in (A, B, ("P", A), ("P", B), TOP)]
+        rewriter.put(b, a)
+        self.assertEqual([rewriter.normal_form(side) for side in (pa, pb, b)], [pa, pa, a])
+        rewriter.put(pa, top)
+        self.assertEqual([rewriter.normal_form(side) for side in (pa, pb, top)], [top, top, top])
+        self.assertEqual([rewriter.with_normal_arguments(side) for side in (pa, pb)], [pa, pa])
+        rewriter.drop(pa)
+        rewriter.drop(pb)
+        self.assertEqual([rewriter.normal_form(side) for side in (pa, pb)], [pa, pa])
+
+    def test_terms_that_were_met(self):
+        rewriter = Rewriter(Sides())
+        a, b, c, fb, pfb = [rewriter.sides.number_of(side) for side in (A, B, C, ("f", B), ("P", ("f", B)))]
+        rewriter.put(b, c)
+        rewriter.normal_form(pfb)
+        fc = rewriter.sides.number_of(("f", C))
+        self.assertEqual([rewriter.has_met(term) for term in (a, b, c, fb, fc)], [False, True, True, True, True])
+        rewriter.put(a, fb)
+        self.assertEqual(rewriter.normal_form(a), fc)
+
+    def test_deep_sides(self):
+        def times(count, term):
+            for _ in range(count):
+                term = ("f", term)
+            return term
+
+        sides = Sides()
+        rewriter = Rewriter(sides)
+        rewriter.put(sides.number_of(times(3, B)), sides.number_of(A))
+        for count in (3000, 4999):
+            found = rewriter.normal_form(sides.number_of(("P", times(count, B))))
+            self.assertEqual(found, sides.number_of(("P", times(count - 3, A))))
+        # A way of many rules.
+        for number in range(3000):
+            rewriter.put(sides.number_of((f"c{number}",)), sides.number_of(("f", (f"c{number + 1}",))))
+        self.assertEqual(rewriter.normal_form(sides.number_of(("c0",))), sides.number_of(times(3000, ("c3000",))))

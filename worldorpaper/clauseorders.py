@@ -1,22 +1,31 @@
 """Orders of literals and clauses without unknowns."""
 
+from worldorpaper.numberclauses import numbered_literal, plain_clause
+from worldorpaper.ranks import Ranks
+
 
 def compare_literals(order, one, two, /):
     """Returns 1, 0 or -1 if the first literal is greater than, equal to or less than the second one."""
-    return _compared(literal_key(order, one), literal_key(order, two))
+    ranks = Ranks(order)
+    mine, yours = numbered_literal(ranks.sides, one), numbered_literal(ranks.sides, two)
+    if ranks.is_less_literal(mine, yours):
+        return -1
+    return 1 if ranks.is_less_literal(yours, mine) else 0
 
 
 def compare_clauses(order, one, two, /):
     """Returns 1, 0 or -1 if the first clause is greater than, equal to or less than the second one."""
-    return _compared(clause_key(order, one), clause_key(order, two))
+    ranks = Ranks(order)
+    mine, yours = ranks.ranked_clause(one), ranks.ranked_clause(two)
+    if ranks.is_less_clause(mine, yours):
+        return -1
+    return 1 if ranks.is_less_clause(yours, mine) else 0
 
 
 def greater_side(order, literal):
     """The index of the greater side, or None if both are equal."""
-    _, left, right = literal
-    if left == right:
-        return None
-    return 0 if order.ground_key(left) > order.ground_key(right) else 1
+    ranks = Ranks(order)
+    return ranks.greater_side(numbered_literal(ranks.sides, literal))
 
 
 def greatest_index(order, clause):
@@ -27,31 +36,17 @@ def greatest_index(order, clause):
 
 def descending(order, clause):
     """The literals of a clause in descending order."""
-    return sorted(clause, key=lambda literal: literal_key(order, literal), reverse=True)
+    ranks = Ranks(order)
+    return list(plain_clause(ranks.sides, ranks.ranked_clause(clause).descending))
 
 
 def sorted_clauses(order, clauses):
     """Clauses in ascending order, without duplicates."""
+    ranks = Ranks(order)
     found = []
-    for clause in sorted(clauses, key=lambda one: clause_key(order, one)):
-        if len(found) == 0 or found[-1] != clause:
-            found.append(clause)
-    return found
-
-
-def literal_key(order, literal):
-    """The bag of a literal; literals compare as their keys do."""
-    sign, left, right = literal
-    less, greater = sorted([order.ground_key(left), order.ground_key(right)])
-    return (greater, less) if sign else (greater, greater, less, less)
-
-
-def clause_key(order, clause):
-    """The keys of the literals in descending order; clauses compare as their keys do."""
-    return tuple(sorted([literal_key(order, literal) for literal in clause], reverse=True))
-
-
-def _compared(one, two):
-    if one == two:
-        return 0
-    return 1 if one > two else -1
+    for clause in clauses:
+        ranked = ranks.ranked_clause(clause)
+        at = ranks.place_of_clause(found, ranked)
+        if at == 0 or found[at - 1].clause != ranked.clause:
+            found.insert(at, ranked)
+    return [plain_clause(ranks.sides, ranked.clause) for ranked in found]

@@ -82,6 +82,11 @@ def always_true(clause):
     return False
 
 
+def other_literals(clause, index):
+    """The list of the literals of a clause without the one at an index."""
+    return [literal for at, literal in enumerate(clause) if at != index]
+
+
 def _fill_literal(literal, filling):
     sign, left, right = literal
     return make_literal(sign, fill_term(left, filling), fill_term(right, filling))

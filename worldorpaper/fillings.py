@@ -1,45 +1,15 @@
 """The road of fillings, which decides clauses by their instances without unknowns."""
 
 from worldorpaper.clauses import clause_unknowns
-from worldorpaper.groundworlds import world_of_ranked
 from worldorpaper.hearts import Heart, refutation
+from worldorpaper.levels import ClosedTerms, Levels
 from worldorpaper.lines import renumbered
 from worldorpaper.names import fresh_name
+from worldorpaper.numberclauses import filled_clause
+from worldorpaper.numbering import Sides
 from worldorpaper.orders import plain_order
-from worldorpaper.steps import fill_step
-from worldorpaper.truth import false_values
-from worldorpaper.worlds import row_at, table_length, thing_rows
-
-
-class Levels:
-    """Goes through the fillings of clauses by terms that are nested deeper and deeper."""
-
-    def __init__(self, signature, clauses):
-        self._signature = signature
-        self._unknowns = [clause_unknowns(clause) for clause in clauses]
-        self._terms = closed_terms(signature, 0)
-        self._index = 0
-        self._number = 0
-
-    def following(self):
-        """The index of a clause and the terms for its unknowns, or None if no level has others than those before."""
-        while True:
-            while self._index < len(self._unknowns):
-                length = len(self._unknowns[self._index])
-                if self._number < table_length(len(self._terms), length):
-                    row = row_at(len(self._terms), length, self._number)
-                    self._number += 1
-                    return self._index, [self._terms[place] for place in row]
-                self._index += 1
-                self._number = 0
-            if not self._goes_deeper():
-                return None
-            self._terms = _deeper_terms(self._signature, self._terms)
-            self._index = 0
-
-    def _goes_deeper(self):
-        grows = any([arity > 0 for _, arity in self._signature.functions])
-        return grows and any([len(names) > 0 for names in self._unknowns])
+from worldorpaper.ruleworlds import RuleWorld
+from worldorpaper.seeking import Seeker
 
 
 class Fillings:
@@ -51,9 +21,15 @@ class Fillings:
         self.put_in = []
         self.world = None
         self._clauses = tuple(clauses)
-        self._levels = Levels(self.signature, self._clauses)
-        # The indexes of clauses with the texts of the filled clauses that were put in for them.
+        self._unknowns = [clause_unknowns(clause) for clause in self._clauses]
+        self._sides = self.heart.ranks.sides
+        self._levels = Levels(self.signature, self._sides, self._clauses)
+        # The indexes of clauses with the numbered filled clauses that were put in for them.
         self._in = {}
+        # The world of the clauses that the heart has kept, or of the first ones of them.
+        self._present = RuleWorld(self.signature, self.heart.ranks)
+        self._looked_at = 0
+        self._seekers = [Seeker(self._present, clause) for clause in self._clauses]
 
     def has_ended(self):
         """Tells whether there is a world or the heart has refuted."""
@@ -66,13 +42,13 @@ class Fillings:
         if not self.heart.has_ended():
             self.heart.step()
             return
-        world, names = world_of_ranked(self.signature, self.heart.order, self.heart.ranked_kept)
-        for index, clause in enumerate(self._clauses):
-            things = false_values(world, clause)
-            if things is not None:
-                self._put(self._next_filling(index, [names[thing] for thing in things]))
+        self._bring_up_to_date()
+        for index, seeker in enumerate(self._seekers):
+            names = seeker.first_false()
+            if names is not None:
+                self._put(self._next_filling((index, names)))
                 return
-        self.world = world
+        self.world = self._present.as_world()
 
     def paper(self):
         """The refutation of the heart as a paper over the clauses."""
@@ -88,34 +64,37 @@ class Fillings:
             places[place] = len(rows) - 1
         return rows
 
-    def _next_filling(self, index, terms):
-        """The pair of an index and pairs for the filling that is put in, given the one at the false values."""
-        at_false_values = self._paired(index, terms)
+    def _bring_up_to_date(self):
+        """Lets the world know what the heart has kept."""
+        kept = self.heart.ranked_kept.clauses
+        for ranked in kept[self._looked_at:]:
+            self._present.put(ranked)
+        self._looked_at = len(kept)
+        self._present.refresh()
+
+    def _next_filling(self, at_false_values):
+        """The pair of an index and names for the filling that is put in, given the one at the false values."""
         # Every third filling comes from the levels, so that none of theirs is put off for ever.
         if len(self.put_in) % 3 != 2:
             return at_false_values
         found = self._levels.following()
         while found is not None:
-            filling = self._paired(found[0], found[1])
-            if self._key(filling) not in self._in:
-                return filling
+            if (found[0], self._filled(found)) not in self._in:
+                return found
             found = self._levels.following()
         return at_false_values
 
-    def _paired(self, index, terms):
-        return index, tuple(zip(clause_unknowns(self._clauses[index]), terms))
-
     def _put(self, filling):
-        self._in[self._key(filling)] = True
-        self.put_in.append(filling)
-        self.heart.add(self._filled(filling))
-
-    def _key(self, filling):
-        return filling[0], repr(self._filled(filling))
+        index, names = filling
+        terms = [self._sides.listed[name] for name in names]
+        self.put_in.append((index, tuple(zip(self._unknowns[index], terms))))
+        filled = self._filled(filling)
+        self._in[(index, filled)] = True
+        self.heart.add_numbered(filled)
 
     def _filled(self, filling):
-        index, pairs = filling
-        return fill_step(self._clauses[index], pairs)
+        index, names = filling
+        return filled_clause(self._sides, self._clauses[index], dict(zip(self._unknowns[index], names)))
 
 
 def named_signature(signature):
@@ -127,19 +106,8 @@ def named_signature(signature):
 
 def closed_terms(signature, depth):
     """The terms without unknowns that are nested at most so deep."""
-    terms = [(name,) for name in signature.constants()]
+    sides = Sides()
+    terms = ClosedTerms(signature, sides)
     for _ in range(depth):
-        terms = _deeper_terms(signature, terms)
-    return terms
-
-
-def _deeper_terms(signature, terms):
-    """The terms, and behind them the further ones that are nested one deeper."""
-    listed = {repr(term): True for term in terms}
-    deeper = []
-    for name, arity in signature.functions:
-        for row in thing_rows(len(terms), arity):
-            term = (name,) + tuple([terms[place] for place in row])
-            if repr(term) not in listed:
-                deeper.append(term)
-    return terms + deeper
+        terms.deepen()
+    return [sides.listed[terms.at(index)] for index in range(terms.count)]

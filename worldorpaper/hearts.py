@@ -2,9 +2,10 @@
 
 from worldorpaper.clauses import is_ground
 from worldorpaper.errors import BadStep
-from worldorpaper.inferring import RankedClause, factor_rows, join_result, joined, needless, simpler_step, simplify
+from worldorpaper.inferring import Kept, factor_rows, join_result, joined
 from worldorpaper.lines import cut_lines
-from worldorpaper.steps import factor_step
+from worldorpaper.numberclauses import factored_clause, numbered_clause, plain_clause
+from worldorpaper.ranks import RankedClause, Ranks
 
 
 class Heart:
@@ -19,21 +20,28 @@ class Heart:
         self.kept = []
         self.steps = 0
         self.refuted = None
+        self.ranks = Ranks(order)
+        self.ranked_kept = Kept(self.ranks)
         self._picks = tuple(picks)
-        self.ranked_kept = []
-        self._texts = {}
+        # The numbered clauses of the rows, and which ones there are.
+        self._numbered = []
+        self._met = {}
 
     @property
     def kept_clauses(self):
         """The clauses of the kept rows."""
-        return [ranked.clause for ranked in self.ranked_kept]
+        return [self.rows[row][0] for row in self.kept]
 
     def add(self, clause):
         """Takes in a clause; raises BadStep if it has unknowns."""
         if not is_ground(clause):
             raise BadStep("the clause has unknowns")
-        self.given.append(clause)
-        self._append_row(clause, ("given", len(self.given) - 1))
+        self.add_numbered(numbered_clause(self.ranks.sides, clause))
+
+    def add_numbered(self, clause):
+        """Takes in a clause with numbers for its sides."""
+        self._append_row(clause, ("given", len(self.given)))
+        self.given.append(self.rows[-1][0])
         self.waiting.append(len(self.rows) - 1)
 
     def has_ended(self):
@@ -45,14 +53,14 @@ class Heart:
         if self.has_ended():
             return
         row = self._take_row()
-        clause = self.rows[row][0]
-        while not needless(self.kept_clauses, clause):
-            ranked = RankedClause(self.order, clause)
-            step = simpler_step(self.ranked_kept, ranked)
+        clause = self._numbered[row]
+        while not self.ranked_kept.makes_needless(clause):
+            ranked = RankedClause(self.ranks, clause)
+            step = self.ranked_kept.simpler(ranked)
             if step is None:
                 self._settle(row, ranked)
                 return
-            clause = simplify(self.kept_clauses, clause, step)
+            clause = self.ranked_kept.simplified(clause, step)
             self._append_row(clause, self._reason(step, row))
             row = len(self.rows) - 1
 
@@ -76,29 +84,30 @@ class Heart:
             self.refuted = row
             return
         for step in factor_rows(ranked):
-            self._infer(factor_step(ranked.clause, *step), ("factor", row) + step)
-        for other_row, other in zip(self.kept, self.ranked_kept):
+            self._infer(factored_clause(self.ranks.sides, ranked.clause, *step), ("factor", row) + step)
+        for index in self.ranked_kept.partners(ranked):
+            other_row, other = self.kept[index], self.ranked_kept.clauses[index]
             self._infer_join(other_row, other, row, ranked)
             self._infer_join(row, ranked, other_row, other)
         self.kept.append(row)
-        self.ranked_kept.append(ranked)
+        self.ranked_kept.keep(ranked)
 
     def _infer_join(self, first_row, first, second_row, second):
-        step = joined(first, second)
+        step = joined(self.ranks, first, second)
         if step is not None:
             index, side, target, place = step
             reason = ("replace", first_row, index, side, second_row, target, place)
-            self._infer(join_result(first, second, step), reason)
+            self._infer(join_result(self.ranks, first, second, step), reason)
 
     def _infer(self, clause, reason):
-        if repr(clause) not in self._texts:
+        if clause not in self._met:
             self._append_row(clause, reason)
             self.waiting.append(len(self.rows) - 1)
 
     def _append_row(self, clause, reason):
-        self.rows.append((clause, reason))
-        # Texts can be keys; clauses may be nested deeper than keys are.
-        self._texts[repr(clause)] = True
+        self.rows.append((plain_clause(self.ranks.sides, clause), reason))
+        self._numbered.append(clause)
+        self._met[clause] = True
 
 
 def saturate(signature, order, clauses, *, picks=()):

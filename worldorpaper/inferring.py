@@ -1,44 +1,113 @@
 """Inferences from clauses without unknowns, and what makes such clauses needless."""
 
-from worldorpaper.clauseorders import clause_key, greater_side, greatest_index
 from worldorpaper.clauses import always_true
-from worldorpaper.steps import drop_step, factor_step, replace_step
+from worldorpaper.numberclauses import factored_clause, numbered_clause, replaced_clause
+from worldorpaper.ranks import RankedClause, Ranks
+from worldorpaper.steps import drop_step, replace_step
 
 
-class RankedClause:
-    """A clause with what an order tells of it."""
+class Kept:
+    """Ranked clauses in the order in which they are kept, filed so that those that count for a clause are found."""
 
-    def __init__(self, order, clause):
-        self.clause = clause
-        self.key = clause_key(order, clause)
-        self.head = head_of(order, clause)
-        # The greater side of the greatest literal, if this side can be put for other ones.
-        self.top = None
-        self.is_equating = False
-        if self.head is not None:
-            index, side = self.head
-            self.top = clause[index][1 + side]
-            self.is_equating = clause[index][0]
-        self.is_rule = self.is_equating and len(clause) == 1
+    def __init__(self, ranks):
+        self.ranks = ranks
+        self.clauses = []
+        # The indexes of the clauses by their first literals, or by None for the empty clause, and by their tops.
+        self._by_literal = {}
+        self._by_top = {}
+        self._has_term_tops = False
+
+    def keep(self, ranked):
+        """Puts a clause behind the others."""
+        index = len(self.clauses)
+        self.clauses.append(ranked)
+        literal = ranked.clause[0] if len(ranked.clause) > 0 else None
+        self._by_literal.setdefault(literal, []).append(index)
+        if ranked.top is not None:
+            self._by_top.setdefault(ranked.top, []).append(index)
+            self._has_term_tops = self._has_term_tops or not self.ranks.sides.is_atom(ranked.top)
+
+    def makes_needless(self, clause):
+        """Tells whether a clause is needless beside the clauses."""
+        # All literals of a clause can only stand in a clause in which its first one stands.
+        indexes = list(self._by_literal.get(None, []))
+        for literal in clause:
+            indexes.extend(self._by_literal.get(literal, []))
+        return needless([self.clauses[index].clause for index in indexes], clause)
+
+    def simpler(self, ranked):
+        """The next step that makes a clause less, or None."""
+        if len(drop_step(ranked.clause)) < len(ranked.clause):
+            return ("drop",)
+        sides = []
+        for _, left, right in ranked.clause:
+            sides.extend([left, right])
+        for index in sorted(self._with_top_in(sides)):
+            rule = self.clauses[index]
+            if rule.is_rule and self.ranks.is_less_clause(rule, ranked):
+                return ("replace", index, rule.head[1]) + self._first_place(rule.top, ranked.clause)
+        return None
+
+    def simplified(self, clause, step):
+        """What a step of `simpler` makes of a clause."""
+        if step[0] == "drop":
+            return drop_step(clause)
+        _, index, side, target, place = step
+        return replaced_clause(self.ranks.sides, self.clauses[index].clause, 0, side, clause, target, place)
+
+    def covers(self, clause):
+        """Tells whether a clause is needless or gets so by steps that make it less."""
+        now = clause
+        while not self.makes_needless(now):
+            step = self.simpler(RankedClause(self.ranks, now))
+            if step is None:
+                return False
+            now = self.simplified(now, step)
+        return True
+
+    def partners(self, ranked):
+        """The indexes, ascending, of the clauses with which there can be joins."""
+        if ranked.top is None:
+            return []
+        indexes = self._with_top_in([ranked.top])
+        if ranked.is_equating:
+            for holder in self.ranks.sides.holders_of(ranked.top):
+                indexes.extend(self._by_top.get(holder, []))
+        return sorted(set(indexes))
+
+    def _with_top_in(self, numbers):
+        """The indexes of the clauses whose tops stand in some sides."""
+        # Atoms stand in no other sides.
+        parts = self.ranks.sides.parts_of(numbers) if self._has_term_tops else sorted(set(numbers))
+        indexes = []
+        for part in parts:
+            indexes.extend(self._by_top.get(part, []))
+        return indexes
+
+    def _first_place(self, part, clause):
+        """The index of the first literal with a part, and the first place of the part in it."""
+        for target, literal in enumerate(clause):
+            for index, side in enumerate(literal[1:]):
+                place = self.ranks.sides.first_place(part, side)
+                if place is not None:
+                    return target, (index,) + place
+        return None
 
 
 def head_of(order, clause):
     """The indexes of the greatest literal and of its greater side, or None."""
-    index = greatest_index(order, clause)
-    if index is None:
-        return None
-    side = greater_side(order, clause[index])
-    return None if side is None else (index, side)
+    return Ranks(order).ranked_clause(clause).head
 
 
 def join(order, first, second):
     """The tuple of a join of two clauses, or None."""
-    return joined(RankedClause(order, first), RankedClause(order, second))
+    ranks = Ranks(order)
+    return joined(ranks, ranks.ranked_clause(first), ranks.ranked_clause(second))
 
 
 def factors(order, clause):
     """Yields the tuples of the factors of a clause."""
-    for row in factor_rows(RankedClause(order, clause)):
+    for row in factor_rows(Ranks(order).ranked_clause(clause)):
         yield row
 
 
@@ -54,8 +123,8 @@ def needless(clauses, clause):
 
 def simpler(order, clauses, clause):
     """The next step that makes a clause less, or None."""
-    ranked = [RankedClause(order, other) for other in clauses]
-    return simpler_step(ranked, RankedClause(order, clause))
+    kept = _kept(order, clauses)
+    return kept.simpler(kept.ranks.ranked_clause(clause))
 
 
 def simplify(clauses, clause, step):
@@ -68,29 +137,33 @@ def simplify(clauses, clause, step):
 
 def covered(order, clauses, clause):
     """Tells whether a clause is needless or gets so by steps that make it less."""
-    return _is_covered(order, [RankedClause(order, other) for other in clauses], clause)
+    kept = _kept(order, clauses)
+    return kept.covers(numbered_clause(kept.ranks.sides, clause))
 
 
 def is_saturated(order, clauses):
     """Tells whether the clauses cover whatever can be inferred from them."""
-    ranked = [RankedClause(order, clause) for clause in clauses]
-    for one in ranked:
+    kept = _kept(order, clauses)
+    sides = kept.ranks.sides
+    for one in kept.clauses:
         results = [drop_step(one.clause)]
-        results.extend([factor_step(one.clause, *row) for row in factor_rows(one)])
-        for other in ranked:
-            row = joined(one, other)
+        results.extend([factored_clause(sides, one.clause, *row) for row in factor_rows(one)])
+        for index in kept.partners(one):
+            row = joined(kept.ranks, one, kept.clauses[index])
             if row is not None:
-                results.append(join_result(one, other, row))
-        if not all([_is_covered(order, ranked, result) for result in results]):
+                results.append(join_result(kept.ranks, one, kept.clauses[index], row))
+        if not all([kept.covers(result) for result in results]):
             return False
     return True
 
 
-def joined(first, second):
+def joined(ranks, first, second):
     """The tuple of a join of two ranked clauses, or None."""
-    if not first.is_equating or second.head is None or not first.key[0] < second.key[0]:
+    if not first.is_equating or second.head is None:
         return None
-    place = _first_place(first.top, second.top)
+    if not ranks.is_less_literal(first.descending[0], second.descending[0]):
+        return None
+    place = ranks.sides.first_place(first.top, second.top)
     if place is None:
         return None
     index, side = first.head
@@ -98,10 +171,10 @@ def joined(first, second):
     return (index, side, target, (target_side,) + place)
 
 
-def join_result(first, second, row):
-    """The clause that a join of two ranked clauses makes."""
+def join_result(ranks, first, second, row):
+    """The numbered clause that a join of two ranked clauses makes."""
     index, side, target, place = row
-    return replace_step(first.clause, index, side, second.clause, target, place)
+    return replaced_clause(ranks.sides, first.clause, index, side, second.clause, target, place)
 
 
 def factor_rows(ranked):
@@ -116,38 +189,8 @@ def factor_rows(ranked):
     return rows
 
 
-def simpler_step(rules, ranked):
-    """The next step that makes a ranked clause less by ranked clauses, or None."""
-    clause = ranked.clause
-    if len(drop_step(clause)) < len(clause):
-        return ("drop",)
-    for index, rule in enumerate(rules):
-        if rule.is_rule and rule.key < ranked.key:
-            for target, literal in enumerate(clause):
-                place = _first_place(rule.top, literal)
-                if place is not None:
-                    return ("replace", index, rule.head[1], target, place)
-    return None
-
-
-def _is_covered(order, ranked, clause):
-    clauses = [other.clause for other in ranked]
-    now = clause
-    while not needless(clauses, now):
-        step = simpler_step(ranked, RankedClause(order, now))
-        if step is None:
-            return False
-        now = simplify(clauses, now, step)
-    return True
-
-
-def _first_place(part, whole):
-    """The first place in preorder of a part in a side or a literal, or None."""
-    # A literal has its sides where an application has its arguments, so places mean the same.
-    if part == whole:
-        return ()
-    for index, argument in enumerate(whole[1:]):
-        place = _first_place(part, argument)
-        if place is not None:
-            return (index,) + place
-    return None
+def _kept(order, clauses):
+    kept = Kept(Ranks(order))
+    for clause in clauses:
+        kept.keep(kept.ranks.ranked_clause(clause))
+    return kept

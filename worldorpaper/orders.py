@@ -1,6 +1,7 @@
 """Orders of terms and atoms."""
 
 from worldorpaper.errors import BadOrder
+from worldorpaper.ranks import Ranks, SortedSides
 from worldorpaper.terms import TOP
 
 
@@ -58,18 +59,6 @@ class Order:
             return 1
         return -1 if self.is_greater(other, one) else None
 
-    def ground_key(self, side):
-        """A nested tuple of integers; sides without unknowns compare as these do."""
-        if side == TOP:
-            return (0,)
-        weight = self.weights[side[0]]
-        inner = []
-        for argument in side[1:]:
-            key = self.ground_key(argument)
-            weight += key[0]
-            inner.append(key)
-        return (weight, self._ranks[side[0]]) + tuple(inner)
-
 
 def plain_order(signature):
     """The order in which each name weighs 1 and the names rank as they are listed."""
@@ -78,11 +67,10 @@ def plain_order(signature):
 
 def sorted_terms(order, sides):
     """Sides without unknowns in ascending order, without duplicates."""
-    found = []
-    for side in sorted(sides, key=order.ground_key):
-        if len(found) == 0 or found[-1] != side:
-            found.append(side)
-    return found
+    ranks = Ranks(order)
+    found = SortedSides(ranks)
+    found.put([ranks.sides.number_of(side) for side in sides])
+    return [ranks.sides.listed[number] for number in found.numbers]
 
 
 def _occur_as_often(one, other):

@@ -1,81 +1,95 @@
 """Normal forms of sides without unknowns."""
 
-from worldorpaper.terms import term_text
+from worldorpaper.numbering import Sides
 
 
 def normal(rules, side, /):
     """The normal form of a side."""
-    return _rewriter_of(rules).normal(side)
+    rewriter = _rewriter_of(rules)
+    return rewriter.sides.listed[rewriter.normal_form(rewriter.sides.number_of(side))]
 
 
 def true_by(rules, clause):
     """Tells whether the rules make some literal of the clause true."""
-    return _rewriter_of(rules).makes_true(clause)
+    rewriter = _rewriter_of(rules)
+    for sign, left, right in clause:
+        forms = [rewriter.normal_form(rewriter.sides.number_of(side)) for side in (left, right)]
+        if (forms[0] == forms[1]) == sign:
+            return True
+    return False
 
 
 class Rewriter:
-    """Rules by the texts of their first members; sides may be nested deeper than keys are."""
+    """Rules between numbered sides, and the normal forms that they make."""
 
-    def __init__(self):
-        self.rules = []
-        self._seconds = {}
-        # By the text of a first member that was met the normal form of it, with its text.
-        self._found = {}
-        # By the text of a side that was asked for its normal form.
-        self._asked = {}
+    def __init__(self, sides):
+        self.sides = sides
+        # By the first members of the rules.
+        self.seconds = {}
+        # The normal forms of the terms that were met: those that were asked for, and what they have in them or lead to.
+        self._forms = {}
 
-    def with_rule(self, first, second):
-        """The same rules with a further one; what was asked for so far is not greater than its first member."""
-        longer = Rewriter()
-        longer.rules = self.rules + [(first, second)]
-        longer._seconds = {text: self._seconds[text] for text in self._seconds}
-        longer._seconds.setdefault(term_text(first), second)
-        # So the first member stands in no normal form that was found, unless it is this form.
-        longer._asked = {text: form for text, form in self._asked.items() if form != first}
-        return longer
+    def put(self, first, second):
+        """Adds a rule, or changes it; the first member was not met."""
+        self.seconds[first] = second
 
-    def normal(self, side):
+    def drop(self, first):
+        """Takes away the rule for a side, if there is one; the side was not met."""
+        self.seconds.pop(first, None)
+
+    def has_met(self, term):
+        """Tells whether normal forms depend on the one of a term. None depends on that of an atom."""
+        return term in self._forms
+
+    def normal_form(self, number):
         """The normal form of a side."""
-        text = repr(side)
-        if text not in self._asked:
-            form, _ = self._normal(side)
-            self._asked[text] = form
-        return self._asked[text]
+        if not self.sides.is_atom(number):
+            self._find_form(number)
+            return self._forms[number]
+        now = self.with_normal_arguments(number)
+        while now in self.seconds:
+            now = self.with_normal_arguments(self.seconds[now])
+        return now
 
-    def makes_true(self, clause):
-        """Tells whether the rules make some literal of a clause true."""
-        for sign, left, right in clause:
-            if (self.normal(left) == self.normal(right)) == sign:
-                return True
-        return False
+    def with_normal_arguments(self, atom):
+        """An atom, or TOP, with the normal forms of its arguments."""
+        for argument in self.sides.arguments[atom]:
+            self._find_form(argument)
+        return self._flat(atom)
 
-    def _normal(self, side):
-        # Rules can lead to the same second member again and again, so what was found once is kept.
-        passed = []
-        now, text = self._with_normal_arguments(side)
-        while text in self._seconds and text not in self._found:
-            passed.append(text)
-            now, text = self._with_normal_arguments(self._seconds[text])
-        result = self._found.get(text, (now, text))
-        for earlier in passed:
-            self._found[earlier] = result
-        return result
+    def _find_form(self, term):
+        """Finds the normal form of a term, and those of all terms that it leads to."""
+        due = [term]
+        while len(due) > 0:
+            missing = self._missing(due[-1])
+            if len(missing) == 0:
+                due.pop()
+            due.extend(missing)
 
-    def _with_normal_arguments(self, side):
-        """The side with the normal forms of its arguments, and a text of it."""
-        if len(side) == 1:
-            return side, side[0]
-        forms = []
-        texts = []
-        for argument in side[1:]:
-            form, text = self._normal(argument)
-            forms.append(form)
-            texts.append(text)
-        return side[:1] + tuple(forms), side[0] + "(" + ", ".join(texts) + ")"
+    def _missing(self, term):
+        """Terms whose normal forms must be found first. If there are none, that of the term is found."""
+        if term in self._forms:
+            return []
+        missing = [argument for argument in self.sides.arguments[term] if argument not in self._forms]
+        if len(missing) > 0:
+            return missing
+        flat = self._flat(term)
+        following = flat if flat != term else self.seconds.get(term, term)
+        if following != term and following not in self._forms:
+            return [following]
+        self._forms[term] = self._forms.get(following, term)
+        return []
+
+    def _flat(self, side):
+        """A side with the normal forms of its arguments, which were found."""
+        forms = [self._forms[argument] for argument in self.sides.arguments[side]]
+        return self.sides.applied(self.sides.names[side], tuple(forms))
 
 
 def _rewriter_of(rules):
-    rewriter = Rewriter()
+    rewriter = Rewriter(Sides())
     for first, second in rules:
-        rewriter = rewriter.with_rule(first, second)
+        number = rewriter.sides.number_of(first)
+        if number not in rewriter.seconds:
+            rewriter.put(number, rewriter.sides.number_of(second))
     return rewriter

@@ -1,6 +1,6 @@
 """Steps that make clauses from clauses."""
 
-from worldorpaper.clauses import fill_clause, make_clause, make_literal, opposite
+from worldorpaper.clauses import fill_clause, make_clause, make_literal, opposite, other_literals
 from worldorpaper.errors import BadPlace, BadStep
 from worldorpaper.terms import TOP, is_atom, is_plain, part_at, replace_at
 
@@ -24,7 +24,7 @@ def replace_step(first, index, side, second, target, place):
     if _part_of_literal(literal, place) != old:
         raise BadStep("the side does not stand at the place")
     sign, left, right = replace_at(literal, place, new)
-    rest = _without(first, index) + _without(second, target)
+    rest = other_literals(first, index) + other_literals(second, target)
     return make_clause(rest + [make_literal(sign, left, right)])
 
 
@@ -41,7 +41,7 @@ def factor_step(clause, index, side, target, target_side):
     target_shared, other = _sides_from(_positive_at(clause, target), target_side)
     if shared != target_shared:
         raise BadStep("the sides are not equal")
-    return make_clause(_without(clause, index) + [make_literal(False, one, other)])
+    return make_clause(other_literals(clause, index) + [make_literal(False, one, other)])
 
 
 def either_step(literal):
@@ -83,10 +83,6 @@ def _part_of_literal(literal, place):
         return part_at(literal, place)
     except BadPlace:
         raise BadStep("the place does not lie in the literal") from None
-
-
-def _without(clause, index):
-    return [literal for at, literal in enumerate(clause) if at != index]
 
 
 def _are_sides(left, right):

@@ -42,11 +42,11 @@ def clauses_true(world, clauses):
 def false_values(world, clause):
     """The first tuple of things at which no literal of the clause is true, or None."""
     unknowns = clause_unknowns(clause)
-    due = _literals_due(clause, unknowns)
+    due = literals_due(clause, unknowns)
     row = []
     while True:
         # A literal that is true for the first things is true whatever the further ones are.
-        if _some_true(world, due[len(row)], dict(zip(unknowns, row))):
+        if some_true(world, due[len(row)], dict(zip(unknowns, row))):
             while len(row) > 0 and row[-1] == world.size - 1:
                 row.pop()
             if len(row) == 0:
@@ -100,15 +100,16 @@ def _argument_values(world, term, values):
     return [term_value(world, argument, values) for argument in term[1:]]
 
 
-def _literals_due(clause, unknowns):
-    """For each number of unknowns from 0 on the literals that need just so many of the first unknowns."""
-    places = {name: place for place, name in enumerate(unknowns, start=1)}
+def literals_due(clause, unknowns, known=()):
+    """For each number of unknowns from 0 on the literals that need just so many of the first ones beside known ones."""
+    places = {name: place for place, name in enumerate(unknowns, start=1) if name not in known}
     due = [[] for _ in range(len(unknowns) + 1)]
     for literal in clause:
         names = unknowns_of(literal[1]) + unknowns_of(literal[2])
-        due[max([places[name] for name in names], default=0)].append(literal)
+        due[max([places.get(name, 0) for name in names], default=0)].append(literal)
     return due
 
 
-def _some_true(world, literals, values):
+def some_true(world, literals, values):
+    """Tells whether some of the literals is true at the values of its unknowns."""
     return any(literal_true(world, literal, values) for literal in literals)
