@@ -68,18 +68,18 @@ class RuleWorld:
         """Tells whether an atom whose arguments are names is true."""
         return self._rules.has_rule(atom)
 
-    def value(self, name, args):
+    def value(self, name, arguments):
         """The name of the thing that a function gives for things."""
         # What has no name as its form is the least thing.
-        return self._values.get(self.sides.found(name, tuple(args)), self.names[0])
+        return self._values.get(self.sides.found(name, tuple(arguments)), self.names[0])
 
     def applications(self, name):
         """The terms with names as arguments that have a name as their form."""
         return self._applications[name]
 
-    def holds(self, name, args):
+    def holds(self, name, arguments):
         """Tells whether a relation holds for things."""
-        number = self.sides.found(name, tuple(args))
+        number = self.sides.found(name, tuple(arguments))
         return number is not None and self.is_true(number)
 
     def as_world(self):
